@@ -7,22 +7,23 @@ import (
 	"telpher/api"
 	"telpher/dnf"
 	"telpher/typeterm"
+	. "telpher/typetest"
 )
 
 // goodBranches returns valid branches, some of them at the limits.
 func goodBranches() []api.Branch {
-	six := tuple()
+	six := Tuple()
 	for i := range 6 {
-		six.Args = append(six.Args, box(variable(i)))
+		six.Args = append(six.Args, Box(Variable(i)))
 	}
 	return []api.Branch{
-		branch(anyType()), branch(intType()), branch(tuple()), branch(nest(11, intType())), branch(tuple(anyType(), tuple(intType(), tuple()))),
-		branch(named("Map", ab(), exists(anyType(), tuple(variable(0))))), branch(box(tuple(ab(), never()))),
-		branch(box(variable(0)), anyType()), branch(box(box(variable(0))), never()), branch(tuple(variable(0), box(variable(0))), many(4)),
-		branch(named("Map", variable(0), exists(anyType(), box(variable(0)))), ab()), branch(named("Map", variable(0), box(variable(0))), box(many(33))),
-		branch(tuple(box(variable(0)), variable(1), box(variable(1))), anyType(), intType()), branch(tuple(variable(0), variable(1), named("Map", variable(1), variable(0))), ab(), boolType()),
-		branch(tuple(variable(0), tuple(variable(0), tuple(variable(1))), box(variable(0)), box(variable(1))), intType(), tuple(many(2), many(2))),
-		branch(six, anyType(), ab(), many(4), never(), exists(intType(), box(variable(0))), boxes(6, many(4))), branch(tuple(six, variable(0), variable(5), variable(0)), repeat(6, ab())...),
+		Branch(Any()), Branch(Int()), Branch(Tuple()), Branch(NestTuples(11, Int())), Branch(Tuple(Any(), Tuple(Int(), Tuple()))),
+		Branch(Named("Map", ab(), Exists(Any(), Tuple(Variable(0))))), Branch(Box(Tuple(ab(), Never()))),
+		Branch(Box(Variable(0)), Any()), Branch(Box(Box(Variable(0))), Never()), Branch(Tuple(Variable(0), Box(Variable(0))), many(4)),
+		Branch(Named("Map", Variable(0), Exists(Any(), Box(Variable(0)))), ab()), Branch(Named("Map", Variable(0), Box(Variable(0))), Box(many(33))),
+		Branch(Tuple(Box(Variable(0)), Variable(1), Box(Variable(1))), Any(), Int()), Branch(Tuple(Variable(0), Variable(1), Named("Map", Variable(1), Variable(0))), ab(), Bool()),
+		Branch(Tuple(Variable(0), Tuple(Variable(0), Tuple(Variable(1))), Box(Variable(0)), Box(Variable(1))), Int(), Tuple(many(2), many(2))),
+		Branch(six, Any(), ab(), many(4), Never(), Exists(Int(), Box(Variable(0))), boxes(6, many(4))), Branch(Tuple(six, Variable(0), Variable(5), Variable(0)), Repeat(6, ab())...),
 	}
 }
 
@@ -46,54 +47,54 @@ func expectNotValid(t *testing.T, l ...api.Branch) {
 
 // P4.1 and P4.3: bodies of other forms.
 func TestBodyNotValid(t *testing.T) {
-	for _, inner := range []api.Type{never(), ab(), exists(anyType(), box(variable(0))), exists(anyType(), anyType()), union(never(), never())} {
-		expectNotValid(t, branch(inner), branch(tuple(inner)), branch(tuple(intType(), tuple(inner, intType()))), branch(tuple(box(variable(0)), inner), anyType()))
+	for _, inner := range []api.Type{Never(), ab(), Exists(Any(), Box(Variable(0))), Exists(Any(), Any()), Union(Never(), Never())} {
+		expectNotValid(t, Branch(inner), Branch(Tuple(inner)), Branch(Tuple(Int(), Tuple(inner, Int()))), Branch(Tuple(Box(Variable(0)), inner), Any()))
 	}
-	expectNotValid(t, branch(variable(0)), branch(variable(0), anyType()), branch(box(tuple(variable(0))), anyType()), branch(box(union(variable(0), intType())), anyType()))
-	expectNotValid(t, branch(nest(12, intType())), branch(tuple(many(199))), branch(tuple(box(many(196)), intType(), intType())))
-	if !dnf.ValidBranch(branch(tuple(box(many(196)), intType()))) {
+	expectNotValid(t, Branch(Variable(0)), Branch(Variable(0), Any()), Branch(Box(Tuple(Variable(0))), Any()), Branch(Box(Union(Variable(0), Int())), Any()))
+	expectNotValid(t, Branch(NestTuples(12, Int())), Branch(Tuple(many(199))), Branch(Tuple(Box(many(196)), Int(), Int())))
+	if !dnf.ValidBranch(Branch(Tuple(Box(many(196)), Int()))) {
 		t.Error("a body may have MaxNodes nodes")
 	}
 	for _, x := range malformed() {
-		expectNotValid(t, branch(x), branch(tuple(x)), branch(tuple(x, box(variable(0))), anyType()))
+		expectNotValid(t, Branch(x), Branch(Tuple(x)), Branch(Tuple(x, Box(Variable(0))), Any()))
 	}
 }
 
 // P4.1 and P4.3: the numbers of variables, and variables without an invariant occurrence or a bound.
 func TestVariablesNotValid(t *testing.T) {
 	expectNotValid(t,
-		branch(box(variable(0))), branch(box(variable(1)), anyType()), branch(box(variable(-1)), anyType()), branch(intType(), anyType()), branch(box(variable(0)), anyType(), anyType()),
-		branch(tuple(variable(0)), anyType()), branch(tuple(variable(0), box(variable(0)), variable(1)), anyType(), anyType()), branch(tuple(variable(0), variable(1), box(variable(1))), anyType(), anyType()),
-		branch(box(variable(1)), anyType(), anyType()), branch(tuple(box(variable(1)), box(variable(0))), anyType(), anyType()), branch(tuple(variable(1), box(variable(0)), box(variable(1))), anyType(), anyType()),
-		branch(named("Map", variable(1), variable(0)), anyType(), anyType()), branch(tuple(box(variable(0)), box(variable(2)), box(variable(1))), anyType(), anyType(), anyType()),
-		branch(tuple(variable(0), box(exists(anyType(), box(variable(0))))), anyType()),
+		Branch(Box(Variable(0))), Branch(Box(Variable(1)), Any()), Branch(Box(Variable(-1)), Any()), Branch(Int(), Any()), Branch(Box(Variable(0)), Any(), Any()),
+		Branch(Tuple(Variable(0)), Any()), Branch(Tuple(Variable(0), Box(Variable(0)), Variable(1)), Any(), Any()), Branch(Tuple(Variable(0), Variable(1), Box(Variable(1))), Any(), Any()),
+		Branch(Box(Variable(1)), Any(), Any()), Branch(Tuple(Box(Variable(1)), Box(Variable(0))), Any(), Any()), Branch(Tuple(Variable(1), Box(Variable(0)), Box(Variable(1))), Any(), Any()),
+		Branch(Named("Map", Variable(1), Variable(0)), Any(), Any()), Branch(Tuple(Box(Variable(0)), Box(Variable(2)), Box(Variable(1))), Any(), Any(), Any()),
+		Branch(Tuple(Variable(0), Box(Exists(Any(), Box(Variable(0))))), Any()),
 	)
 }
 
 // P4.3: bounds that are not valid, not closed or beyond the limits.
 func TestBoundsNotValid(t *testing.T) {
 	for _, bound := range slices.Concat(malformed(), open(), []api.Type{
-		many(5), many(33), tuple(many(33), never()), exists(many(5), box(variable(0))), tuple(boxes(6, anyType()), boxes(1, anyType())),
-		exists(anyType(), tuple(box(variable(0)), variable(0), variable(0), tuple(variable(0), variable(0)))), exists(exists(many(5), box(variable(0))), box(variable(0))),
+		many(5), many(33), Tuple(many(33), Never()), Exists(many(5), Box(Variable(0))), Tuple(boxes(6, Any()), boxes(1, Any())),
+		Exists(Any(), Tuple(Box(Variable(0)), Variable(0), Variable(0), Tuple(Variable(0), Variable(0)))), Exists(Exists(many(5), Box(Variable(0))), Box(Variable(0))),
 	}) {
-		expectNotValid(t, branch(box(variable(0)), bound), branch(tuple(variable(0), box(variable(1)), box(variable(0))), anyType(), bound))
+		expectNotValid(t, Branch(Box(Variable(0)), bound), Branch(Tuple(Variable(0), Box(Variable(1)), Box(Variable(0))), Any(), bound))
 	}
 }
 
 // P4.3: the limits on the number of variables and of covariant occurrences.
 func TestCountsNotValid(t *testing.T) {
-	seven := tuple(named("Map", variable(0), variable(1)))
+	seven := Tuple(Named("Map", Variable(0), Variable(1)))
 	for i := 2; i < 7; i++ {
-		seven.Args = append(seven.Args, box(variable(i)))
+		seven.Args = append(seven.Args, Box(Variable(i)))
 	}
-	expectNotValid(t, branch(seven, repeat(7, anyType())...), branch(intType(), repeat(100000, anyType())...),
-		branch(tuple(box(variable(0)), variable(0), variable(0), tuple(variable(0), variable(0))), anyType()),
-		branch(tuple(variable(0), variable(1), variable(1), variable(0), named("Map", variable(0), variable(1))), anyType(), anyType()))
+	expectNotValid(t, Branch(seven, Repeat(7, Any())...), Branch(Int(), Repeat(100000, Any())...),
+		Branch(Tuple(Box(Variable(0)), Variable(0), Variable(0), Tuple(Variable(0), Variable(0))), Any()),
+		Branch(Tuple(Variable(0), Variable(1), Variable(1), Variable(0), Named("Map", Variable(0), Variable(1))), Any(), Any()))
 }
 
 // changes returns the terms that differ from t by another term in one place.
 func changes(t api.Type) []api.Type {
-	l := []api.Type{anyType(), never(), intType(), box(intType()), ab(), tuple(), variable(0), variable(1), variable(2), variable(-1), box(variable(0)), box(variable(1)), exists(anyType(), box(variable(0))), many(5), node(7), named("Never")}
+	l := []api.Type{Any(), Never(), Int(), Box(Int()), ab(), Tuple(), Variable(0), Variable(1), Variable(2), Variable(-1), Box(Variable(0)), Box(Variable(1)), Exists(Any(), Box(Variable(0))), many(5), Node(7), Named("Never")}
 	for i, arg := range t.Args {
 		for _, change := range changes(arg) {
 			changed := t
@@ -128,16 +129,16 @@ func TestChangedBranches(t *testing.T) {
 	}
 	for _, b := range goodBranches() {
 		for _, body := range changes(b.Body) {
-			expect(branch(body, b.Bounds...))
+			expect(Branch(body, b.Bounds...))
 		}
 		for i := range b.Bounds {
 			for _, bound := range changes(b.Bounds[i]) {
 				bounds := slices.Clone(b.Bounds)
 				bounds[i] = bound
-				expect(branch(b.Body, bounds...))
+				expect(Branch(b.Body, bounds...))
 			}
-			expect(branch(b.Body, slices.Delete(slices.Clone(b.Bounds), i, i+1)...))
-			expect(branch(b.Body, slices.Insert(slices.Clone(b.Bounds), i, anyType())...))
+			expect(Branch(b.Body, slices.Delete(slices.Clone(b.Bounds), i, i+1)...))
+			expect(Branch(b.Body, slices.Insert(slices.Clone(b.Bounds), i, Any())...))
 		}
 	}
 	if min(valid, invalid) < 100 {
@@ -147,26 +148,26 @@ func TestChangedBranches(t *testing.T) {
 
 func expectType(t *testing.T, call string, got, want api.Type) {
 	t.Helper()
-	if !same(got, want) {
+	if !Same(got, want) {
 		t.Errorf("%s = %v; want %v", call, got, want)
 	}
 }
 
 // P4.3: BranchType has a KindExists node for each variable, with variable 0 outermost.
 func TestBranchType(t *testing.T) {
-	inner := exists(ab(), tuple(variable(0), exists(anyType(), named("Map", variable(0), variable(1)))))
+	inner := Exists(ab(), Tuple(Variable(0), Exists(Any(), Named("Map", Variable(0), Variable(1)))))
 	for _, c := range []struct {
 		b    api.Branch
 		want api.Type
 	}{
-		{branch(anyType()), anyType()},
-		{branch(box(inner)), box(inner)},
-		{branch(tuple(intType(), tuple())), tuple(intType(), tuple())},
-		{branch(box(variable(0)), ab()), exists(ab(), box(variable(0)))},
-		{branch(tuple(variable(0), tuple(variable(0)), box(variable(0))), never()), exists(never(), tuple(variable(0), tuple(variable(0)), box(variable(0))))},
-		{branch(tuple(box(variable(0)), variable(1), box(variable(1))), anyType(), intType()), exists(anyType(), exists(intType(), tuple(box(variable(1)), variable(0), box(variable(0)))))},
-		{branch(named("Map", box(variable(0)), named("Map", variable(1), variable(2))), ab(), inner, intType()), exists(ab(), exists(inner, exists(intType(), named("Map", box(variable(2)), named("Map", variable(1), variable(0))))))},
-		{branch(named("Map", variable(0), named("Map", inner, variable(1))), anyType(), intType()), exists(anyType(), exists(intType(), named("Map", variable(1), named("Map", inner, variable(0)))))},
+		{Branch(Any()), Any()},
+		{Branch(Box(inner)), Box(inner)},
+		{Branch(Tuple(Int(), Tuple())), Tuple(Int(), Tuple())},
+		{Branch(Box(Variable(0)), ab()), Exists(ab(), Box(Variable(0)))},
+		{Branch(Tuple(Variable(0), Tuple(Variable(0)), Box(Variable(0))), Never()), Exists(Never(), Tuple(Variable(0), Tuple(Variable(0)), Box(Variable(0))))},
+		{Branch(Tuple(Box(Variable(0)), Variable(1), Box(Variable(1))), Any(), Int()), Exists(Any(), Exists(Int(), Tuple(Box(Variable(1)), Variable(0), Box(Variable(0)))))},
+		{Branch(Named("Map", Box(Variable(0)), Named("Map", Variable(1), Variable(2))), ab(), inner, Int()), Exists(ab(), Exists(inner, Exists(Int(), Named("Map", Box(Variable(2)), Named("Map", Variable(1), Variable(0))))))},
+		{Branch(Named("Map", Variable(0), Named("Map", inner, Variable(1))), Any(), Int()), Exists(Any(), Exists(Int(), Named("Map", Variable(1), Named("Map", inner, Variable(0)))))},
 	} {
 		expectType(t, "BranchType", dnf.BranchType(c.b), c.want)
 	}
@@ -174,14 +175,14 @@ func TestBranchType(t *testing.T) {
 
 // P4.3: UnionOf of no, one and several branches.
 func TestUnionOf(t *testing.T) {
-	b := branch(tuple(box(variable(0)), box(variable(1))), anyType(), intType())
-	expectType(t, "UnionOf(nil)", dnf.UnionOf(nil), never())
-	expectType(t, "UnionOf of no branches", dnf.UnionOf([]api.Branch{}), never())
+	b := Branch(Tuple(Box(Variable(0)), Box(Variable(1))), Any(), Int())
+	expectType(t, "UnionOf(nil)", dnf.UnionOf(nil), Never())
+	expectType(t, "UnionOf of no branches", dnf.UnionOf([]api.Branch{}), Never())
 	expectType(t, "UnionOf of one branch", dnf.UnionOf([]api.Branch{b}), dnf.BranchType(b))
-	expectType(t, "UnionOf of equal branches", dnf.UnionOf(plainBranches(intType(), intType())), union(intType(), intType()))
-	expectType(t, "UnionOf of several branches", dnf.UnionOf([]api.Branch{branch(intType()), b, branch(anyType())}), union(intType(), dnf.BranchType(b), anyType()))
+	expectType(t, "UnionOf of equal branches", dnf.UnionOf(plainBranches(Int(), Int())), Union(Int(), Int()))
+	expectType(t, "UnionOf of several branches", dnf.UnionOf([]api.Branch{Branch(Int()), b, Branch(Any())}), Union(Int(), dnf.BranchType(b), Any()))
 	long := slices.Repeat([]api.Branch{b}, 1000)
-	if u := dnf.UnionOf(long); u.Kind != api.KindUnion || len(u.Args) != 1000 || !same(u.Args[999], dnf.BranchType(b)) {
+	if u := dnf.UnionOf(long); u.Kind != api.KindUnion || len(u.Args) != 1000 || !Same(u.Args[999], dnf.BranchType(b)) {
 		t.Error("UnionOf of many branches")
 	}
 }

@@ -7,61 +7,26 @@ import (
 
 	"telpher/api"
 	"telpher/dnf"
+	. "telpher/typetest"
 )
 
-func named(name string, args ...api.Type) api.Type {
-	return api.Type{Kind: api.KindNamed, Name: name, Args: args}
-}
-
-func tuple(args ...api.Type) api.Type { return node(api.KindTuple, args...) }
-
-func union(args ...api.Type) api.Type { return node(api.KindUnion, args...) }
-
-func exists(bound, body api.Type) api.Type { return node(api.KindExists, bound, body) }
-
-func variable(index int) api.Type { return api.Type{Kind: api.KindVar, Index: index} }
-
-// node returns a node of any kind, which may be malformed.
-func node(kind int, args ...api.Type) api.Type { return api.Type{Kind: kind, Args: args} }
-
-func anyType() api.Type { return api.Type{} }
-
-func never() api.Type { return node(api.KindNever) }
-
-func intType() api.Type { return named("Int") }
-
-func boolType() api.Type { return named("Bool") }
-
-func box(t api.Type) api.Type { return named("Box", t) }
-
 // ab returns a type with the two branches A and B.
-func ab() api.Type { return union(named("A"), named("B")) }
-
-// repeat returns so many copies of t.
-func repeat(count int, t api.Type) []api.Type { return slices.Repeat([]api.Type{t}, count) }
-
-// nest puts t into so many tuples, one in another.
-func nest(levels int, t api.Type) api.Type {
-	for range levels {
-		t = tuple(t)
-	}
-	return t
-}
+func ab() api.Type { return Union(Named("A"), Named("B")) }
 
 // many returns a union of so many nominal types N0, N1 and so on.
 func many(count int) api.Type {
-	u := union()
+	u := Union()
 	for i := range count {
-		u.Args = append(u.Args, named(fmt.Sprintf("N%d", i)))
+		u.Args = append(u.Args, Named(fmt.Sprintf("N%d", i)))
 	}
 	return u
 }
 
 // boxes returns a tuple of so many boxes, each of a variable of its own with the bound.
 func boxes(count int, bound api.Type) api.Type {
-	t := tuple()
+	t := Tuple()
 	for range count {
-		t.Args = append(t.Args, exists(bound, box(variable(0))))
+		t.Args = append(t.Args, Exists(bound, Box(Variable(0))))
 	}
 	return t
 }
@@ -70,31 +35,22 @@ func boxes(count int, bound api.Type) api.Type {
 // before: its only branch has 6 to the power of levels copies of t.
 func sixfold(levels int, t api.Type) api.Type {
 	for range levels {
-		t = exists(t, tuple(repeat(6, variable(0))...))
+		t = Exists(t, Tuple(Repeat(6, Variable(0))...))
 	}
 	return t
-}
-
-func branch(body api.Type, bounds ...api.Type) api.Branch {
-	return api.Branch{Bounds: bounds, Body: body}
 }
 
 // plainBranches returns a branch without variables for each body.
 func plainBranches(bodies ...api.Type) []api.Branch {
 	var l []api.Branch
 	for _, body := range bodies {
-		l = append(l, branch(body))
+		l = append(l, Branch(body))
 	}
 	return l
 }
 
-// same compares terms in all fields. It does not rely on typeterm.Equal.
-func same(a, b api.Type) bool {
-	return a.Kind == b.Kind && a.Name == b.Name && a.Index == b.Index && slices.EqualFunc(a.Args, b.Args, same)
-}
-
 func sameBranch(a, b api.Branch) bool {
-	return same(a.Body, b.Body) && slices.EqualFunc(a.Bounds, b.Bounds, same)
+	return Same(a.Body, b.Body) && slices.EqualFunc(a.Bounds, b.Bounds, Same)
 }
 
 func sameBranches(a, b []api.Branch) bool { return slices.EqualFunc(a, b, sameBranch) }
@@ -135,35 +91,35 @@ func expectError(t *testing.T, term api.Type, want api.Errno) {
 // malformed returns terms that are not valid.
 func malformed() []api.Type {
 	return []api.Type{
-		node(-1), node(7), node(9, intType()), {Name: "Int"}, {Index: 1}, node(api.KindAny, intType()), node(api.KindNever, intType()),
-		{Kind: api.KindNamed}, {Kind: api.KindNamed, Name: "Int", Index: 1}, named("1"), named("Any"), named("tuple", intType()),
-		box(union(variable(0), intType())), box(tuple(variable(0))), exists(anyType(), box(tuple(variable(0)))), exists(anyType(), box(exists(anyType(), variable(1)))),
-		named("Box", repeat(7, intType())...), tuple(repeat(7, intType())...), {Kind: api.KindTuple, Name: "Int"},
-		node(api.KindUnion), union(intType()), union(never()), node(api.KindExists), node(api.KindExists, intType()), node(api.KindExists, anyType(), anyType(), anyType()),
-		exists(variable(0), intType()), exists(anyType(), exists(variable(0), intType())), exists(anyType(), node(8)), exists(node(8), anyType()),
-		variable(-1), exists(anyType(), variable(-1)), exists(anyType(), box(variable(-1))), variable(201), {Kind: api.KindVar, Name: "Int"}, node(api.KindVar, intType()), exists(anyType(), node(api.KindVar, intType())),
-		nest(12, intType()), union(repeat(200, intType())...), tuple(never(), node(-5)), union(intType(), tuple(named("Never"))),
+		Node(-1), Node(7), Node(9, Int()), {Name: "Int"}, {Index: 1}, Node(api.KindAny, Int()), Node(api.KindNever, Int()),
+		{Kind: api.KindNamed}, {Kind: api.KindNamed, Name: "Int", Index: 1}, Named("1"), Named("Any"), Named("tuple", Int()),
+		Box(Union(Variable(0), Int())), Box(Tuple(Variable(0))), Exists(Any(), Box(Tuple(Variable(0)))), Exists(Any(), Box(Exists(Any(), Variable(1)))),
+		Named("Box", Repeat(7, Int())...), Tuple(Repeat(7, Int())...), {Kind: api.KindTuple, Name: "Int"},
+		Node(api.KindUnion), Union(Int()), Union(Never()), Node(api.KindExists), Node(api.KindExists, Int()), Node(api.KindExists, Any(), Any(), Any()),
+		Exists(Variable(0), Int()), Exists(Any(), Exists(Variable(0), Int())), Exists(Any(), Node(8)), Exists(Node(8), Any()),
+		Variable(-1), Exists(Any(), Variable(-1)), Exists(Any(), Box(Variable(-1))), Variable(201), {Kind: api.KindVar, Name: "Int"}, Node(api.KindVar, Int()), Exists(Any(), Node(api.KindVar, Int())),
+		NestTuples(12, Int()), Union(Repeat(200, Int())...), Tuple(Never(), Node(-5)), Union(Int(), Tuple(Named("Never"))),
 	}
 }
 
 // open returns valid terms that are not closed.
 func open() []api.Type {
 	return []api.Type{
-		variable(0), variable(3), box(variable(0)), tuple(intType(), variable(0)), tuple(never(), variable(0)), union(intType(), variable(0)),
-		exists(anyType(), variable(1)), exists(anyType(), tuple(variable(0), box(variable(1)))), exists(never(), tuple(exists(anyType(), variable(2)))),
+		Variable(0), Variable(3), Box(Variable(0)), Tuple(Int(), Variable(0)), Tuple(Never(), Variable(0)), Union(Int(), Variable(0)),
+		Exists(Any(), Variable(1)), Exists(Any(), Tuple(Variable(0), Box(Variable(1)))), Exists(Never(), Tuple(Exists(Any(), Variable(2)))),
 	}
 }
 
 // oddBranches returns branches that are not valid.
 func oddBranches() []api.Branch {
 	l := []api.Branch{
-		branch(never()), branch(ab()), branch(variable(0)), branch(variable(0), anyType()), branch(tuple(variable(0)), ab()), branch(tuple(variable(-1), variable(5)), intType()),
-		branch(box(variable(3)), intType(), boolType()), branch(intType(), repeat(9, variable(0))...), branch(tuple(variable(1), variable(0)), variable(0), node(9)),
-		branch(tuple(variable(0), variable(0)), exists(variable(7), variable(0)), node(api.KindExists)), branch(tuple(variable(0)), tuple(repeat(40, ab())...)),
-		branch(tuple(repeat(60, variable(0))...), ab()), branch(exists(anyType(), box(variable(0))), anyType()), branch(tuple(box(tuple(variable(0))), variable(0)), union()),
+		Branch(Never()), Branch(ab()), Branch(Variable(0)), Branch(Variable(0), Any()), Branch(Tuple(Variable(0)), ab()), Branch(Tuple(Variable(-1), Variable(5)), Int()),
+		Branch(Box(Variable(3)), Int(), Bool()), Branch(Int(), Repeat(9, Variable(0))...), Branch(Tuple(Variable(1), Variable(0)), Variable(0), Node(9)),
+		Branch(Tuple(Variable(0), Variable(0)), Exists(Variable(7), Variable(0)), Node(api.KindExists)), Branch(Tuple(Variable(0)), Tuple(Repeat(40, ab())...)),
+		Branch(Tuple(Repeat(60, Variable(0))...), ab()), Branch(Exists(Any(), Box(Variable(0))), Any()), Branch(Tuple(Box(Tuple(Variable(0))), Variable(0)), Union()),
 	}
 	for _, x := range slices.Concat(malformed(), open()) {
-		l = append(l, branch(x), branch(tuple(x, variable(0), box(variable(0))), x), branch(box(x), x, x))
+		l = append(l, Branch(x), Branch(Tuple(x, Variable(0), Box(Variable(0))), x), Branch(Box(x), x, x))
 	}
 	return l
 }

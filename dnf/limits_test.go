@@ -5,23 +5,24 @@ import (
 
 	"telpher/api"
 	"telpher/dnf"
+	. "telpher/typetest"
 )
 
 // P4.2: at most MaxBranches branches of a term and of each part of it.
 func TestMaxBranches(t *testing.T) {
 	for _, x := range []api.Type{
-		many(32), union(many(16), many(16)), tuple(many(8), many(4)), tuple(many(2), many(2), many(2), many(2), many(2)), tuple(many(32), tuple(tuple())),
-		exists(many(32), variable(0)), exists(many(2), tuple(variable(0), variable(0), variable(0), variable(0), variable(0))), exists(many(16), union(tuple(variable(0)), variable(0))),
-		tuple(many(32), many(32), never()), tuple(tuple(many(32), never()), many(32)), union(tuple(many(32), many(32), never()), many(32)),
-		exists(never(), tuple(many(32), variable(0))), exists(many(32), exists(never(), tuple(variable(0), variable(0), variable(1)))),
+		many(32), Union(many(16), many(16)), Tuple(many(8), many(4)), Tuple(many(2), many(2), many(2), many(2), many(2)), Tuple(many(32), Tuple(Tuple())),
+		Exists(many(32), Variable(0)), Exists(many(2), Tuple(Variable(0), Variable(0), Variable(0), Variable(0), Variable(0))), Exists(many(16), Union(Tuple(Variable(0)), Variable(0))),
+		Tuple(many(32), many(32), Never()), Tuple(Tuple(many(32), Never()), many(32)), Union(Tuple(many(32), many(32), Never()), many(32)),
+		Exists(Never(), Tuple(many(32), Variable(0))), Exists(many(32), Exists(Never(), Tuple(Variable(0), Variable(0), Variable(1)))),
 	} {
 		expectError(t, x, api.OK)
 	}
 	for _, x := range []api.Type{
-		many(33), union(many(16), many(17)), union(many(32), union(never(), intType())), tuple(many(11), many(3)), tuple(many(2), many(2), many(2), many(2), many(2), many(2)),
-		exists(many(33), variable(0)), exists(many(6), tuple(variable(0), variable(0))), exists(many(16), union(tuple(variable(0)), variable(0), intType())),
-		tuple(never(), many(33)), tuple(many(33), never()), tuple(tuple(many(11), many(3)), never()), tuple(never(), exists(many(33), variable(0))), tuple(union(never(), many(33)), never()),
-		exists(never(), tuple(variable(0), many(33))), exists(never(), tuple(many(11), many(3), variable(0))), exists(never(), exists(many(33), tuple(variable(0), variable(1)))),
+		many(33), Union(many(16), many(17)), Union(many(32), Union(Never(), Int())), Tuple(many(11), many(3)), Tuple(many(2), many(2), many(2), many(2), many(2), many(2)),
+		Exists(many(33), Variable(0)), Exists(many(6), Tuple(Variable(0), Variable(0))), Exists(many(16), Union(Tuple(Variable(0)), Variable(0), Int())),
+		Tuple(Never(), many(33)), Tuple(many(33), Never()), Tuple(Tuple(many(11), many(3)), Never()), Tuple(Never(), Exists(many(33), Variable(0))), Tuple(Union(Never(), many(33)), Never()),
+		Exists(Never(), Tuple(Variable(0), many(33))), Exists(Never(), Tuple(many(11), many(3), Variable(0))), Exists(Never(), Exists(many(33), Tuple(Variable(0), Variable(1)))),
 	} {
 		expectError(t, x, api.ErrTooLong)
 	}
@@ -30,15 +31,15 @@ func TestMaxBranches(t *testing.T) {
 // P4.2: arguments do not count, and a bound counts only if its branches are put in.
 func TestMaxBranchesInside(t *testing.T) {
 	for _, x := range []api.Type{
-		box(many(33)), tuple(box(tuple(many(11), many(3)))), box(box(exists(many(33), variable(0)))),
-		exists(many(33), intType()), exists(many(33), never()), exists(many(33), tuple(variable(0), never())), exists(tuple(many(33), never()), intType()),
-		exists(many(33), exists(never(), tuple(variable(0), variable(1)))), exists(exists(many(33), variable(0)), intType()), exists(exists(many(33), intType()), variable(0)),
+		Box(many(33)), Tuple(Box(Tuple(many(11), many(3)))), Box(Box(Exists(many(33), Variable(0)))),
+		Exists(many(33), Int()), Exists(many(33), Never()), Exists(many(33), Tuple(Variable(0), Never())), Exists(Tuple(many(33), Never()), Int()),
+		Exists(many(33), Exists(Never(), Tuple(Variable(0), Variable(1)))), Exists(Exists(many(33), Variable(0)), Int()), Exists(Exists(many(33), Int()), Variable(0)),
 	} {
 		expectError(t, x, api.OK)
 	}
 	for _, x := range []api.Type{
-		exists(tuple(many(33), never()), variable(0)), exists(tuple(never(), many(33)), union(intType(), variable(0))), exists(exists(many(33), variable(0)), variable(0)),
-		exists(tuple(tuple(many(11), many(3)), never()), tuple(variable(0))), exists(exists(many(6), tuple(variable(0), variable(0))), variable(0)),
+		Exists(Tuple(many(33), Never()), Variable(0)), Exists(Tuple(Never(), many(33)), Union(Int(), Variable(0))), Exists(Exists(many(33), Variable(0)), Variable(0)),
+		Exists(Tuple(Tuple(many(11), many(3)), Never()), Tuple(Variable(0))), Exists(Exists(many(6), Tuple(Variable(0), Variable(0))), Variable(0)),
 	} {
 		expectError(t, x, api.ErrTooLong)
 	}
@@ -47,16 +48,16 @@ func TestMaxBranchesInside(t *testing.T) {
 // P4.2: at most MaxVars variables of a branch.
 func TestMaxVars(t *testing.T) {
 	for _, x := range []api.Type{
-		boxes(6, anyType()), tuple(boxes(2, anyType()), boxes(4, ab())), tuple(boxes(6, anyType()), box(intType())), union(boxes(6, anyType()), boxes(6, intType())),
-		tuple(boxes(6, anyType()), exists(intType(), variable(0))), tuple(boxes(4, anyType()), boxes(3, anyType()), never()), box(exists(boxes(6, anyType()), tuple(variable(0), variable(0)))),
-		exists(boxes(3, anyType()), tuple(variable(0), variable(0))), exists(exists(intType(), box(variable(0))), tuple(repeat(6, variable(0))...)), exists(tuple(boxes(6, anyType()), boxes(1, anyType())), intType()),
+		boxes(6, Any()), Tuple(boxes(2, Any()), boxes(4, ab())), Tuple(boxes(6, Any()), Box(Int())), Union(boxes(6, Any()), boxes(6, Int())),
+		Tuple(boxes(6, Any()), Exists(Int(), Variable(0))), Tuple(boxes(4, Any()), boxes(3, Any()), Never()), Box(Exists(boxes(6, Any()), Tuple(Variable(0), Variable(0)))),
+		Exists(boxes(3, Any()), Tuple(Variable(0), Variable(0))), Exists(Exists(Int(), Box(Variable(0))), Tuple(Repeat(6, Variable(0))...)), Exists(Tuple(boxes(6, Any()), boxes(1, Any())), Int()),
 	} {
 		expectError(t, x, api.OK)
 	}
 	for _, x := range []api.Type{
-		tuple(boxes(6, anyType()), boxes(1, anyType())), tuple(boxes(4, anyType()), boxes(3, anyType())), union(intType(), tuple(boxes(4, anyType()), boxes(3, anyType())), boolType()),
-		exists(boxes(4, anyType()), tuple(variable(0), variable(0))), exists(exists(intType(), box(variable(0))), tuple(variable(0), tuple(repeat(6, variable(0))...))),
-		exists(tuple(boxes(6, anyType()), boxes(1, anyType())), variable(0)),
+		Tuple(boxes(6, Any()), boxes(1, Any())), Tuple(boxes(4, Any()), boxes(3, Any())), Union(Int(), Tuple(boxes(4, Any()), boxes(3, Any())), Bool()),
+		Exists(boxes(4, Any()), Tuple(Variable(0), Variable(0))), Exists(Exists(Int(), Box(Variable(0))), Tuple(Variable(0), Tuple(Repeat(6, Variable(0))...))),
+		Exists(Tuple(boxes(6, Any()), boxes(1, Any())), Variable(0)),
 	} {
 		expectError(t, x, api.ErrTooLong)
 	}
@@ -64,18 +65,18 @@ func TestMaxVars(t *testing.T) {
 
 // P4.2: at most MaxCovariant covariant occurrences of all variables of a branch together.
 func TestMaxCovariant(t *testing.T) {
-	twice := exists(intType(), tuple(variable(0), box(variable(0)), variable(0)))
-	once := exists(intType(), tuple(variable(0), box(variable(0))))
+	twice := Exists(Int(), Tuple(Variable(0), Box(Variable(0)), Variable(0)))
+	once := Exists(Int(), Tuple(Variable(0), Box(Variable(0))))
 	for _, x := range []api.Type{
-		exists(anyType(), tuple(box(variable(0)), variable(0), tuple(variable(0), variable(0)))), tuple(twice, once), tuple(once, once, once), exists(once, tuple(variable(0), variable(0), variable(0))),
-		exists(anyType(), tuple(variable(0), variable(0), variable(0), variable(0))), tuple(twice, exists(ab(), tuple(variable(0), variable(0)))), union(tuple(twice, once), tuple(once, twice)), tuple(twice, twice, never()),
-		exists(intType(), tuple(named("Map", variable(0), box(variable(0))), box(variable(0)), box(variable(0)), box(variable(0)))),
+		Exists(Any(), Tuple(Box(Variable(0)), Variable(0), Tuple(Variable(0), Variable(0)))), Tuple(twice, once), Tuple(once, once, once), Exists(once, Tuple(Variable(0), Variable(0), Variable(0))),
+		Exists(Any(), Tuple(Variable(0), Variable(0), Variable(0), Variable(0))), Tuple(twice, Exists(ab(), Tuple(Variable(0), Variable(0)))), Union(Tuple(twice, once), Tuple(once, twice)), Tuple(twice, twice, Never()),
+		Exists(Int(), Tuple(Named("Map", Variable(0), Box(Variable(0))), Box(Variable(0)), Box(Variable(0)), Box(Variable(0)))),
 	} {
 		expectError(t, x, api.OK)
 	}
 	for _, x := range []api.Type{
-		exists(anyType(), tuple(box(variable(0)), variable(0), variable(0), tuple(variable(0), variable(0)))), tuple(twice, twice), tuple(once, twice, once), exists(once, tuple(variable(0), variable(0), variable(0), variable(0))),
-		exists(twice, tuple(variable(0), variable(0))), union(tuple(twice, once), tuple(twice, once, once)),
+		Exists(Any(), Tuple(Box(Variable(0)), Variable(0), Variable(0), Tuple(Variable(0), Variable(0)))), Tuple(twice, twice), Tuple(once, twice, once), Exists(once, Tuple(Variable(0), Variable(0), Variable(0), Variable(0))),
+		Exists(twice, Tuple(Variable(0), Variable(0))), Union(Tuple(twice, once), Tuple(twice, once, once)),
 	} {
 		expectError(t, x, api.ErrTooLong)
 	}
@@ -83,70 +84,70 @@ func TestMaxCovariant(t *testing.T) {
 
 // P4.2: the bound of a variable that remains has at most MaxBound branches, and Expand does not fail for it.
 func TestMaxBound(t *testing.T) {
-	seven := tuple(boxes(6, anyType()), boxes(1, anyType()))
-	four := exists(anyType(), tuple(box(variable(0)), variable(0), variable(0), tuple(variable(0), variable(0))))
+	seven := Tuple(boxes(6, Any()), boxes(1, Any()))
+	four := Exists(Any(), Tuple(Box(Variable(0)), Variable(0), Variable(0), Tuple(Variable(0), Variable(0))))
 	for _, bound := range []api.Type{
-		never(), many(4), tuple(many(2), many(2)), tuple(many(32), many(32), never()), exists(many(2), tuple(variable(0), variable(0))), exists(many(4), box(variable(0))), boxes(6, many(4)), exists(many(33), intType()), box(many(33)), box(seven),
-		exists(exists(many(4), box(variable(0))), box(variable(0))),
+		Never(), many(4), Tuple(many(2), many(2)), Tuple(many(32), many(32), Never()), Exists(many(2), Tuple(Variable(0), Variable(0))), Exists(many(4), Box(Variable(0))), boxes(6, many(4)), Exists(many(33), Int()), Box(many(33)), Box(seven),
+		Exists(Exists(many(4), Box(Variable(0))), Box(Variable(0))),
 	} {
-		expectExpand(t, exists(bound, box(variable(0))), branch(box(variable(0)), bound))
-		expectExpand(t, exists(bound, tuple(variable(0), box(variable(0)))), branch(tuple(variable(0), box(variable(0))), bound))
+		expectExpand(t, Exists(bound, Box(Variable(0))), Branch(Box(Variable(0)), bound))
+		expectExpand(t, Exists(bound, Tuple(Variable(0), Box(Variable(0)))), Branch(Tuple(Variable(0), Box(Variable(0))), bound))
 	}
 	for _, bound := range []api.Type{
-		many(5), many(33), tuple(many(2), many(3)), tuple(many(33), never()), exists(many(3), tuple(variable(0), variable(0))), exists(many(5), variable(0)), exists(many(5), box(variable(0))),
-		seven, four, tuple(never(), exists(many(33), variable(0))), exists(exists(many(5), box(variable(0))), box(variable(0))), exists(seven, box(variable(0))), exists(four, variable(0)), union(intType(), seven),
-		exists(exists(exists(many(5), box(variable(0))), box(variable(0))), box(variable(0))),
+		many(5), many(33), Tuple(many(2), many(3)), Tuple(many(33), Never()), Exists(many(3), Tuple(Variable(0), Variable(0))), Exists(many(5), Variable(0)), Exists(many(5), Box(Variable(0))),
+		seven, four, Tuple(Never(), Exists(many(33), Variable(0))), Exists(Exists(many(5), Box(Variable(0))), Box(Variable(0))), Exists(seven, Box(Variable(0))), Exists(four, Variable(0)), Union(Int(), seven),
+		Exists(Exists(Exists(many(5), Box(Variable(0))), Box(Variable(0))), Box(Variable(0))),
 	} {
-		expectError(t, exists(bound, box(variable(0))), api.ErrTooLong)
-		expectError(t, union(intType(), exists(bound, tuple(variable(0), box(variable(0))))), api.ErrTooLong)
-		expectError(t, tuple(exists(bound, box(variable(0))), exists(bound, intType()), never()), api.OK)
-		expectError(t, exists(exists(bound, box(variable(0))), intType()), api.OK)
-		expectError(t, exists(exists(bound, box(variable(0))), variable(0)), api.ErrTooLong)
-		expectError(t, exists(bound, intType()), api.OK)
+		expectError(t, Exists(bound, Box(Variable(0))), api.ErrTooLong)
+		expectError(t, Union(Int(), Exists(bound, Tuple(Variable(0), Box(Variable(0))))), api.ErrTooLong)
+		expectError(t, Tuple(Exists(bound, Box(Variable(0))), Exists(bound, Int()), Never()), api.OK)
+		expectError(t, Exists(Exists(bound, Box(Variable(0))), Int()), api.OK)
+		expectError(t, Exists(Exists(bound, Box(Variable(0))), Variable(0)), api.ErrTooLong)
+		expectError(t, Exists(bound, Int()), api.OK)
 	}
 	// A dropped variable may have more branches than MaxBound.
-	expectExpand(t, exists(many(5), variable(0)), plainBranches(many(5).Args...)...)
+	expectExpand(t, Exists(many(5), Variable(0)), plainBranches(many(5).Args...)...)
 }
 
 // P4.2: a variable of a bound has a bound itself.
 func TestBoundsInBounds(t *testing.T) {
-	x := anyType()
+	x := Any()
 	for range 8 {
 		bound := x
-		x = exists(bound, union(box(variable(0)), tuple(variable(0), box(variable(0)))))
-		expectExpand(t, x, branch(box(variable(0)), bound), branch(tuple(variable(0), box(variable(0))), bound))
+		x = Exists(bound, Union(Box(Variable(0)), Tuple(Variable(0), Box(Variable(0)))))
+		expectExpand(t, x, Branch(Box(Variable(0)), bound), Branch(Tuple(Variable(0), Box(Variable(0))), bound))
 	}
 }
 
 // P4.2 and rule 9: no memory is needed for branches that do not remain or are rejected, however large they are.
 func TestHugeBranches(t *testing.T) {
-	huge := sixfold(9, exists(intType(), variable(0)))
-	expectExpand(t, tuple(huge, never()))
-	expectExpand(t, exists(huge, tuple(variable(0), never())))
-	expectExpand(t, exists(never(), tuple(sixfold(8, intType()), variable(0))))
-	expectExpand(t, exists(huge, intType()), branch(intType()))
-	expectExpand(t, exists(huge, box(variable(0))), branch(box(variable(0)), huge))
-	expectError(t, tuple(huge, many(33)), api.ErrTooLong)
-	expectError(t, tuple(huge, boxes(1, many(5))), api.ErrTooLong)
-	expectError(t, sixfold(9, exists(intType(), box(variable(0)))), api.ErrTooLong)
-	expectError(t, exists(sixfold(9, many(2)), box(variable(0))), api.ErrTooLong)
-	if !dnf.ValidBranch(branch(box(variable(0)), huge)) {
+	huge := sixfold(9, Exists(Int(), Variable(0)))
+	expectExpand(t, Tuple(huge, Never()))
+	expectExpand(t, Exists(huge, Tuple(Variable(0), Never())))
+	expectExpand(t, Exists(Never(), Tuple(sixfold(8, Int()), Variable(0))))
+	expectExpand(t, Exists(huge, Int()), Branch(Int()))
+	expectExpand(t, Exists(huge, Box(Variable(0))), Branch(Box(Variable(0)), huge))
+	expectError(t, Tuple(huge, many(33)), api.ErrTooLong)
+	expectError(t, Tuple(huge, boxes(1, many(5))), api.ErrTooLong)
+	expectError(t, sixfold(9, Exists(Int(), Box(Variable(0)))), api.ErrTooLong)
+	expectError(t, Exists(sixfold(9, many(2)), Box(Variable(0))), api.ErrTooLong)
+	if !dnf.ValidBranch(Branch(Box(Variable(0)), huge)) {
 		t.Error("the branches of a bound are large, but few")
 	}
 }
 
 // Rule 9 promises nothing for answers of more than 2^31 - 1 bytes, but Expand does not run out of memory either.
 func TestEndlessBranches(t *testing.T) {
-	expectError(t, sixfold(10, intType()), api.ErrTooLong)
-	expectError(t, sixfold(10, exists(intType(), variable(0))), api.ErrTooLong)
+	expectError(t, sixfold(10, Int()), api.ErrTooLong)
+	expectError(t, sixfold(10, Exists(Int(), Variable(0))), api.ErrTooLong)
 }
 
 // P4.2: the body of a branch may be larger than a term.
 func TestLargeBranches(t *testing.T) {
-	written := intType()
+	written := Int()
 	for range 5 {
-		written = tuple(repeat(6, written)...)
+		written = Tuple(Repeat(6, written)...)
 	}
-	expectExpand(t, sixfold(5, intType()), branch(written))
-	expectExpand(t, tuple(boxes(1, ab()), sixfold(5, intType())), branch(tuple(tuple(box(variable(0))), written), ab()))
+	expectExpand(t, sixfold(5, Int()), Branch(written))
+	expectExpand(t, Tuple(boxes(1, ab()), sixfold(5, Int())), Branch(Tuple(Tuple(Box(Variable(0))), written), ab()))
 }

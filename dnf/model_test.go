@@ -8,6 +8,7 @@ import (
 	"telpher/api"
 	"telpher/dnf"
 	"telpher/typeterm"
+	. "telpher/typetest"
 )
 
 // model follows P4.2 to the letter: it writes out every branch at every step. Variable i of its
@@ -76,7 +77,7 @@ func (m *model) expand(t api.Type, scope []int) []api.Type {
 // tuplesOf returns the tuples of the elements and of one member of each list.
 func tuplesOf(elements []api.Type, lists [][]api.Type) []api.Type {
 	if len(lists) == 0 {
-		return []api.Type{tuple(elements...)}
+		return []api.Type{Tuple(elements...)}
 	}
 	var l []api.Type
 	for _, next := range lists[0] {
@@ -114,7 +115,7 @@ func (m *model) number(body api.Type) api.Branch {
 			met = append(met, o.index)
 		}
 	}
-	b := branch(rename(body, func(i int) int { return slices.Index(met, i) }))
+	b := Branch(rename(body, func(i int) int { return slices.Index(met, i) }))
 	for _, v := range met {
 		b.Bounds = append(b.Bounds, m.bounds[v])
 	}
@@ -160,7 +161,7 @@ func putAt(t api.Type, at int, by api.Type) api.Type {
 
 func rename(t api.Type, number func(int) int) api.Type {
 	for at, o := range occurrences(t, true) {
-		t = putAt(t, at, variable(number(o.index)))
+		t = putAt(t, at, Variable(number(o.index)))
 	}
 	return t
 }
@@ -175,19 +176,19 @@ func (g generator) term(levels, vars int) api.Type {
 	choice := g.IntN(40)
 	switch {
 	case vars > 0 && choice < 12:
-		return variable(g.IntN(vars))
+		return Variable(g.IntN(vars))
 	case levels == 0 || choice < 15:
 		return g.plain(2, vars)
 	case choice < 17:
-		return []api.Type{anyType(), never()}[g.IntN(2)]
+		return []api.Type{Any(), Never()}[g.IntN(2)]
 	case choice < 18:
 		return many(2 + g.IntN(6))
 	case choice < 28:
-		return tuple(g.terms(g.IntN(4), levels-1, vars)...)
+		return Tuple(g.terms(g.IntN(4), levels-1, vars)...)
 	case choice < 32:
-		return union(g.terms(2+g.IntN(2), levels-1, vars)...)
+		return Union(g.terms(2+g.IntN(2), levels-1, vars)...)
 	}
-	return exists(g.term(min(levels-1, 2), 0), g.term(levels-1, vars+1))
+	return Exists(g.term(min(levels-1, 2), 0), g.term(levels-1, vars+1))
 }
 
 func (g generator) terms(count, levels, vars int) []api.Type {
@@ -202,13 +203,13 @@ func (g generator) terms(count, levels, vars int) []api.Type {
 func (g generator) plain(levels, vars int) api.Type {
 	switch choice := g.IntN(8); {
 	case vars > 0 && choice < 5:
-		return box(variable(g.IntN(vars)))
+		return Box(Variable(g.IntN(vars)))
 	case levels == 0 || choice < 6:
-		return []api.Type{intType(), boolType()}[g.IntN(2)]
+		return []api.Type{Int(), Bool()}[g.IntN(2)]
 	case choice < 7:
-		return box(g.term(1, 0))
+		return Box(g.term(1, 0))
 	}
-	return named("Map", g.plain(levels-1, vars), g.plain(levels-1, vars))
+	return Named("Map", g.plain(levels-1, vars), g.plain(levels-1, vars))
 }
 
 // P4.2: Expand agrees with the model on many terms.
@@ -323,7 +324,7 @@ func TestExpandPartAgreesWithModel(t *testing.T) {
 			vars = slices.Compact(vars)
 			x := rename(part, func(i int) int { return len(vars) - 1 - slices.Index(vars, i) })
 			for _, v := range slices.Backward(vars) {
-				x = exists(b.Bounds[v], x)
+				x = Exists(b.Bounds[v], x)
 			}
 			want, _ := modelExpand(x, false)
 			if l := dnf.ExpandPart(b, part); !sameBranches(l, want) {
@@ -352,7 +353,7 @@ func hasInstance(t, c api.Type) bool {
 	case api.KindAny:
 		return true
 	case api.KindNamed:
-		return same(t, c)
+		return Same(t, c)
 	case api.KindUnion:
 		return slices.ContainsFunc(t.Args, isInstance)
 	case api.KindTuple:
@@ -369,12 +370,12 @@ func hasInstance(t, c api.Type) bool {
 
 // concreteTypes returns many concrete types.
 func concreteTypes() []api.Type {
-	l := []api.Type{intType(), boolType(), tuple()}
+	l := []api.Type{Int(), Bool(), Tuple()}
 	for range 2 {
 		for _, x := range l[:min(len(l), 8)] {
-			l = append(l, box(x), tuple(x))
+			l = append(l, Box(x), Tuple(x))
 			for _, y := range l[:min(len(l), 6)] {
-				l = append(l, named("Map", x, y), tuple(x, y), tuple(y, x, box(y)))
+				l = append(l, Named("Map", x, y), Tuple(x, y), Tuple(y, x, Box(y)))
 			}
 		}
 	}

@@ -8,41 +8,8 @@ import (
 
 	"telpher/api"
 	"telpher/hierarchy"
+	. "telpher/typetest"
 )
-
-func named(name string, args ...api.Type) api.Type {
-	return api.Type{Kind: api.KindNamed, Name: name, Args: args}
-}
-
-func tuple(args ...api.Type) api.Type { return node(api.KindTuple, args...) }
-
-func union(args ...api.Type) api.Type { return node(api.KindUnion, args...) }
-
-func exists(bound, body api.Type) api.Type { return node(api.KindExists, bound, body) }
-
-func variable(index int) api.Type { return api.Type{Kind: api.KindVar, Index: index} }
-
-// node returns a node of any kind, which may be malformed.
-func node(kind int, args ...api.Type) api.Type { return api.Type{Kind: kind, Args: args} }
-
-func anyType() api.Type { return api.Type{} }
-
-func never() api.Type { return node(api.KindNever) }
-
-func intType() api.Type { return named("Int") }
-
-func boolType() api.Type { return named("Bool") }
-
-// repeat returns so many copies of t.
-func repeat(count int, t api.Type) []api.Type { return slices.Repeat([]api.Type{t}, count) }
-
-// nest puts t into so many tuples, one in another.
-func nest(levels int, t api.Type) api.Type {
-	for range levels {
-		t = tuple(t)
-	}
-	return t
-}
 
 func field(name string, t api.Type) api.Field { return api.Field{Name: name, Type: t} }
 
@@ -50,7 +17,7 @@ func field(name string, t api.Type) api.Field { return api.Field{Name: name, Typ
 func manyFields(count int) []api.Field {
 	var fields []api.Field
 	for i := range count {
-		fields = append(fields, field("f"+strconv.Itoa(i), intType()))
+		fields = append(fields, field("f"+strconv.Itoa(i), Int()))
 	}
 	return fields
 }
@@ -66,15 +33,15 @@ func concrete(name string, arity int, super api.Type, fields ...api.Field) api.D
 // sampleDecls returns a tree of declarations: Seq above List above Vec and Row, Map above Pair and Grid, and Box and Unit on their own.
 func sampleDecls() []api.Decl {
 	return []api.Decl{
-		abstract("Seq", 1, anyType()),
-		abstract("List", 1, named("Seq", variable(0))),
-		abstract("Map", 2, anyType()),
-		concrete("Box", 1, anyType(), field("value", variable(0))),
-		concrete("Vec", 1, named("List", named("Box", variable(0))), field("head", variable(0)), field("len", intType())),
-		concrete("Row", 0, named("List", intType())),
-		concrete("Pair", 2, named("Map", variable(1), named("Box", variable(0))), field("key", named("Box", variable(1))), field("value", variable(0)), field("next", union(named("Nil"), named("Pair", intType(), anyType())))),
-		abstract("Grid", 3, named("Map", named("List", variable(2)), exists(anyType(), named("Box", variable(0))))),
-		concrete("Unit", 0, anyType()),
+		abstract("Seq", 1, Any()),
+		abstract("List", 1, Named("Seq", Variable(0))),
+		abstract("Map", 2, Any()),
+		concrete("Box", 1, Any(), field("value", Variable(0))),
+		concrete("Vec", 1, Named("List", Named("Box", Variable(0))), field("head", Variable(0)), field("len", Int())),
+		concrete("Row", 0, Named("List", Int())),
+		concrete("Pair", 2, Named("Map", Variable(1), Named("Box", Variable(0))), field("key", Named("Box", Variable(1))), field("value", Variable(0)), field("next", Union(Named("Nil"), Named("Pair", Int(), Any())))),
+		abstract("Grid", 3, Named("Map", Named("List", Variable(2)), Exists(Any(), Named("Box", Variable(0))))),
+		concrete("Unit", 0, Any()),
 	}
 }
 
@@ -96,65 +63,49 @@ func sample(t *testing.T) *hierarchy.Hierarchy {
 
 // doubling returns declarations of Root and D0 to D<steps>, where the argument of each supertype is twice as large as the one before.
 func doubling(steps int) []api.Decl {
-	list := []api.Decl{abstract("Root", 0, anyType()), abstract("Twin", 2, anyType()), abstract("D0", 1, named("Root"))}
+	list := []api.Decl{abstract("Root", 0, Any()), abstract("Twin", 2, Any()), abstract("D0", 1, Named("Root"))}
 	for i := range steps {
-		list = append(list, abstract("D"+strconv.Itoa(i+1), 1, named("D"+strconv.Itoa(i), named("Twin", variable(0), variable(0)))))
+		list = append(list, abstract("D"+strconv.Itoa(i+1), 1, Named("D"+strconv.Itoa(i), Named("Twin", Variable(0), Variable(0)))))
 	}
 	return list
 }
 
-// same compares terms in all fields. It does not rely on typeterm.Equal.
-func same(a, b api.Type) bool {
-	return a.Kind == b.Kind && a.Name == b.Name && a.Index == b.Index && slices.EqualFunc(a.Args, b.Args, same)
-}
-
 func sameFields(a, b []api.Field) bool {
-	return slices.EqualFunc(a, b, func(f, g api.Field) bool { return f.Name == g.Name && same(f.Type, g.Type) })
+	return slices.EqualFunc(a, b, func(f, g api.Field) bool { return f.Name == g.Name && Same(f.Type, g.Type) })
 }
 
 func sameDecl(a, b api.Decl) bool {
-	return a.Name == b.Name && a.Arity == b.Arity && a.Concrete == b.Concrete && same(a.Super, b.Super) && sameFields(a.Fields, b.Fields)
+	return a.Name == b.Name && a.Arity == b.Arity && a.Concrete == b.Concrete && Same(a.Super, b.Super) && sameFields(a.Fields, b.Fields)
 }
 
 // show writes a value with all its fields, nil and empty slices told apart.
 func show(x any) string { return fmt.Sprintf("%#v", x) }
 
-// scribbleTerm overwrites all nodes in the memory that t refers to.
-func scribbleTerm(t api.Type) {
-	for i := range t.Args {
-		scribbleTerm(t.Args[i])
-	}
-	room := t.Args[:cap(t.Args)]
-	for i := range room {
-		room[i] = api.Type{Kind: 1000, Name: "scribble"}
-	}
-}
-
 // scribbleFields overwrites all fields and the memory that their types refer to.
 func scribbleFields(fields []api.Field) {
 	for _, f := range fields {
-		scribbleTerm(f.Type)
+		Scribble(f.Type)
 	}
 	room := fields[:cap(fields)]
 	for i := range room {
-		room[i] = field("scribble", never())
+		room[i] = field("scribble", Never())
 	}
 }
 
 // scribble overwrites all memory that d refers to.
 func scribble(d api.Decl) {
-	scribbleTerm(d.Super)
+	Scribble(d.Super)
 	scribbleFields(d.Fields)
 }
 
 // malformed returns terms that are not valid.
 func malformed() []api.Type {
 	return []api.Type{
-		node(-1), node(7), node(9, intType()), {Name: "Int"}, {Index: 1}, node(api.KindAny, intType()), node(api.KindNever, intType()),
-		{Kind: api.KindNamed}, {Kind: api.KindNamed, Name: "Int", Index: 1}, named("1"), named("Any"), named("tuple", intType()), named("Box", tuple(variable(0))),
-		named("Box", repeat(7, intType())...), tuple(repeat(7, intType())...), {Kind: api.KindTuple, Name: "Int"},
-		node(api.KindUnion), union(intType()), node(api.KindExists), node(api.KindExists, intType()), exists(variable(0), intType()), node(api.KindExists, anyType(), anyType(), anyType()),
-		variable(-1), variable(201), {Kind: api.KindVar, Name: "Int"}, node(api.KindVar, intType()),
-		nest(12, intType()), union(repeat(200, intType())...),
+		Node(-1), Node(7), Node(9, Int()), {Name: "Int"}, {Index: 1}, Node(api.KindAny, Int()), Node(api.KindNever, Int()),
+		{Kind: api.KindNamed}, {Kind: api.KindNamed, Name: "Int", Index: 1}, Named("1"), Named("Any"), Named("tuple", Int()), Named("Box", Tuple(Variable(0))),
+		Named("Box", Repeat(7, Int())...), Tuple(Repeat(7, Int())...), {Kind: api.KindTuple, Name: "Int"},
+		Node(api.KindUnion), Union(Int()), Node(api.KindExists), Node(api.KindExists, Int()), Exists(Variable(0), Int()), Node(api.KindExists, Any(), Any(), Any()),
+		Variable(-1), Variable(201), {Kind: api.KindVar, Name: "Int"}, Node(api.KindVar, Int()),
+		NestTuples(12, Int()), Union(Repeat(200, Int())...),
 	}
 }

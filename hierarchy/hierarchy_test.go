@@ -7,6 +7,7 @@ import (
 
 	"telpher/api"
 	"telpher/hierarchy"
+	. "telpher/typetest"
 )
 
 // P3.3: declarations are listed in the order in which they were added.
@@ -14,7 +15,7 @@ func TestDecls(t *testing.T) {
 	h := hierarchy.New()
 	want := h.Decls()
 	for _, name := range []string{"b", "A", "a", "Z9", "Z10"} {
-		d := concrete(name, 1, anyType(), field("x", variable(0)))
+		d := concrete(name, 1, Any(), field("x", Variable(0)))
 		declare(t, h, d, d)
 		want = append(want, d)
 		if !slices.EqualFunc(h.Decls(), want, sameDecl) {
@@ -27,9 +28,9 @@ func TestDecls(t *testing.T) {
 func TestFingerprint(t *testing.T) {
 	h := sample(t)
 	declare(t, h,
-		abstract("Ten", 0, named("Seq", tuple(tuple(), tuple(never(), anyType()), union(intType(), exists(named("Seq", named("Row")), exists(anyType(), named("Map", variable(0), variable(1)))))))),
-		concrete("all", 6, named("Map", variable(5), named("Box", variable(0))), field("z", named("all", variable(0), variable(1), variable(2), variable(3), variable(4), variable(5))), field("a", variable(3)), field("Any", anyType())),
-		concrete("Far", 0, anyType(), field("x", tuple(exists(named("Unit"), variable(0))))))
+		abstract("Ten", 0, Named("Seq", Tuple(Tuple(), Tuple(Never(), Any()), Union(Int(), Exists(Named("Seq", Named("Row")), Exists(Any(), Named("Map", Variable(0), Variable(1)))))))),
+		concrete("all", 6, Named("Map", Variable(5), Named("Box", Variable(0))), field("z", Named("all", Variable(0), Variable(1), Variable(2), Variable(3), Variable(4), Variable(5))), field("a", Variable(3)), field("Any", Any())),
+		concrete("Far", 0, Any(), field("x", Tuple(Exists(Named("Unit"), Variable(0))))))
 	const (
 		box     = "Box 1 Any concrete value:$0\n"
 		integer = "Int 0 Any concrete\n"
@@ -80,15 +81,15 @@ func TestClone(t *testing.T) {
 		if !h.Equal(o) || !o.Equal(h) || !slices.EqualFunc(o.Decls(), before, sameDecl) {
 			t.Fatalf("the clone has %v", o.Decls())
 		}
-		declare(t, o, abstract("New", 0, anyType()))
-		if h.Equal(o) || o.Equal(h) || h.Knows(named("New")) || !o.Knows(named("New")) || !slices.EqualFunc(h.Decls(), before, sameDecl) {
+		declare(t, o, abstract("New", 0, Any()))
+		if h.Equal(o) || o.Equal(h) || h.Knows(Named("New")) || !o.Knows(Named("New")) || !slices.EqualFunc(h.Decls(), before, sameDecl) {
 			t.Error("the clone is not independent")
 		}
-		declare(t, h, abstract("New", 1, anyType()))
-		if o.Knows(named("New", intType())) || !o.Knows(named("New")) || h.Equal(o) {
+		declare(t, h, abstract("New", 1, Any()))
+		if o.Knows(Named("New", Int())) || !o.Knows(Named("New")) || h.Equal(o) {
 			t.Error("the clone depends on the original")
 		}
-		if o.Declare(abstract("New", 1, anyType())) != api.ErrDuplicate || o.Declare(abstract("New", 0, anyType())) != api.OK {
+		if o.Declare(abstract("New", 1, Any())) != api.ErrDuplicate || o.Declare(abstract("New", 0, Any())) != api.OK {
 			t.Error("the clone has not its own declarations")
 		}
 	}
@@ -96,11 +97,11 @@ func TestClone(t *testing.T) {
 
 // P3.4: Equal compares all fields of all declarations, and their order.
 func TestEqual(t *testing.T) {
-	base := concrete("A", 1, named("Seq", variable(0)), field("x", variable(0)), field("y", intType()))
+	base := concrete("A", 1, Named("Seq", Variable(0)), field("x", Variable(0)), field("y", Int()))
 	others := []api.Decl{
-		concrete("B", 1, named("Seq", variable(0)), base.Fields...), concrete("A", 2, named("Seq", variable(0)), base.Fields...), concrete("A", 1, named("Seq", intType()), base.Fields...), concrete("A", 1, named("List", variable(0)), base.Fields...), concrete("A", 1, anyType(), base.Fields...),
-		abstract("A", 1, named("Seq", variable(0))), concrete("A", 1, named("Seq", variable(0))), concrete("A", 1, named("Seq", variable(0)), base.Fields[0]),
-		concrete("A", 1, named("Seq", variable(0)), field("x", variable(0)), field("z", intType())), concrete("A", 1, named("Seq", variable(0)), field("x", variable(0)), field("y", boolType())), concrete("A", 1, named("Seq", variable(0)), base.Fields[1], base.Fields[0]),
+		concrete("B", 1, Named("Seq", Variable(0)), base.Fields...), concrete("A", 2, Named("Seq", Variable(0)), base.Fields...), concrete("A", 1, Named("Seq", Int()), base.Fields...), concrete("A", 1, Named("List", Variable(0)), base.Fields...), concrete("A", 1, Any(), base.Fields...),
+		abstract("A", 1, Named("Seq", Variable(0))), concrete("A", 1, Named("Seq", Variable(0))), concrete("A", 1, Named("Seq", Variable(0)), base.Fields[0]),
+		concrete("A", 1, Named("Seq", Variable(0)), field("x", Variable(0)), field("z", Int())), concrete("A", 1, Named("Seq", Variable(0)), field("x", Variable(0)), field("y", Bool())), concrete("A", 1, Named("Seq", Variable(0)), base.Fields[1], base.Fields[0]),
 	}
 	h := sample(t)
 	declare(t, h, base)
@@ -119,8 +120,8 @@ func TestEqual(t *testing.T) {
 	if !h.Equal(o) || !o.Equal(h) || !h.Equal(h) {
 		t.Error("equal hierarchies differ")
 	}
-	declare(t, h, abstract("P", 0, anyType()), abstract("Q", 0, anyType()))
-	declare(t, o, abstract("Q", 0, anyType()), abstract("P", 0, anyType()))
+	declare(t, h, abstract("P", 0, Any()), abstract("Q", 0, Any()))
+	declare(t, o, abstract("Q", 0, Any()), abstract("P", 0, Any()))
 	if h.Equal(o) {
 		t.Error("Equal ignores the order")
 	}
@@ -133,9 +134,9 @@ func TestEqual(t *testing.T) {
 func TestNilAndEmpty(t *testing.T) {
 	empty := []api.Type{}
 	withEmpty := api.Decl{Name: "A", Super: api.Type{Args: empty}, Concrete: true, Fields: []api.Field{}}
-	withNil := concrete("A", 0, anyType())
+	withNil := concrete("A", 0, Any())
 	f := field("x", api.Type{Kind: api.KindNamed, Name: "Int", Args: empty})
-	for _, pair := range [][2]api.Decl{{withEmpty, withNil}, {withNil, withEmpty}, {concrete("A", 0, anyType(), f), concrete("A", 0, anyType(), field("x", intType()))}, {{Name: "A", Fields: []api.Field{}}, {Name: "A"}}} {
+	for _, pair := range [][2]api.Decl{{withEmpty, withNil}, {withNil, withEmpty}, {concrete("A", 0, Any(), f), concrete("A", 0, Any(), field("x", Int()))}, {{Name: "A", Fields: []api.Field{}}, {Name: "A"}}} {
 		h, o := hierarchy.New(), hierarchy.New()
 		declare(t, h, pair[0], pair[1])
 		declare(t, o, pair[1], pair[0])
@@ -148,14 +149,14 @@ func TestNilAndEmpty(t *testing.T) {
 	if fields, ok := h.Fields(integer); !ok || len(fields) != 0 || !h.Knows(integer) || h.Declare(api.Decl{Name: "Int", Concrete: true, Fields: []api.Field{}, Super: api.Type{Args: empty}}) != api.OK {
 		t.Error("empty Args are not those of Int")
 	}
-	expectSupertype(t, h, integer, "Int", intType())
+	expectSupertype(t, h, integer, "Int", Int())
 }
 
 // P0.1, rule 2: no function changes its arguments.
 func TestArgumentsUnchanged(t *testing.T) {
 	h := sample(t)
-	for i, x := range append(malformed(), named("Vec", named("Box", variable(0))), named("Pair", intType(), tuple(boolType()))) {
-		d := concrete("A"+strconv.Itoa(i), 1, x, field("x", x), field("y", named("Box", x)))
+	for i, x := range append(malformed(), Named("Vec", Named("Box", Variable(0))), Named("Pair", Int(), Tuple(Bool()))) {
+		d := concrete("A"+strconv.Itoa(i), 1, x, field("x", x), field("y", Named("Box", x)))
 		before, declBefore := show(x), show(d)
 		h.Declare(d)
 		h.Knows(x)
@@ -198,8 +199,8 @@ func TestResultsShareNoMemory(t *testing.T) {
 			t.Fatal("declarations share memory")
 		}
 	}
-	shared := tuple(boolType(), intType())
-	x := named("Pair", shared, shared)
+	shared := Tuple(Bool(), Int())
+	x := Named("Pair", shared, shared)
 	before := show(x)
 	for range 2 {
 		fields, _ := h.Fields(x)
@@ -207,11 +208,11 @@ func TestResultsShareNoMemory(t *testing.T) {
 		_, one, _ := h.Field(x, "key")
 		super, _ := h.Supertype(x, "Map")
 		itself, _ := h.Supertype(x, "Pair")
-		scribbleTerm(one)
-		scribbleTerm(super)
-		scribbleTerm(itself)
+		Scribble(one)
+		Scribble(super)
+		Scribble(itself)
 		scribbleFields(fields)
-		if len(again) != 3 || !same(again[0].Type, named("Box", shared)) || !same(again[1].Type, shared) || show(x) != before || !h.Equal(want) {
+		if len(again) != 3 || !Same(again[0].Type, Named("Box", shared)) || !Same(again[1].Type, shared) || show(x) != before || !h.Equal(want) {
 			t.Fatal("a result shares memory")
 		}
 	}
@@ -221,12 +222,12 @@ func TestResultsShareNoMemory(t *testing.T) {
 // expectNoSharingWithin expects that the occurrences of one argument in a result have memory of their own.
 func expectNoSharingWithin(t *testing.T, h *hierarchy.Hierarchy, x api.Type) {
 	t.Helper()
-	declare(t, h, abstract("Same", 2, named("Map", variable(0), variable(0))), concrete("Both", 2, anyType(), field("a", variable(0)), field("b", variable(0))))
-	super, _ := h.Supertype(named("Same", x, x), "Map")
-	scribbleTerm(super.Args[0])
-	fields, _ := h.Fields(named("Both", x, x))
-	scribbleTerm(fields[0].Type)
-	if !same(super.Args[1], x) || !same(fields[1].Type, x) {
+	declare(t, h, abstract("Same", 2, Named("Map", Variable(0), Variable(0))), concrete("Both", 2, Any(), field("a", Variable(0)), field("b", Variable(0))))
+	super, _ := h.Supertype(Named("Same", x, x), "Map")
+	Scribble(super.Args[0])
+	fields, _ := h.Fields(Named("Both", x, x))
+	Scribble(fields[0].Type)
+	if !Same(super.Args[1], x) || !Same(fields[1].Type, x) {
 		t.Error("the parts of a result share memory")
 	}
 }

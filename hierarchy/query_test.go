@@ -7,6 +7,7 @@ import (
 	"telpher/api"
 	"telpher/hierarchy"
 	"telpher/typeterm"
+	. "telpher/typetest"
 )
 
 // P3.3: Lookup finds what was declared.
@@ -28,22 +29,22 @@ func TestLookup(t *testing.T) {
 func TestKnows(t *testing.T) {
 	h := sample(t)
 	for _, x := range []api.Type{
-		anyType(), never(), variable(0), variable(-5), tuple(), intType(), named("Seq", variable(7)), named("Box", named("Box", named("Unit"))), named("Map", anyType(), tuple(intType(), named("Row"))),
-		exists(named("Seq", intType()), union(variable(0), named("Nil"))),
+		Any(), Never(), Variable(0), Variable(-5), Tuple(), Int(), Named("Seq", Variable(7)), Named("Box", Named("Box", Named("Unit"))), Named("Map", Any(), Tuple(Int(), Named("Row"))),
+		Exists(Named("Seq", Int()), Union(Variable(0), Named("Nil"))),
 		// Malformed terms.
-		node(-1), node(7), node(99, intType(), node(98, boolType())), {Name: "Nothing"}, {Kind: api.KindTuple, Name: "Nothing"}, {Kind: api.KindVar, Name: "Nothing"}, {Kind: api.KindNamed, Name: "Int", Index: 3},
-		node(api.KindAny, intType()), node(api.KindVar, named("Unit")), union(), union(intType()), node(api.KindExists, variable(3)), node(api.KindExists, intType(), intType(), intType()), named("Box", tuple(variable(0))), tuple(repeat(9, intType())...),
+		Node(-1), Node(7), Node(99, Int(), Node(98, Bool())), {Name: "Nothing"}, {Kind: api.KindTuple, Name: "Nothing"}, {Kind: api.KindVar, Name: "Nothing"}, {Kind: api.KindNamed, Name: "Int", Index: 3},
+		Node(api.KindAny, Int()), Node(api.KindVar, Named("Unit")), Union(), Union(Int()), Node(api.KindExists, Variable(3)), Node(api.KindExists, Int(), Int(), Int()), Named("Box", Tuple(Variable(0))), Tuple(Repeat(9, Int())...),
 	} {
-		if !h.Knows(x) || !h.Knows(named("Box", x)) || !h.Knows(nest(20, x)) {
+		if !h.Knows(x) || !h.Knows(Named("Box", x)) || !h.Knows(NestTuples(20, x)) {
 			t.Errorf("Knows(%v) = false", x)
 		}
 	}
 	for _, x := range []api.Type{
-		named("Nothing"), named(""), named("Any"), named("Never"), named("tuple"), named("int"), named("Box"), named("Box", intType(), intType()), named("Int", intType()), named("Pair", intType()),
+		Named("Nothing"), Named(""), Named("Any"), Named("Never"), Named("tuple"), Named("int"), Named("Box"), Named("Box", Int(), Int()), Named("Int", Int()), Named("Pair", Int()),
 		// Malformed terms.
-		node(-1, named("Nothing")), node(api.KindAny, named("Nothing")), node(api.KindVar, named("Box")), union(named("Nothing")), node(api.KindExists, named("Nothing")), node(api.KindExists, intType(), intType(), named("Nothing")), {Kind: api.KindNamed, Name: "Nothing", Index: 1}, named("Box", repeat(7, intType())...),
+		Node(-1, Named("Nothing")), Node(api.KindAny, Named("Nothing")), Node(api.KindVar, Named("Box")), Union(Named("Nothing")), Node(api.KindExists, Named("Nothing")), Node(api.KindExists, Int(), Int(), Named("Nothing")), {Kind: api.KindNamed, Name: "Nothing", Index: 1}, Named("Box", Repeat(7, Int())...),
 	} {
-		for _, around := range []api.Type{x, named("Box", x), tuple(intType(), x), union(x, intType()), exists(x, intType()), exists(intType(), x), nest(20, x), node(44, intType(), x)} {
+		for _, around := range []api.Type{x, Named("Box", x), Tuple(Int(), x), Union(x, Int()), Exists(x, Int()), Exists(Int(), x), NestTuples(20, x), Node(44, Int(), x)} {
 			if h.Knows(around) {
 				t.Errorf("Knows(%v) = true", around)
 			}
@@ -53,7 +54,7 @@ func TestKnows(t *testing.T) {
 
 func expectSupertype(t *testing.T, h *hierarchy.Hierarchy, x api.Type, name string, want api.Type) {
 	t.Helper()
-	if got, ok := h.Supertype(x, name); !ok || !same(got, want) {
+	if got, ok := h.Supertype(x, name); !ok || !Same(got, want) {
 		t.Errorf("Supertype(%v, %s) = %v, %v; want %v", x, name, got, ok, want)
 	}
 }
@@ -62,41 +63,40 @@ func expectSupertype(t *testing.T, h *hierarchy.Hierarchy, x api.Type, name stri
 func TestSupertype(t *testing.T) {
 	h := sample(t)
 	declare(t, h,
-		abstract("Turn", 3, named("Grid", variable(2), variable(0), variable(1))),
-		abstract("Bent", 1, named("Turn", named("Box", variable(0)), boolType(), variable(0))),
-		concrete("Leaf", 0, named("Bent", named("Unit"))))
-	anyBox := exists(anyType(), named("Box", variable(0)))
-	box := func(x api.Type) api.Type { return named("Box", x) }
+		abstract("Turn", 3, Named("Grid", Variable(2), Variable(0), Variable(1))),
+		abstract("Bent", 1, Named("Turn", Named("Box", Variable(0)), Bool(), Variable(0))),
+		concrete("Leaf", 0, Named("Bent", Named("Unit"))))
+	anyBox := Exists(Any(), Named("Box", Variable(0)))
 	for _, c := range []struct {
 		x    api.Type
 		name string
 		want api.Type
 	}{
-		{intType(), "Int", intType()},
-		{named("Row"), "List", named("List", intType())},
-		{named("Row"), "Seq", named("Seq", intType())},
-		{named("Vec", boolType()), "Seq", named("Seq", box(boolType()))},
-		{named("Vec", named("Vec", boolType())), "List", named("List", box(named("Vec", boolType())))},
-		{named("Pair", intType(), boolType()), "Map", named("Map", boolType(), box(intType()))},
-		{named("Grid", intType(), boolType(), anyBox), "Map", named("Map", named("List", anyBox), anyBox)},
-		{named("Leaf"), "Bent", named("Bent", named("Unit"))},
-		{named("Leaf"), "Turn", named("Turn", box(named("Unit")), boolType(), named("Unit"))},
-		{named("Leaf"), "Grid", named("Grid", named("Unit"), box(named("Unit")), boolType())},
-		{named("Leaf"), "Map", named("Map", named("List", boolType()), anyBox)},
+		{Int(), "Int", Int()},
+		{Named("Row"), "List", Named("List", Int())},
+		{Named("Row"), "Seq", Named("Seq", Int())},
+		{Named("Vec", Bool()), "Seq", Named("Seq", Box(Bool()))},
+		{Named("Vec", Named("Vec", Bool())), "List", Named("List", Box(Named("Vec", Bool())))},
+		{Named("Pair", Int(), Bool()), "Map", Named("Map", Bool(), Box(Int()))},
+		{Named("Grid", Int(), Bool(), anyBox), "Map", Named("Map", Named("List", anyBox), anyBox)},
+		{Named("Leaf"), "Bent", Named("Bent", Named("Unit"))},
+		{Named("Leaf"), "Turn", Named("Turn", Box(Named("Unit")), Bool(), Named("Unit"))},
+		{Named("Leaf"), "Grid", Named("Grid", Named("Unit"), Box(Named("Unit")), Bool())},
+		{Named("Leaf"), "Map", Named("Map", Named("List", Bool()), anyBox)},
 		// Free variables are kept.
-		{named("Vec", variable(3)), "Seq", named("Seq", box(variable(3)))},
-		{named("Pair", variable(1), variable(0)), "Map", named("Map", variable(0), box(variable(1)))},
-		{named("Turn", variable(5), box(variable(4)), variable(3)), "Grid", named("Grid", variable(3), variable(5), box(variable(4)))},
-		{named("Turn", variable(5), box(variable(4)), variable(3)), "Map", named("Map", named("List", box(variable(4))), anyBox)},
+		{Named("Vec", Variable(3)), "Seq", Named("Seq", Box(Variable(3)))},
+		{Named("Pair", Variable(1), Variable(0)), "Map", Named("Map", Variable(0), Box(Variable(1)))},
+		{Named("Turn", Variable(5), Box(Variable(4)), Variable(3)), "Grid", Named("Grid", Variable(3), Variable(5), Box(Variable(4)))},
+		{Named("Turn", Variable(5), Box(Variable(4)), Variable(3)), "Map", Named("Map", Named("List", Box(Variable(4))), anyBox)},
 		// The arguments need not be known.
-		{named("Vec", named("Nothing")), "List", named("List", box(named("Nothing")))},
+		{Named("Vec", Named("Nothing")), "List", Named("List", Box(Named("Nothing")))},
 		// A term of that name is returned as it is.
-		{named("Nothing", intType()), "Nothing", named("Nothing", intType())},
-		{named("Vec"), "Vec", named("Vec")},
-		{named("Int", variable(0)), "Int", named("Int", variable(0))},
-		{named(""), "", named("")},
-		{named("Any"), "Any", named("Any")},
-		{api.Type{Kind: api.KindNamed, Name: "Vec", Index: -4, Args: []api.Type{node(9, variable(-1))}}, "Vec", api.Type{Kind: api.KindNamed, Name: "Vec", Index: -4, Args: []api.Type{node(9, variable(-1))}}},
+		{Named("Nothing", Int()), "Nothing", Named("Nothing", Int())},
+		{Named("Vec"), "Vec", Named("Vec")},
+		{Named("Int", Variable(0)), "Int", Named("Int", Variable(0))},
+		{Named(""), "", Named("")},
+		{Named("Any"), "Any", Named("Any")},
+		{api.Type{Kind: api.KindNamed, Name: "Vec", Index: -4, Args: []api.Type{Node(9, Variable(-1))}}, "Vec", api.Type{Kind: api.KindNamed, Name: "Vec", Index: -4, Args: []api.Type{Node(9, Variable(-1))}}},
 	} {
 		expectSupertype(t, h, c.x, c.name, c.want)
 	}
@@ -106,26 +106,26 @@ func TestSupertype(t *testing.T) {
 func TestNoSupertype(t *testing.T) {
 	h := sample(t)
 	names := []string{"", "Any", "Never", "tuple", "Int", "Seq", "List", "Map", "Box", "Vec", "Row", "Nothing"}
-	terms := append(malformed(), anyType(), never(), variable(0), tuple(intType()), union(named("Row"), named("Row")), exists(anyType(), named("Vec", variable(0))),
-		named("Vec"), named("Vec", intType(), intType()), named("Row", intType()), named("Nothing"), named("Nothing", intType()), named("vec", intType()),
-		api.Type{Kind: api.KindTuple, Name: "Vec", Args: repeat(1, intType())}, api.Type{Name: "Row"}, api.Type{Kind: api.KindVar, Name: "Row"}, api.Type{Kind: 9, Name: "Vec", Args: repeat(1, intType())})
+	terms := append(malformed(), Any(), Never(), Variable(0), Tuple(Int()), Union(Named("Row"), Named("Row")), Exists(Any(), Named("Vec", Variable(0))),
+		Named("Vec"), Named("Vec", Int(), Int()), Named("Row", Int()), Named("Nothing"), Named("Nothing", Int()), Named("vec", Int()),
+		api.Type{Kind: api.KindTuple, Name: "Vec", Args: Repeat(1, Int())}, api.Type{Name: "Row"}, api.Type{Kind: api.KindVar, Name: "Row"}, api.Type{Kind: 9, Name: "Vec", Args: Repeat(1, Int())})
 	for _, x := range terms {
 		for _, name := range names {
 			if x.Kind == api.KindNamed && x.Name == name {
 				continue
 			}
-			if got, ok := h.Supertype(x, name); ok || !same(got, anyType()) {
+			if got, ok := h.Supertype(x, name); ok || !Same(got, Any()) {
 				t.Errorf("Supertype(%v, %q) = %v, %v", x, name, got, ok)
 			}
 		}
 	}
 	for x, name := range map[string]string{"Row": "Vec", "Unit": "Seq", "Int": "Any", "Bool": "Int"} {
-		if got, ok := h.Supertype(named(x), name); ok || !same(got, anyType()) {
+		if got, ok := h.Supertype(Named(x), name); ok || !Same(got, Any()) {
 			t.Errorf("Supertype(%s, %q) = %v, %v", x, name, got, ok)
 		}
 	}
 	for _, name := range []string{"Any", "", "Map", "Vec", "Row", "Box", "seq"} {
-		if got, ok := h.Supertype(named("List", intType()), name); ok || !same(got, anyType()) {
+		if got, ok := h.Supertype(Named("List", Int()), name); ok || !Same(got, Any()) {
 			t.Errorf("Supertype(List[Int], %q) = %v, %v", name, got, ok)
 		}
 	}
@@ -137,19 +137,19 @@ func TestLargeSupertypes(t *testing.T) {
 	h := hierarchy.New()
 	declare(t, h, doubling(steps)...)
 	last := "D" + strconv.Itoa(steps)
-	declare(t, h, concrete("Leaf", 0, named(last, intType())))
-	for _, x := range []api.Type{named("Leaf"), named(last, boolType()), named(last, variable(2))} {
-		expectSupertype(t, h, x, "Root", named("Root"))
+	declare(t, h, concrete("Leaf", 0, Named(last, Int())))
+	for _, x := range []api.Type{Named("Leaf"), Named(last, Bool()), Named(last, Variable(2))} {
+		expectSupertype(t, h, x, "Root", Named("Root"))
 		for _, name := range []string{"Nothing", "Any", "Twin"} {
-			if got, ok := h.Supertype(x, name); ok || !same(got, anyType()) {
+			if got, ok := h.Supertype(x, name); ok || !Same(got, Any()) {
 				t.Errorf("Supertype(%v, %s) = %v, %v", x, name, got, ok)
 			}
 		}
 	}
-	twin := variable(2)
+	twin := Variable(2)
 	for i := steps; i >= steps-8; i-- {
-		expectSupertype(t, h, named(last, variable(2)), "D"+strconv.Itoa(i), named("D"+strconv.Itoa(i), twin))
-		twin = named("Twin", twin, twin)
+		expectSupertype(t, h, Named(last, Variable(2)), "D"+strconv.Itoa(i), Named("D"+strconv.Itoa(i), twin))
+		twin = Named("Twin", twin, twin)
 	}
 	for i := range steps {
 		if name := "D" + strconv.Itoa(i); !h.IsAncestor(name, "Leaf") || !h.IsAncestor(name, last) || h.IsAncestor(last, name) {
@@ -191,7 +191,7 @@ func expectFields(t *testing.T, h *hierarchy.Hierarchy, x api.Type, want ...api.
 		t.Errorf("Fields(%v) = %v, %v; want %v", x, got, ok, want)
 	}
 	for i, f := range want {
-		if at, got, ok := h.Field(x, f.Name); !ok || at != i || !same(got, f.Type) {
+		if at, got, ok := h.Field(x, f.Name); !ok || at != i || !Same(got, f.Type) {
 			t.Errorf("Field(%v, %s) = %d, %v, %v; want %v", x, f.Name, at, got, ok, f.Type)
 		}
 	}
@@ -201,7 +201,7 @@ func expectFields(t *testing.T, h *hierarchy.Hierarchy, x api.Type, want ...api.
 func expectNoField(t *testing.T, h *hierarchy.Hierarchy, x api.Type, names ...string) {
 	t.Helper()
 	for _, name := range names {
-		if at, got, ok := h.Field(x, name); ok || at != 0 || !same(got, anyType()) {
+		if at, got, ok := h.Field(x, name); ok || at != 0 || !Same(got, Any()) {
 			t.Errorf("Field(%v, %q) = %d, %v, %v", x, name, at, got, ok)
 		}
 	}
@@ -210,30 +210,30 @@ func expectNoField(t *testing.T, h *hierarchy.Hierarchy, x api.Type, names ...st
 // P3.3: the types of fields are instantiated with the arguments.
 func TestFields(t *testing.T) {
 	h := sample(t)
-	next := field("next", union(named("Nil"), named("Pair", intType(), anyType())))
-	anyBox := exists(anyType(), named("Box", variable(0)))
-	expectFields(t, h, intType())
-	expectFields(t, h, named("Unit"))
-	expectFields(t, h, named("Row"))
-	expectFields(t, h, named("Box", named("Box", intType())), field("value", named("Box", intType())))
-	expectFields(t, h, named("Vec", anyBox), field("head", anyBox), field("len", intType()))
-	expectFields(t, h, named("Pair", intType(), boolType()), field("key", named("Box", boolType())), field("value", intType()), next)
-	expectFields(t, h, named("Pair", named("Box", variable(4)), variable(0)), field("key", named("Box", variable(0))), field("value", named("Box", variable(4))), next)
-	expectFields(t, h, named("Box", named("Nothing")), field("value", named("Nothing")))
+	next := field("next", Union(Named("Nil"), Named("Pair", Int(), Any())))
+	anyBox := Exists(Any(), Named("Box", Variable(0)))
+	expectFields(t, h, Int())
+	expectFields(t, h, Named("Unit"))
+	expectFields(t, h, Named("Row"))
+	expectFields(t, h, Named("Box", Named("Box", Int())), field("value", Named("Box", Int())))
+	expectFields(t, h, Named("Vec", anyBox), field("head", anyBox), field("len", Int()))
+	expectFields(t, h, Named("Pair", Int(), Bool()), field("key", Named("Box", Bool())), field("value", Int()), next)
+	expectFields(t, h, Named("Pair", Named("Box", Variable(4)), Variable(0)), field("key", Named("Box", Variable(0))), field("value", Named("Box", Variable(4))), next)
+	expectFields(t, h, Named("Box", Named("Nothing")), field("value", Named("Nothing")))
 	// A malformed term that is a KindNamed node with the right number of arguments has fields too.
-	expectFields(t, h, api.Type{Kind: api.KindNamed, Name: "Box", Index: 5, Args: []api.Type{node(8, variable(-1))}}, field("value", node(8, variable(-1))))
-	declare(t, h, concrete("Ring", 1, anyType(), field("next", named("Ring", named("Ring", variable(0)))), field("none", exists(intType(), tuple(variable(0))))))
-	expectFields(t, h, named("Ring", intType()), field("next", named("Ring", named("Ring", intType()))), field("none", exists(intType(), tuple(variable(0)))))
+	expectFields(t, h, api.Type{Kind: api.KindNamed, Name: "Box", Index: 5, Args: []api.Type{Node(8, Variable(-1))}}, field("value", Node(8, Variable(-1))))
+	declare(t, h, concrete("Ring", 1, Any(), field("next", Named("Ring", Named("Ring", Variable(0)))), field("none", Exists(Int(), Tuple(Variable(0))))))
+	expectFields(t, h, Named("Ring", Int()), field("next", Named("Ring", Named("Ring", Int()))), field("none", Exists(Int(), Tuple(Variable(0)))))
 }
 
 // P3.3, P0.1 rule 5: which terms have no fields.
 func TestNoFields(t *testing.T) {
 	h := sample(t)
 	terms := []api.Type{
-		anyType(), never(), variable(0), tuple(), tuple(intType()), union(named("Unit"), named("Row")), exists(anyType(), named("Box", variable(0))),
-		named("Seq", intType()), named("Map", intType(), intType()), named("Grid", intType(), intType(), intType()),
-		named("Vec"), named("Vec", intType(), intType()), named("Int", intType()), named("Pair", intType()), named("Nothing"), named("Nothing", intType()), named(""), named("Any"),
-		{Name: "Unit"}, {Kind: api.KindTuple, Name: "Box", Args: repeat(1, intType())}, {Kind: api.KindVar, Name: "Int"}, {Kind: 9, Name: "Unit"}, {Kind: -2, Name: "Unit"},
+		Any(), Never(), Variable(0), Tuple(), Tuple(Int()), Union(Named("Unit"), Named("Row")), Exists(Any(), Named("Box", Variable(0))),
+		Named("Seq", Int()), Named("Map", Int(), Int()), Named("Grid", Int(), Int(), Int()),
+		Named("Vec"), Named("Vec", Int(), Int()), Named("Int", Int()), Named("Pair", Int()), Named("Nothing"), Named("Nothing", Int()), Named(""), Named("Any"),
+		{Name: "Unit"}, {Kind: api.KindTuple, Name: "Box", Args: Repeat(1, Int())}, {Kind: api.KindVar, Name: "Int"}, {Kind: 9, Name: "Unit"}, {Kind: -2, Name: "Unit"},
 	}
 	for _, x := range malformed() {
 		if x.Kind != api.KindNamed {
@@ -251,17 +251,17 @@ func TestNoFields(t *testing.T) {
 // P3.3, P0.1 rule 9: arguments may be as deep as a term may be.
 func TestDeepArguments(t *testing.T) {
 	h := sample(t)
-	deep := nest(1<<16-4, variable(1))
-	if got, ok := h.Supertype(named("Vec", deep), "Seq"); !ok || got.Name != "Seq" || typeterm.Depth(got) != 1<<16-1 {
+	deep := NestTuples(1<<16-4, Variable(1))
+	if got, ok := h.Supertype(Named("Vec", deep), "Seq"); !ok || got.Name != "Seq" || typeterm.Depth(got) != 1<<16-1 {
 		t.Error("Supertype of a type with a deep argument")
 	}
-	if at, got, ok := h.Field(named("Vec", deep), "head"); !ok || at != 0 || typeterm.Depth(got) != 1<<16-3 {
+	if at, got, ok := h.Field(Named("Vec", deep), "head"); !ok || at != 0 || typeterm.Depth(got) != 1<<16-3 {
 		t.Error("Field of a type with a deep argument")
 	}
-	if !h.Knows(deep) || h.Knows(tuple(deep, named("Nothing"))) || h.Knows(nest(1<<16-3, named("Nothing"))) {
+	if !h.Knows(deep) || h.Knows(Tuple(deep, Named("Nothing"))) || h.Knows(NestTuples(1<<16-3, Named("Nothing"))) {
 		t.Error("Knows of a deep term")
 	}
-	if h.Declare(abstract("A", 2, named("Seq", deep))) != api.ErrInvalid || h.Declare(concrete("A", 2, anyType(), field("x", deep))) != api.ErrInvalid {
+	if h.Declare(abstract("A", 2, Named("Seq", deep))) != api.ErrInvalid || h.Declare(concrete("A", 2, Any(), field("x", deep))) != api.ErrInvalid {
 		t.Error("Declare with a deep term")
 	}
 }
@@ -293,14 +293,14 @@ func answers(h *hierarchy.Hierarchy, terms []api.Type, names, fieldNames []strin
 // P3.5: later declarations do not change what is known.
 func TestMonotonicity(t *testing.T) {
 	h := sample(t)
-	terms := []api.Type{intType(), named("Unit"), named("Row"), named("Vec", named("Box", variable(0))), named("Pair", intType(), named("Row")), named("Grid", intType(), intType(), variable(9)), tuple(named("Seq", intType()), never())}
+	terms := []api.Type{Int(), Named("Unit"), Named("Row"), Named("Vec", Named("Box", Variable(0))), Named("Pair", Int(), Named("Row")), Named("Grid", Int(), Int(), Variable(9)), Tuple(Named("Seq", Int()), Never())}
 	names := []string{"Int", "Nil", "Seq", "List", "Map", "Box", "Vec", "Row", "Pair", "Grid", "Unit", "Any"}
 	fieldNames := []string{"key", "value", "next", "head", "len", "none"}
 	before := answers(h, terms, names, fieldNames)
 	for i := range api.MaxDecls {
-		h.Declare(concrete("C"+strconv.Itoa(i), i%5, named("Seq", intType()), field("value", named("Row"))))
-		h.Declare(abstract("head", 0, named("Seq", named("Vec", intType()))))
-		h.Declare(abstract("Vec", 0, anyType()))
+		h.Declare(concrete("C"+strconv.Itoa(i), i%5, Named("Seq", Int()), field("value", Named("Row"))))
+		h.Declare(abstract("head", 0, Named("Seq", Named("Vec", Int()))))
+		h.Declare(abstract("Vec", 0, Any()))
 		for j, answer := range answers(h, terms, names, fieldNames) {
 			if answer != before[j] {
 				t.Fatalf("after declaration %d, answer %d is %s; it was %s", i, j, answer, before[j])

@@ -7,62 +7,24 @@ import (
 
 	"telpher/api"
 	"telpher/typeterm"
+	. "telpher/typetest"
 )
-
-func named(name string, args ...api.Type) api.Type {
-	return api.Type{Kind: api.KindNamed, Name: name, Args: args}
-}
-
-func tuple(args ...api.Type) api.Type { return node(api.KindTuple, args...) }
-
-func union(args ...api.Type) api.Type { return node(api.KindUnion, args...) }
-
-func exists(bound, body api.Type) api.Type { return node(api.KindExists, bound, body) }
-
-func variable(index int) api.Type { return api.Type{Kind: api.KindVar, Index: index} }
-
-// node returns a node of any kind, which may be malformed.
-func node(kind int, args ...api.Type) api.Type { return api.Type{Kind: kind, Args: args} }
-
-func anyType() api.Type { return api.Type{} }
-
-func never() api.Type { return node(api.KindNever) }
-
-func intType() api.Type { return named("Int") }
-
-func boolType() api.Type { return named("Bool") }
-
-// repeat returns so many copies of t.
-func repeat(count int, t api.Type) []api.Type { return slices.Repeat([]api.Type{t}, count) }
-
-// nest puts t into so many tuples, one in another.
-func nest(levels int, t api.Type) api.Type {
-	for range levels {
-		t = tuple(t)
-	}
-	return t
-}
 
 // bind puts t into the bodies of so many existential types.
 func bind(bodies int, t api.Type) api.Type {
 	for range bodies {
-		t = exists(anyType(), t)
+		t = Exists(Any(), t)
 	}
 	return t
-}
-
-// same compares terms in all fields. It does not rely on typeterm.Equal.
-func same(a, b api.Type) bool {
-	return a.Kind == b.Kind && a.Name == b.Name && a.Index == b.Index && slices.EqualFunc(a.Args, b.Args, same)
 }
 
 // oddTerms returns many small terms, most of them malformed, in no particular order.
 func oddTerms() []api.Type {
 	var leaves []api.Type
 	for kind := -1; kind <= api.KindExists+1; kind++ {
-		leaves = append(leaves, node(kind), api.Type{Kind: kind, Name: "A"}, api.Type{Kind: kind, Index: 1}, api.Type{Kind: kind, Name: "Any", Index: -1})
+		leaves = append(leaves, Node(kind), api.Type{Kind: kind, Name: "A"}, api.Type{Kind: kind, Index: 1}, api.Type{Kind: kind, Name: "Any", Index: -1})
 	}
-	few := []api.Type{anyType(), named("A"), variable(0), variable(1), variable(2), variable(-1)}
+	few := []api.Type{Any(), Named("A"), Variable(0), Variable(1), Variable(2), Variable(-1)}
 	terms := slices.Clone(leaves)
 	for _, outer := range leaves {
 		for _, a := range few {
@@ -76,8 +38,8 @@ func oddTerms() []api.Type {
 	}
 	for kind := api.KindNamed; kind <= api.KindExists; kind++ {
 		for _, a := range few {
-			inner := node(kind, variable(1), a)
-			terms = append(terms, node(api.KindExists, inner, inner, inner), named("B", a, inner), tuple(inner, a))
+			inner := Node(kind, Variable(1), a)
+			terms = append(terms, Node(api.KindExists, inner, inner, inner), Named("B", a, inner), Tuple(inner, a))
 		}
 	}
 	return terms
@@ -88,7 +50,7 @@ func show(t api.Type) string { return fmt.Sprintf("%#v", t) }
 
 func expectTerm(t *testing.T, call string, got, want api.Type) {
 	t.Helper()
-	if !same(got, want) {
+	if !Same(got, want) {
 		t.Errorf("%s = %v; want %v", call, got, want)
 	}
 }

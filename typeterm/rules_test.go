@@ -7,6 +7,7 @@ import (
 
 	"telpher/api"
 	"telpher/typeterm"
+	. "telpher/typetest"
 )
 
 // callAll calls every function with the terms.
@@ -30,48 +31,36 @@ func TestArgumentsUnchanged(t *testing.T) {
 	for i, x := range terms {
 		before[i] = show(x)
 	}
-	by := bind(1, named("Map", variable(0), variable(1), variable(-1)))
-	l := []api.Type{by, tuple(variable(1)), node(-1, variable(0))}
-	byBefore, lBefore := show(by), show(tuple(l...))
+	by := bind(1, Named("Map", Variable(0), Variable(1), Variable(-1)))
+	l := []api.Type{by, Tuple(Variable(1)), Node(-1, Variable(0))}
+	byBefore, lBefore := show(by), show(Tuple(l...))
 	for i, x := range terms {
 		callAll(x, by, l)
 		if show(x) != before[i] {
 			t.Errorf("%s was changed to %v", before[i], x)
 		}
 	}
-	if show(by) != byBefore || show(tuple(l...)) != lBefore {
+	if show(by) != byBefore || show(Tuple(l...)) != lBefore {
 		t.Error("the terms put in were changed")
-	}
-}
-
-// scribble overwrites all nodes in the memory that t refers to.
-func scribble(t api.Type) {
-	for i := range t.Args {
-		scribble(t.Args[i])
-		t.Args[i] = api.Type{Kind: 1000, Name: "scribble"}
-	}
-	extra := t.Args[len(t.Args):cap(t.Args)]
-	for i := range extra {
-		extra[i] = api.Type{Kind: 1001, Name: "scribble"}
 	}
 }
 
 // P0.1, rule 2: a result shares no memory with an argument or within itself.
 func TestResultsShareNoMemory(t *testing.T) {
-	shared := tuple(intType(), named("Box", boolType()))
-	x := tuple(variable(0), variable(0), shared, exists(anyType(), tuple(variable(1), named("Box", variable(2)))), shared)
-	by := named("Map", shared, named("Box", intType()))
+	shared := Tuple(Int(), Named("Box", Bool()))
+	x := Tuple(Variable(0), Variable(0), shared, Exists(Any(), Tuple(Variable(1), Named("Box", Variable(2)))), shared)
+	by := Named("Map", shared, Named("Box", Int()))
 	beforeX, beforeBy := show(x), show(by)
 	for _, got := range []api.Type{typeterm.Substitute(x, by), typeterm.Instantiate(x, []api.Type{by, by}), typeterm.Instantiate(x, nil)} {
 		for i := range got.Args {
 			others := slices.Delete(slices.Clone(got.Args), i, i+1)
-			before := show(tuple(others...))
-			scribble(got.Args[i])
-			if show(tuple(others...)) != before {
+			before := show(Tuple(others...))
+			Scribble(got.Args[i])
+			if show(Tuple(others...)) != before {
 				t.Errorf("argument %d shares memory with another one", i)
 			}
 		}
-		scribble(got)
+		Scribble(got)
 		if show(x) != beforeX || show(by) != beforeBy {
 			t.Fatal("a result shares memory with an argument")
 		}
@@ -87,10 +76,10 @@ func TestResultsShareNoMemory(t *testing.T) {
 
 // P0.1, rule 2: a result takes nothing from the room behind an empty Args.
 func TestEmptyArgsShareNoMemory(t *testing.T) {
-	room := repeat(4, intType())
-	x := tuple(room[:0]...)
-	for _, got := range []api.Type{typeterm.Substitute(x, anyType()), typeterm.Instantiate(variable(0), []api.Type{x})} {
-		_ = append(got.Args, boolType())
+	room := Repeat(4, Int())
+	x := Tuple(room[:0]...)
+	for _, got := range []api.Type{typeterm.Substitute(x, Any()), typeterm.Instantiate(Variable(0), []api.Type{x})} {
+		_ = append(got.Args, Bool())
 		if room[0].Name != "Int" {
 			t.Error("the result has the memory behind its argument's Args")
 		}
@@ -102,7 +91,7 @@ func TestNilAndEmpty(t *testing.T) {
 	for kind := -1; kind <= api.KindExists+1; kind++ {
 		a := api.Type{Kind: kind, Name: "A"}
 		b := api.Type{Kind: kind, Name: "A", Args: []api.Type{}}
-		if !typeterm.Equal(a, b) || !typeterm.Equal(tuple(b), tuple(a)) || typeterm.Compare(a, b) != 0 || typeterm.Compare(b, a) != 0 {
+		if !typeterm.Equal(a, b) || !typeterm.Equal(Tuple(b), Tuple(a)) || typeterm.Compare(a, b) != 0 || typeterm.Compare(b, a) != 0 {
 			t.Errorf("kind %d: nil and empty Args differ", kind)
 		}
 		a.Name, b.Name = "", ""
@@ -118,21 +107,21 @@ func TestNilAndEmpty(t *testing.T) {
 // P0.1, rules 1 and 9: terms nest as deep as they may.
 func TestDeepTerms(t *testing.T) {
 	const levels = 1<<16 - 2
-	for _, x := range []api.Type{nest(levels, variable(0)), bind(levels, variable(levels))} {
+	for _, x := range []api.Type{NestTuples(levels, Variable(0)), bind(levels, Variable(levels))} {
 		callAll(x, x, nil)
 		expectValidate(t, x, api.ErrTooLong)
 		if typeterm.Depth(x) != levels+1 || !slices.Equal(typeterm.FreeVars(x), []int{0}) || typeterm.IsPlain(x) || !typeterm.Equal(x, x) {
 			t.Error("a deep term is not measured right")
 		}
-		if got := typeterm.Substitute(x, intType()); len(typeterm.FreeVars(got)) != 0 || typeterm.Depth(got) != levels+1 {
+		if got := typeterm.Substitute(x, Int()); len(typeterm.FreeVars(got)) != 0 || typeterm.Depth(got) != levels+1 {
 			t.Error("Substitute in a deep term")
 		}
 	}
-	boxes := variable(0)
+	boxes := Variable(0)
 	for range levels {
-		boxes = named("Box", boxes)
+		boxes = Named("Box", boxes)
 	}
-	if !typeterm.IsPlain(boxes) || !typeterm.IsPlain(typeterm.Substitute(boxes, intType())) || !slices.Equal(typeterm.Names(boxes), []string{"Box"}) {
+	if !typeterm.IsPlain(boxes) || !typeterm.IsPlain(typeterm.Substitute(boxes, Int())) || !slices.Equal(typeterm.Names(boxes), []string{"Box"}) {
 		t.Error("a deep nominal type is not plain")
 	}
 }
@@ -142,7 +131,7 @@ func TestWideTerms(t *testing.T) {
 	const width = 1 << 18
 	var x api.Type
 	for i := range width {
-		x.Args = append(x.Args, variable(width-i), variable(math.MaxInt), named(string([]byte{byte(i >> 16), byte(i >> 8), byte(i)})))
+		x.Args = append(x.Args, Variable(width-i), Variable(math.MaxInt), Named(string([]byte{byte(i >> 16), byte(i >> 8), byte(i)})))
 	}
 	free, names := typeterm.FreeVars(x), typeterm.Names(x)
 	if len(free) != width+1 || free[0] != 1 || free[width] != math.MaxInt || !slices.IsSorted(free) {

@@ -7,20 +7,21 @@ import (
 
 	"telpher/api"
 	"telpher/typeterm"
+	. "telpher/typetest"
 )
 
 // P2.1, P2.3: valid terms, with and without free variables.
 func TestValidTerms(t *testing.T) {
 	for _, x := range []api.Type{
-		anyType(), never(), intType(), tuple(), variable(0), variable(17),
-		named("a"), named("any"), named("Tuple"), named("Union"), named("Exists"), named("never"), named("Any1"), named("exists_"), named("A_b_9"),
-		named("Box", variable(3)), named("Map", intType(), named("Box", variable(0))),
-		named("Box", exists(anyType(), tuple(variable(0)))), named("Box", tuple(intType())), named("Box", anyType()),
-		tuple(variable(2), union(variable(0), variable(1))),
-		union(anyType(), anyType()), union(never(), intType(), boolType()),
-		exists(anyType(), variable(0)), exists(anyType(), variable(5)), exists(intType(), intType()), exists(never(), tuple(variable(0), named("Box", variable(0)))),
-		exists(exists(anyType(), named("Box", variable(0))), variable(0)),
-		bind(1, exists(named("Box", intType()), tuple(variable(0), variable(1), variable(2)))),
+		Any(), Never(), Int(), Tuple(), Variable(0), Variable(17),
+		Named("a"), Named("any"), Named("Tuple"), Named("Union"), Named("Exists"), Named("never"), Named("Any1"), Named("exists_"), Named("A_b_9"),
+		Named("Box", Variable(3)), Named("Map", Int(), Named("Box", Variable(0))),
+		Named("Box", Exists(Any(), Tuple(Variable(0)))), Named("Box", Tuple(Int())), Named("Box", Any()),
+		Tuple(Variable(2), Union(Variable(0), Variable(1))),
+		Union(Any(), Any()), Union(Never(), Int(), Bool()),
+		Exists(Any(), Variable(0)), Exists(Any(), Variable(5)), Exists(Int(), Int()), Exists(Never(), Tuple(Variable(0), Named("Box", Variable(0)))),
+		Exists(Exists(Any(), Named("Box", Variable(0))), Variable(0)),
+		bind(1, Exists(Named("Box", Int()), Tuple(Variable(0), Variable(1), Variable(2)))),
 	} {
 		expectValidate(t, x, api.OK)
 	}
@@ -30,34 +31,34 @@ func TestValidTerms(t *testing.T) {
 func TestValidateLimits(t *testing.T) {
 	longest := "X" + strings.Repeat("9", api.MaxWord-1)
 	for _, x := range []api.Type{
-		variable(api.MaxNodes),
-		named(longest),
-		named("A", repeat(api.MaxArgs, intType())...),
-		tuple(repeat(api.MaxArgs, intType())...),
-		union(repeat(api.MaxArgs+1, intType())...),
-		union(repeat(api.MaxNodes-1, intType())...),
-		union(tuple(repeat(5, intType())...), union(repeat(api.MaxNodes-8, intType())...)),
-		nest(api.MaxTypeDepth-1, intType()),
-		union(intType(), nest(api.MaxTypeDepth-2, tuple()), intType()),
-		bind(api.MaxTypeDepth-1, variable(0)),
+		Variable(api.MaxNodes),
+		Named(longest),
+		Named("A", Repeat(api.MaxArgs, Int())...),
+		Tuple(Repeat(api.MaxArgs, Int())...),
+		Union(Repeat(api.MaxArgs+1, Int())...),
+		Union(Repeat(api.MaxNodes-1, Int())...),
+		Union(Tuple(Repeat(5, Int())...), Union(Repeat(api.MaxNodes-8, Int())...)),
+		NestTuples(api.MaxTypeDepth-1, Int()),
+		Union(Int(), NestTuples(api.MaxTypeDepth-2, Tuple()), Int()),
+		bind(api.MaxTypeDepth-1, Variable(0)),
 	} {
 		expectValidate(t, x, api.OK)
 	}
 	for _, x := range []api.Type{
-		variable(api.MaxNodes + 1),
-		named(longest + "x"),
-		named("A", repeat(api.MaxArgs+1, intType())...),
-		tuple(repeat(api.MaxArgs+1, intType())...),
+		Variable(api.MaxNodes + 1),
+		Named(longest + "x"),
+		Named("A", Repeat(api.MaxArgs+1, Int())...),
+		Tuple(Repeat(api.MaxArgs+1, Int())...),
 	} {
 		expectValidate(t, x, api.ErrInvalid)
 	}
 	for _, x := range []api.Type{
-		union(repeat(api.MaxNodes, intType())...),
-		union(tuple(repeat(5, intType())...), union(repeat(api.MaxNodes-7, intType())...)),
-		union(union(repeat(api.MaxNodes-7, intType())...), tuple(repeat(5, intType())...)),
-		nest(api.MaxTypeDepth, intType()),
-		union(intType(), nest(api.MaxTypeDepth-1, tuple()), intType()),
-		bind(api.MaxTypeDepth, variable(0)),
+		Union(Repeat(api.MaxNodes, Int())...),
+		Union(Tuple(Repeat(5, Int())...), Union(Repeat(api.MaxNodes-7, Int())...)),
+		Union(Union(Repeat(api.MaxNodes-7, Int())...), Tuple(Repeat(5, Int())...)),
+		NestTuples(api.MaxTypeDepth, Int()),
+		Union(Int(), NestTuples(api.MaxTypeDepth-1, Tuple()), Int()),
+		bind(api.MaxTypeDepth, Variable(0)),
 	} {
 		expectValidate(t, x, api.ErrTooLong)
 	}
@@ -65,22 +66,22 @@ func TestValidateLimits(t *testing.T) {
 
 // P2.3: a term that is too long is not examined any further.
 func TestValidateOrder(t *testing.T) {
-	for _, broken := range []api.Type{node(-1), named("1"), variable(-1), {Index: 1}, node(api.KindExists)} {
-		expectValidate(t, tuple(broken, nest(api.MaxTypeDepth, intType())), api.ErrTooLong)
-		expectValidate(t, union(append(repeat(api.MaxNodes, intType()), broken)...), api.ErrTooLong)
-		expectValidate(t, nest(api.MaxTypeDepth, broken), api.ErrTooLong)
-		expectValidate(t, nest(api.MaxTypeDepth-1, broken), api.ErrInvalid)
+	for _, broken := range []api.Type{Node(-1), Named("1"), Variable(-1), {Index: 1}, Node(api.KindExists)} {
+		expectValidate(t, Tuple(broken, NestTuples(api.MaxTypeDepth, Int())), api.ErrTooLong)
+		expectValidate(t, Union(append(Repeat(api.MaxNodes, Int()), broken)...), api.ErrTooLong)
+		expectValidate(t, NestTuples(api.MaxTypeDepth, broken), api.ErrTooLong)
+		expectValidate(t, NestTuples(api.MaxTypeDepth-1, broken), api.ErrInvalid)
 	}
-	expectValidate(t, tuple(repeat(api.MaxNodes, intType())...), api.ErrTooLong)
-	expectValidate(t, node(api.KindAny, repeat(api.MaxNodes, intType())...), api.ErrTooLong)
-	expectValidate(t, node(55, nest(api.MaxTypeDepth-1, intType())), api.ErrTooLong)
+	expectValidate(t, Tuple(Repeat(api.MaxNodes, Int())...), api.ErrTooLong)
+	expectValidate(t, Node(api.KindAny, Repeat(api.MaxNodes, Int())...), api.ErrTooLong)
+	expectValidate(t, Node(55, NestTuples(api.MaxTypeDepth-1, Int())), api.ErrTooLong)
 }
 
 // P2.3: Validate does not follow a term far beyond its limits (this one has 2^30 - 1 nodes).
 func TestValidateStopsEarly(t *testing.T) {
-	x := intType()
+	x := Int()
 	for range 29 {
-		x = union(x, x)
+		x = Union(x, x)
 	}
 	for range 1000 {
 		expectValidate(t, x, api.ErrTooLong)
@@ -91,30 +92,30 @@ func TestValidateStopsEarly(t *testing.T) {
 func malformed() []api.Type {
 	return []api.Type{
 		// Unknown kinds.
-		node(-1), node(api.KindExists + 1), node(math.MinInt), node(math.MaxInt), node(8, anyType()),
+		Node(-1), Node(api.KindExists + 1), Node(math.MinInt), Node(math.MaxInt), Node(8, Any()),
 		// Fields that the kind does not use.
-		{Kind: api.KindAny, Name: "x"}, {Kind: api.KindAny, Index: 1}, {Kind: api.KindAny, Index: -1}, node(api.KindAny, anyType()),
-		{Kind: api.KindNever, Name: "x"}, {Kind: api.KindNever, Index: 1}, node(api.KindNever, anyType()),
+		{Kind: api.KindAny, Name: "x"}, {Kind: api.KindAny, Index: 1}, {Kind: api.KindAny, Index: -1}, Node(api.KindAny, Any()),
+		{Kind: api.KindNever, Name: "x"}, {Kind: api.KindNever, Index: 1}, Node(api.KindNever, Any()),
 		{Kind: api.KindNamed, Name: "A", Index: 1}, {Kind: api.KindNamed, Name: "A", Index: -1},
 		{Kind: api.KindTuple, Name: "A"}, {Kind: api.KindTuple, Index: 1},
-		{Kind: api.KindUnion, Name: "A", Args: repeat(2, intType())}, {Kind: api.KindUnion, Index: 1, Args: repeat(2, intType())},
-		{Kind: api.KindVar, Name: "A"}, {Kind: api.KindVar, Args: repeat(1, anyType())}, {Kind: api.KindVar, Index: 1, Args: repeat(2, anyType())},
-		{Kind: api.KindExists, Name: "A", Args: repeat(2, intType())}, {Kind: api.KindExists, Index: 1, Args: repeat(2, intType())},
+		{Kind: api.KindUnion, Name: "A", Args: Repeat(2, Int())}, {Kind: api.KindUnion, Index: 1, Args: Repeat(2, Int())},
+		{Kind: api.KindVar, Name: "A"}, {Kind: api.KindVar, Args: Repeat(1, Any())}, {Kind: api.KindVar, Index: 1, Args: Repeat(2, Any())},
+		{Kind: api.KindExists, Name: "A", Args: Repeat(2, Int())}, {Kind: api.KindExists, Index: 1, Args: Repeat(2, Int())},
 		// Names.
-		named(""), named("1a"), named("_a"), named("a-b"), named("a b"), named(" a"), named("a\x00"), named("\u00e9"), named(strings.Repeat("x", 1<<16)),
-		named("Any"), named("Never"), named("tuple"), named("union"), named("exists"), named("tuple", intType()), named("exists", anyType(), variable(0)),
+		Named(""), Named("1a"), Named("_a"), Named("a-b"), Named("a b"), Named(" a"), Named("a\x00"), Named("\u00e9"), Named(strings.Repeat("x", 1<<16)),
+		Named("Any"), Named("Never"), Named("tuple"), Named("union"), Named("exists"), Named("tuple", Int()), Named("exists", Any(), Variable(0)),
 		// Numbers of arguments.
-		node(api.KindUnion), union(intType()), node(api.KindExists), node(api.KindExists, anyType()), node(api.KindExists, anyType(), anyType(), anyType()),
+		Node(api.KindUnion), Union(Int()), Node(api.KindExists), Node(api.KindExists, Any()), Node(api.KindExists, Any(), Any(), Any()),
 		// Indices.
-		variable(-1), variable(math.MinInt), variable(math.MaxInt),
+		Variable(-1), Variable(math.MinInt), Variable(math.MaxInt),
 		// Arguments that are not plain, and bounds that are not closed.
-		named("Box", tuple(variable(0))), named("Box", union(variable(0), intType())), named("Map", intType(), tuple(named("Box", variable(0)))), named("Box", exists(anyType(), variable(1))),
-		named("Box", tuple(variable(199))),
-		exists(variable(0), anyType()), exists(named("Box", variable(0)), variable(0)), exists(bind(1, variable(1)), anyType()), exists(tuple(variable(3)), variable(0)),
+		Named("Box", Tuple(Variable(0))), Named("Box", Union(Variable(0), Int())), Named("Map", Int(), Tuple(Named("Box", Variable(0)))), Named("Box", Exists(Any(), Variable(1))),
+		Named("Box", Tuple(Variable(199))),
+		Exists(Variable(0), Any()), Exists(Named("Box", Variable(0)), Variable(0)), Exists(bind(1, Variable(1)), Any()), Exists(Tuple(Variable(3)), Variable(0)),
 		// A bound may not refer to the variables around it either.
-		bind(1, exists(variable(0), variable(0))), bind(1, exists(named("Box", variable(0)), variable(1))), bind(2, exists(variable(1), anyType())),
+		bind(1, Exists(Variable(0), Variable(0))), bind(1, Exists(Named("Box", Variable(0)), Variable(1))), bind(2, Exists(Variable(1), Any())),
 		// An argument may not contain a variable of a body around the nominal type in this way either.
-		bind(1, named("Box", tuple(variable(0)))),
+		bind(1, Named("Box", Tuple(Variable(0)))),
 	}
 }
 
@@ -122,9 +123,9 @@ func malformed() []api.Type {
 func TestMalformedTerms(t *testing.T) {
 	for _, x := range malformed() {
 		for _, around := range []api.Type{
-			x, tuple(x), tuple(intType(), variable(0), x), union(x, intType()), union(intType(), tuple(x)),
-			exists(x, anyType()), exists(anyType(), x), named("Box", x), named("Map", intType(), named("Box", x)),
-			nest(api.MaxTypeDepth-typeterm.Depth(x), x),
+			x, Tuple(x), Tuple(Int(), Variable(0), x), Union(x, Int()), Union(Int(), Tuple(x)),
+			Exists(x, Any()), Exists(Any(), x), Named("Box", x), Named("Map", Int(), Named("Box", x)),
+			NestTuples(api.MaxTypeDepth-typeterm.Depth(x), x),
 		} {
 			expectValidate(t, around, api.ErrInvalid)
 		}

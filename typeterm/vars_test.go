@@ -7,6 +7,7 @@ import (
 
 	"telpher/api"
 	"telpher/typeterm"
+	. "telpher/typetest"
 )
 
 // P2.2: Size and Depth.
@@ -15,23 +16,23 @@ func TestMeasures(t *testing.T) {
 		t           api.Type
 		size, depth int
 	}{
-		{anyType(), 1, 1},
-		{never(), 1, 1},
-		{variable(3), 1, 1},
-		{tuple(), 1, 1},
-		{tuple(intType()), 2, 2},
-		{tuple(intType(), intType()), 3, 2},
-		{exists(anyType(), named("Box", variable(0))), 4, 3},
-		{tuple(nest(3, intType()), intType()), 6, 5},
-		{tuple(intType(), nest(3, intType())), 6, 5},
-		{tuple(intType(), nest(3, intType()), tuple(intType())), 8, 5},
-		{exists(union(intType(), boolType()), variable(0)), 5, 3},
-		{nest(api.MaxTypeDepth+5, intType()), api.MaxTypeDepth + 6, api.MaxTypeDepth + 6},
-		{union(repeat(1000, intType())...), 1001, 2},
-		{node(99, node(-4, anyType())), 3, 3},
-		{node(api.KindAny, anyType()), 2, 2},
-		{node(api.KindVar, variable(0)), 2, 2},
-		{node(api.KindExists, anyType(), anyType(), tuple(anyType())), 5, 3},
+		{Any(), 1, 1},
+		{Never(), 1, 1},
+		{Variable(3), 1, 1},
+		{Tuple(), 1, 1},
+		{Tuple(Int()), 2, 2},
+		{Tuple(Int(), Int()), 3, 2},
+		{Exists(Any(), Named("Box", Variable(0))), 4, 3},
+		{Tuple(NestTuples(3, Int()), Int()), 6, 5},
+		{Tuple(Int(), NestTuples(3, Int())), 6, 5},
+		{Tuple(Int(), NestTuples(3, Int()), Tuple(Int())), 8, 5},
+		{Exists(Union(Int(), Bool()), Variable(0)), 5, 3},
+		{NestTuples(api.MaxTypeDepth+5, Int()), api.MaxTypeDepth + 6, api.MaxTypeDepth + 6},
+		{Union(Repeat(1000, Int())...), 1001, 2},
+		{Node(99, Node(-4, Any())), 3, 3},
+		{Node(api.KindAny, Any()), 2, 2},
+		{Node(api.KindVar, Variable(0)), 2, 2},
+		{Node(api.KindExists, Any(), Any(), Tuple(Any())), 5, 3},
 	} {
 		if size, depth := typeterm.Size(c.t), typeterm.Depth(c.t); size != c.size || depth != c.depth {
 			t.Errorf("Size and Depth of %v: %d, %d; want %d, %d", c.t, size, depth, c.size, c.depth)
@@ -45,36 +46,36 @@ func TestFreeVars(t *testing.T) {
 		t    api.Type
 		want []int
 	}{
-		{anyType(), nil},
-		{variable(0), []int{0}},
-		{variable(math.MaxInt), []int{math.MaxInt}},
-		{tuple(variable(5), variable(2), variable(5), variable(10), variable(2)), []int{2, 5, 10}},
-		{named("Map", variable(1), named("Box", variable(0))), []int{0, 1}},
-		{exists(anyType(), named("Box", variable(0))), nil},
-		{exists(anyType(), variable(1)), []int{0}},
-		{exists(variable(0), variable(0)), []int{0}},
-		{exists(variable(1), variable(1)), []int{0, 1}},
-		{bind(2, tuple(variable(0), variable(1))), nil},
-		{bind(2, tuple(variable(1), variable(2), variable(4))), []int{0, 2}},
-		{bind(1, exists(variable(0), variable(1))), nil},
-		{bind(1, exists(variable(1), variable(1))), []int{0}},
-		{bind(100, tuple(variable(99), variable(100))), []int{0}},
-		{tuple(bind(3, variable(3)), variable(3)), []int{0, 3}},
-		{tuple(bind(3, variable(2)), variable(2)), []int{2}},
+		{Any(), nil},
+		{Variable(0), []int{0}},
+		{Variable(math.MaxInt), []int{math.MaxInt}},
+		{Tuple(Variable(5), Variable(2), Variable(5), Variable(10), Variable(2)), []int{2, 5, 10}},
+		{Named("Map", Variable(1), Named("Box", Variable(0))), []int{0, 1}},
+		{Exists(Any(), Named("Box", Variable(0))), nil},
+		{Exists(Any(), Variable(1)), []int{0}},
+		{Exists(Variable(0), Variable(0)), []int{0}},
+		{Exists(Variable(1), Variable(1)), []int{0, 1}},
+		{bind(2, Tuple(Variable(0), Variable(1))), nil},
+		{bind(2, Tuple(Variable(1), Variable(2), Variable(4))), []int{0, 2}},
+		{bind(1, Exists(Variable(0), Variable(1))), nil},
+		{bind(1, Exists(Variable(1), Variable(1))), []int{0}},
+		{bind(100, Tuple(Variable(99), Variable(100))), []int{0}},
+		{Tuple(bind(3, Variable(3)), Variable(3)), []int{0, 3}},
+		{Tuple(bind(3, Variable(2)), Variable(2)), []int{2}},
 		// Malformed terms.
-		{variable(-1), nil},
-		{variable(math.MinInt), nil},
-		{bind(2, variable(-1)), nil},
+		{Variable(-1), nil},
+		{Variable(math.MinInt), nil},
+		{bind(2, Variable(-1)), nil},
 		{api.Type{Kind: api.KindTuple, Index: 4}, nil},
 		{api.Type{Kind: api.KindNamed, Index: 4, Name: "A"}, nil},
-		{node(api.KindExists), nil},
-		{node(api.KindExists, variable(0)), []int{0}},
-		{node(api.KindExists, variable(7), variable(0), variable(0)), []int{0, 7}},
-		{node(api.KindExists, anyType(), variable(1), variable(1)), []int{0, 1}},
-		{node(api.KindExists, anyType(), variable(0), anyType(), variable(3)), []int{3}},
-		{node(12, anyType(), variable(0)), []int{0}},
-		{node(api.KindAny, variable(6)), []int{6}},
-		{api.Type{Kind: api.KindVar, Index: 2, Args: []api.Type{anyType(), variable(0)}}, []int{0, 2}},
+		{Node(api.KindExists), nil},
+		{Node(api.KindExists, Variable(0)), []int{0}},
+		{Node(api.KindExists, Variable(7), Variable(0), Variable(0)), []int{0, 7}},
+		{Node(api.KindExists, Any(), Variable(1), Variable(1)), []int{0, 1}},
+		{Node(api.KindExists, Any(), Variable(0), Any(), Variable(3)), []int{3}},
+		{Node(12, Any(), Variable(0)), []int{0}},
+		{Node(api.KindAny, Variable(6)), []int{6}},
+		{api.Type{Kind: api.KindVar, Index: 2, Args: []api.Type{Any(), Variable(0)}}, []int{0, 2}},
 	} {
 		if got := typeterm.FreeVars(c.t); !slices.Equal(got, c.want) {
 			t.Errorf("FreeVars(%v) = %v; want %v", c.t, got, c.want)
@@ -88,16 +89,16 @@ func TestNames(t *testing.T) {
 		t    api.Type
 		want []string
 	}{
-		{anyType(), nil},
-		{variable(0), nil},
-		{tuple(never(), union(anyType(), variable(2))), nil},
-		{intType(), []string{"Int"}},
-		{named("Box", named("Box", intType())), []string{"Box", "Int"}},
-		{exists(union(named("b"), named("B")), tuple(named("a"), named("A1"), named("A"), named("B"))), []string{"A", "A1", "B", "a", "b"}},
-		{tuple(named("\xff"), named("\u00e9"), named("z"), named("")), []string{"", "z", "\u00e9", "\xff"}},
-		{api.Type{Kind: api.KindTuple, Name: "T", Args: []api.Type{{Kind: 77, Name: "U", Args: []api.Type{named("V")}}}}, []string{"V"}},
-		{node(api.KindVar, named("W")), []string{"W"}},
-		{node(api.KindExists, anyType(), anyType(), named("X")), []string{"X"}},
+		{Any(), nil},
+		{Variable(0), nil},
+		{Tuple(Never(), Union(Any(), Variable(2))), nil},
+		{Int(), []string{"Int"}},
+		{Named("Box", Named("Box", Int())), []string{"Box", "Int"}},
+		{Exists(Union(Named("b"), Named("B")), Tuple(Named("a"), Named("A1"), Named("A"), Named("B"))), []string{"A", "A1", "B", "a", "b"}},
+		{Tuple(Named("\xff"), Named("\u00e9"), Named("z"), Named("")), []string{"", "z", "\u00e9", "\xff"}},
+		{api.Type{Kind: api.KindTuple, Name: "T", Args: []api.Type{{Kind: 77, Name: "U", Args: []api.Type{Named("V")}}}}, []string{"V"}},
+		{Node(api.KindVar, Named("W")), []string{"W"}},
+		{Node(api.KindExists, Any(), Any(), Named("X")), []string{"X"}},
 	} {
 		if got := typeterm.Names(c.t); !slices.Equal(got, c.want) {
 			t.Errorf("Names(%v) = %q; want %q", c.t, got, c.want)
@@ -108,35 +109,35 @@ func TestNames(t *testing.T) {
 // P2.2: which terms may be arguments of nominal types.
 func TestIsPlain(t *testing.T) {
 	plain := []api.Type{
-		anyType(), never(), variable(0), variable(1000), tuple(), intType(),
-		tuple(intType(), union(boolType(), never())),
-		exists(anyType(), named("Box", variable(0))),
-		exists(anyType(), union(variable(0), intType())),
-		named("Box", variable(0)),
-		named("Map", variable(3), named("Box", named("Box", variable(1))), exists(anyType(), variable(0))),
-		named("Box", tuple(intType(), intType())),
+		Any(), Never(), Variable(0), Variable(1000), Tuple(), Int(),
+		Tuple(Int(), Union(Bool(), Never())),
+		Exists(Any(), Named("Box", Variable(0))),
+		Exists(Any(), Union(Variable(0), Int())),
+		Named("Box", Variable(0)),
+		Named("Map", Variable(3), Named("Box", Named("Box", Variable(1))), Exists(Any(), Variable(0))),
+		Named("Box", Tuple(Int(), Int())),
 		// Malformed terms.
-		variable(-1), named("", repeat(20, variable(0))...), api.Type{Kind: 50, Index: 3}, tuple(variable(-1)), node(api.KindExists, anyType()),
-		node(api.KindVar, tuple(variable(0))),
+		Variable(-1), Named("", Repeat(20, Variable(0))...), api.Type{Kind: 50, Index: 3}, Tuple(Variable(-1)), Node(api.KindExists, Any()),
+		Node(api.KindVar, Tuple(Variable(0))),
 	}
 	for _, x := range plain {
-		if !typeterm.IsPlain(x) || !typeterm.IsPlain(named("Box", intType(), x)) {
+		if !typeterm.IsPlain(x) || !typeterm.IsPlain(Named("Box", Int(), x)) {
 			t.Errorf("IsPlain(%v) = false", x)
 		}
 	}
 	notPlain := []api.Type{
-		tuple(variable(0)), union(intType(), variable(0)),
-		tuple(named("Box", variable(0))),
-		exists(anyType(), variable(1)),
-		exists(variable(0), anyType()),
-		bind(3, tuple(variable(3))),
-		named("Map", intType(), tuple(variable(0))),
-		named("Box", named("Box", exists(anyType(), named("Box", variable(1))))),
+		Tuple(Variable(0)), Union(Int(), Variable(0)),
+		Tuple(Named("Box", Variable(0))),
+		Exists(Any(), Variable(1)),
+		Exists(Variable(0), Any()),
+		bind(3, Tuple(Variable(3))),
+		Named("Map", Int(), Tuple(Variable(0))),
+		Named("Box", Named("Box", Exists(Any(), Named("Box", Variable(1))))),
 		// Malformed terms.
-		node(50, variable(0)), node(api.KindExists, variable(0)), node(api.KindExists, anyType(), anyType(), variable(0)), node(api.KindAny, variable(0)),
+		Node(50, Variable(0)), Node(api.KindExists, Variable(0)), Node(api.KindExists, Any(), Any(), Variable(0)), Node(api.KindAny, Variable(0)),
 	}
 	for _, x := range notPlain {
-		if typeterm.IsPlain(x) || typeterm.IsPlain(named("Box", intType(), x)) || typeterm.IsPlain(named("Box", x, intType())) {
+		if typeterm.IsPlain(x) || typeterm.IsPlain(Named("Box", Int(), x)) || typeterm.IsPlain(Named("Box", x, Int())) {
 			t.Errorf("IsPlain(%v) = true", x)
 		}
 	}
