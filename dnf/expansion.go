@@ -67,11 +67,12 @@ func (x *expansion) declareAll(bounds []api.Type) scope {
 	return all
 }
 
-func (x *expansion) mostBranches() int {
+// mostBranches returns how many branches of at least so many nodes a term may have.
+func (x *expansion) mostBranches(nodes int) int {
 	if x.limited {
 		return api.MaxBranches
 	}
-	return mostNodes
+	return mostNodes / nodes
 }
 
 // branches returns the branches of a closed term, or false if it or a part of it has too many.
@@ -88,7 +89,7 @@ func (x *expansion) bodies(t api.Type, around scope) ([]api.Type, bool) {
 	case api.KindTuple:
 		return x.tupleBodies(t.Args, around)
 	case api.KindUnion:
-		return x.gather(t.Args, func(member api.Type) ([]api.Type, bool) { return x.bodies(member, around) })
+		return x.gather(members(t, nil), func(member api.Type) ([]api.Type, bool) { return x.bodies(member, around) })
 	case api.KindExists:
 		if len(t.Args) == 2 {
 			return x.existsBodies(t.Args[0], t.Args[1], around)
@@ -97,12 +98,24 @@ func (x *expansion) bodies(t api.Type, around scope) ([]api.Type, bool) {
 	return nil, true
 }
 
+// members appends to l the members of a union, with those of unions in it one by one: the
+// branches would be copied at each level of unions that are nested deep.
+func members(t api.Type, l []api.Type) []api.Type {
+	if t.Kind != api.KindUnion {
+		return append(l, t)
+	}
+	for _, member := range t.Args {
+		l = members(member, l)
+	}
+	return l
+}
+
 // gather joins what find returns for each of the terms, or returns false if that is too much.
 func (x *expansion) gather(terms []api.Type, find func(api.Type) ([]api.Type, bool)) ([]api.Type, bool) {
 	var all []api.Type
 	for _, t := range terms {
 		bodies, ok := find(t)
-		if !ok || len(all)+len(bodies) > x.mostBranches() {
+		if !ok || len(all)+len(bodies) > x.mostBranches(1) {
 			return nil, false
 		}
 		all = append(all, bodies...)
@@ -119,7 +132,7 @@ func (x *expansion) tupleBodies(elements []api.Type, around scope) ([]api.Type, 
 		}
 		lists = append(lists, bodies)
 	}
-	chosen, ok := combinations(lists, x.mostBranches())
+	chosen, ok := combinations(lists, x.mostBranches(1+len(lists)))
 	var tuples []api.Type
 	for _, args := range chosen {
 		tuples = append(tuples, api.Type{Kind: api.KindTuple, Args: args})
@@ -151,7 +164,7 @@ func (x *expansion) bindOne(body api.Type, id int) ([]api.Type, bool) {
 	if !ok {
 		return nil, false
 	}
-	chosen, ok := combinations(slices.Repeat([][]int{choices}, covariant), x.mostBranches())
+	chosen, ok := combinations(slices.Repeat([][]int{choices}, covariant), x.mostBranches(covariant))
 	var bodies []api.Type
 	for _, list := range chosen {
 		bodies = append(bodies, relabel(body, func(_, index int) int {
