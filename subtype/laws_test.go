@@ -12,26 +12,26 @@ import (
 	. "telpher/typetest"
 )
 
-// normal makes a type normal inside: its closed arguments and upper bounds are replaced by
+// normalInside makes a type normal inside: its closed arguments and upper bounds are replaced by
 // normal types. Its own branches may be redundant, on which no law depends.
-func (g generator) normal(t api.Type) api.Type {
+func normalInside(g *Generator, t api.Type) api.Type {
 	t.Args = slices.Clone(t.Args)
 	for i, arg := range t.Args {
 		switch {
 		case t.Kind == api.KindNamed && closed(arg), t.Kind == api.KindExists && i == 0:
-			t.Args[i] = pick(g, Any(), Int(), ints(), circle(), shape(), anyBox(), Box(Int()), Tuple(Int()), Never(), Exists(ints(), Tuple(Variable(0), Box(Variable(0)))))
+			t.Args[i] = Pick(g, Any(), Int(), Ints(), Circle(), Shape(), AnyBox(), Box(Int()), Tuple(Int()), Never(), Exists(Ints(), Tuple(Variable(0), Box(Variable(0)))))
 		default:
-			t.Args[i] = g.normal(arg)
+			t.Args[i] = normalInside(g, arg)
 		}
 	}
 	return t
 }
 
 // normalTypes returns many types that are normal inside.
-func normalTypes(g generator, count int) []api.Type {
+func normalTypes(g *Generator, count int) []api.Type {
 	var l []api.Type
 	for len(l) < count {
-		t := g.normal(g.term(g.IntN(5), 0))
+		t := normalInside(g, g.Term(g.IntN(5), 0))
 		if _, err := dnf.Expand(t); err == api.OK {
 			l = append(l, t)
 		}
@@ -40,17 +40,17 @@ func normalTypes(g generator, count int) []api.Type {
 }
 
 // normalAbove returns a type that is normal inside and often a supertype of t, or false.
-func (g generator) normalAbove(t api.Type) (api.Type, bool) {
+func normalAbove(g *Generator, t api.Type) (api.Type, bool) {
 	l, _ := dnf.Expand(t)
-	above := g.normal(g.aboveBranches(l))
+	above := normalInside(g, g.Above(l))
 	_, err := dnf.Expand(above)
 	return above, err == api.OK
 }
 
 // P5.5: IsSubtype is reflexive.
 func TestReflexive(t *testing.T) {
-	h := newHierarchy()
-	for _, x := range normalTypes(newGenerator(2), 5000) {
+	h := SampleHierarchy()
+	for _, x := range normalTypes(NewGenerator(2), 5000) {
 		expectSubtype(t, h, x, x, true)
 		if !subtype.Equivalent(h, x, x) {
 			t.Errorf("%v is not equivalent to itself", x)
@@ -60,15 +60,15 @@ func TestReflexive(t *testing.T) {
 
 // P5.5: IsSubtype is transitive.
 func TestTransitive(t *testing.T) {
-	h := newHierarchy()
-	g := newGenerator(3)
+	h := SampleHierarchy()
+	g := NewGenerator(3)
 	chains := 0
 	for _, x := range normalTypes(g, 20000) {
-		y, ok := g.normalAbove(x)
+		y, ok := normalAbove(g, x)
 		if !ok || !subtype.IsSubtype(h, x, y) {
 			continue
 		}
-		if z, ok := g.normalAbove(y); ok && subtype.IsSubtype(h, y, z) {
+		if z, ok := normalAbove(g, y); ok && subtype.IsSubtype(h, y, z) {
 			chains++
 			if !subtype.IsSubtype(h, x, z) {
 				t.Fatalf("IsSubtype is not transitive for %v, %v and %v", x, y, z)
@@ -82,12 +82,12 @@ func TestTransitive(t *testing.T) {
 
 // P5.5: a subtype of a member of a union is a subtype of the union, and a union is a subtype if its members are.
 func TestMembersOfUnions(t *testing.T) {
-	h := newHierarchy()
-	g := newGenerator(4)
+	h := SampleHierarchy()
+	g := NewGenerator(4)
 	holds, fails := 0, 0
 	l := normalTypes(g, 6000)
 	for i, x := range l {
-		y, ok := g.normalAbove(x)
+		y, ok := normalAbove(g, x)
 		other := l[len(l)-1-i]
 		both := []api.Type{Union(y, other), Union(other, y), Union(other, Tuple(other), y)}
 		if !ok || slices.ContainsFunc(both, func(u api.Type) bool { _, err := dnf.Expand(u); return err != api.OK }) {
@@ -110,15 +110,15 @@ func TestMembersOfUnions(t *testing.T) {
 
 // P5.5: tuples are compared element-wise, and arguments must be equivalent.
 func TestTuplesAndArguments(t *testing.T) {
-	h := newHierarchy()
-	g := newGenerator(5)
+	h := SampleHierarchy()
+	g := NewGenerator(5)
 	var holds, equivalent int
-	l := []api.Type{Int(), Bool(), circle(), shape(), Any(), ints(), Union(Int(), Bool()), anyBox(), Box(Int()), Box(ints()), Box(Union(Int(), Bool())), Tuple(), Tuple(Int()), Tuple(ints()),
-		Union(Tuple(Int()), Tuple(Bool())), Exists(shape(), Variable(0)), Exists(ints(), Tuple(Variable(0), Box(Variable(0)))), Tuple(ints(), Exists(ints(), Box(Variable(0)))), vec(Int()), list(Int()), Named("Text"), Named("Ring", Int()), vec(Box(Int()))}
+	l := []api.Type{Int(), Bool(), Circle(), Shape(), Any(), Ints(), Union(Int(), Bool()), AnyBox(), Box(Int()), Box(Ints()), Box(Union(Int(), Bool())), Tuple(), Tuple(Int()), Tuple(Ints()),
+		Union(Tuple(Int()), Tuple(Bool())), Exists(Shape(), Variable(0)), Exists(Ints(), Tuple(Variable(0), Box(Variable(0)))), Tuple(Ints(), Exists(Ints(), Box(Variable(0)))), Vec(Int()), List(Int()), Named("Text"), Named("Ring", Int()), Vec(Box(Int()))}
 	for _, x := range l {
 		for _, y := range l {
 			isBelow, isAbove := subtype.IsSubtype(h, x, y), subtype.IsSubtype(h, y, x)
-			v, w := pick(g, l...), pick(g, l...)
+			v, w := Pick(g, l...), Pick(g, l...)
 			if isBelow {
 				holds++
 			}
@@ -130,7 +130,7 @@ func TestTuplesAndArguments(t *testing.T) {
 				t.Errorf("Equivalent(%v, %v) is not IsSubtype in both directions", x, y)
 			}
 			expectSubtype(t, h, Box(x), Box(y), isBelow && isAbove)
-			expectSubtype(t, h, vec(x), list(y), isBelow && isAbove)
+			expectSubtype(t, h, Vec(x), List(y), isBelow && isAbove)
 			expectSubtype(t, h, Named("Map", v, x), Named("Map", v, y), isBelow && isAbove)
 			if isBelow && isAbove && !Same(x, y) {
 				equivalent++
@@ -164,27 +164,19 @@ func answers(h *hierarchy.Hierarchy, l []api.Type) []string {
 
 // P5.5: the results do not change when declarations are added to the hierarchy.
 func TestMonotonic(t *testing.T) {
-	h := newHierarchy()
-	l := []api.Type{Any(), Never(), shape(), circle(), Union(circle(), Named("Square")), list(Int()), Named("Text"), anyBox(), Exists(Any(), list(Variable(0))), Exists(Any(), Named("Coll", Variable(0))),
-		Exists(shape(), Tuple(Variable(0), Box(Variable(0)))), Union(Tuple(circle(), anyBox()), Tuple(Named("Square"), anyBox())), Named("Ring", shape()), vec(Box(shape())), Named("Map", Int(), Box(Int())), Named("Swap", Int(), Int())}
+	h := SampleHierarchy()
+	l := []api.Type{Any(), Never(), Shape(), Circle(), Union(Circle(), Square()), List(Int()), Named("Text"), AnyBox(), Exists(Any(), List(Variable(0))), Exists(Any(), Named("Coll", Variable(0))),
+		Exists(Shape(), Tuple(Variable(0), Box(Variable(0)))), Union(Tuple(Circle(), AnyBox()), Tuple(Square(), AnyBox())), Named("Ring", Shape()), Vec(Box(Shape())), Named("Map", Int(), Box(Int())), Named("Swap", Int(), Int())}
 	before := answers(h, l)
-	expectSubtype(t, h, shape(), Union(circle(), Named("Square")), false)
-	later := []api.Decl{
-		{Name: "Triangle", Super: shape(), Concrete: true},
-		{Name: "Round", Super: shape()},
-		{Name: "Disc", Super: Named("Round"), Concrete: true},
-		{Name: "Deque", Arity: 1, Super: vec(Variable(0)), Concrete: true},
-		{Name: "Words", Super: list(Named("String")), Concrete: true},
-		{Name: "Cage", Arity: 2, Super: Named("Coll", Box(Named("Map", Variable(1), Variable(0))))},
-	}
-	for _, d := range later {
-		declare(h, d)
+	expectSubtype(t, h, Shape(), Union(Circle(), Square()), false)
+	for _, d := range LaterDecls() {
+		Declare(h, d)
 		if after := answers(h, l); !slices.Equal(before, after) {
 			t.Errorf("the declaration of %s changes a result", d.Name)
 		}
 	}
 	// The new declarations count.
-	expectSubtype(t, h, Named("Disc"), shape(), true)
+	expectSubtype(t, h, Named("Disc"), Shape(), true)
 	expectSubtype(t, h, Named("Deque", Int()), Named("Coll", Box(Int())), true)
-	expectSubtype(t, newHierarchy(), Named("Disc"), shape(), false)
+	expectSubtype(t, SampleHierarchy(), Named("Disc"), Shape(), false)
 }

@@ -14,13 +14,13 @@ func pairOf(first, second, body api.Type) api.Type { return Exists(first, Exists
 
 // P5.3: the bodies are compared part by part.
 func TestBodies(t *testing.T) {
-	for _, x := range []api.Type{Any(), Int(), Tuple(), Tuple(Int(), Box(Int())), anyBox()} {
+	for _, x := range []api.Type{Any(), Int(), Tuple(), Tuple(Int(), Box(Int())), AnyBox()} {
 		expectMatch(t, x, Any())
 		expectMatch(t, Tuple(x, Int()), Tuple(Any(), Int()))
 	}
 	expectMatch(t, Int(), Int())
 	expectMatch(t, Tuple(), Tuple())
-	expectMatch(t, Tuple(circle(), Tuple(circle(), Int())), Tuple(shape(), Tuple(Any(), Int())))
+	expectMatch(t, Tuple(Circle(), Tuple(Circle(), Int())), Tuple(Shape(), Tuple(Any(), Int())))
 	for _, x := range []api.Type{Any(), Bool(), Tuple(), Tuple(Int())} {
 		expectNoMatch(t, x, Int())
 	}
@@ -34,39 +34,39 @@ func TestBodies(t *testing.T) {
 
 // P5.3: a KindNamed part needs a supertype of that name, which may be several steps up.
 func TestSupertypes(t *testing.T) {
-	expectMatch(t, circle(), shape())
-	expectNoMatch(t, shape(), circle())
-	expectNoMatch(t, circle(), Named("Square"))
-	expectMatch(t, Named("Text"), list(Int()))
-	expectNoMatch(t, Named("Text"), list(Bool()))
+	expectMatch(t, Circle(), Shape())
+	expectNoMatch(t, Shape(), Circle())
+	expectNoMatch(t, Circle(), Square())
+	expectMatch(t, Named("Text"), List(Int()))
+	expectNoMatch(t, Named("Text"), List(Bool()))
 	expectMatch(t, Named("Text"), Named("Coll", Box(Int())))
-	expectMatch(t, Named("Ring", Int()), vec(Box(Int())))
-	expectMatch(t, Named("Ring", Int()), list(Box(Int())))
+	expectMatch(t, Named("Ring", Int()), Vec(Box(Int())))
+	expectMatch(t, Named("Ring", Int()), List(Box(Int())))
 	expectMatch(t, Named("Ring", Int()), Named("Coll", Box(Box(Int()))))
-	expectNoMatch(t, Named("Ring", Int()), vec(Int()))
+	expectNoMatch(t, Named("Ring", Int()), Vec(Int()))
 	expectNoMatch(t, Named("Ring", Int()), Named("Coll", Box(Int())))
 	expectMatch(t, Named("Swap", Int(), Bool()), Named("Map", Bool(), Box(Int())))
 	expectNoMatch(t, Named("Swap", Int(), Bool()), Named("Map", Int(), Box(Bool())))
 	one := Exists(Any(), Named("Coll", Variable(0)))
-	expectMatch(t, Named("Ring", circle()), one, Box(Box(circle())))
+	expectMatch(t, Named("Ring", Circle()), one, Box(Box(Circle())))
 	expectMatch(t, Named("Text"), one, Box(Int()))
 	expectMatch(t, Exists(Any(), Named("Ring", Variable(0))), one, Box(Box(Variable(0))))
 	expectMatch(t, Exists(Any(), Named("Ring", Variable(0))), Exists(Any(), Named("Coll", Box(Variable(0)))), Box(Variable(0)))
 	expectNoMatch(t, Named("Map", Int(), Int()), Exists(Any(), Box(Variable(0))))
 	// Undeclared types have no supertypes but themselves.
 	expectMatch(t, Named("Unknown", Int()), Exists(Any(), Named("Unknown", Variable(0))), Int())
-	expectNoMatch(t, Named("Unknown"), shape())
-	expectNoMatch(t, Named("Vec", Int(), Int()), Exists(Any(), list(Variable(0))))
+	expectNoMatch(t, Named("Unknown"), Shape())
+	expectNoMatch(t, Named("Vec", Int(), Int()), Exists(Any(), List(Variable(0))))
 }
 
 // P5.1: a variable that is not assigned takes any argument, and has to agree with later ones.
 func TestVariablesInArguments(t *testing.T) {
-	twice := Exists(Any(), Tuple(Box(Variable(0)), vec(Variable(0))))
-	for _, x := range []api.Type{Int(), Any(), ints(), Tuple(), Box(Int()), anyBox(), Never()} {
-		expectMatch(t, Box(x), anyBox(), x)
-		expectMatch(t, Tuple(Box(x), vec(x)), twice, x)
+	twice := Exists(Any(), Tuple(Box(Variable(0)), Vec(Variable(0))))
+	for _, x := range []api.Type{Int(), Any(), Ints(), Tuple(), Box(Int()), AnyBox(), Never()} {
+		expectMatch(t, Box(x), AnyBox(), x)
+		expectMatch(t, Tuple(Box(x), Vec(x)), twice, x)
 		expectMatch(t, Named("Map", x, x), Exists(Any(), Named("Map", Variable(0), Variable(0))), x)
-		expectNoMatch(t, Tuple(Box(x), vec(circle())), twice)
+		expectNoMatch(t, Tuple(Box(x), Vec(Circle())), twice)
 	}
 	thrice := Exists(Any(), Tuple(Box(Variable(0)), Box(Variable(0)), Box(Variable(0))))
 	expectMatch(t, Tuple(Box(Int()), Box(Int()), Box(Int())), thrice, Int())
@@ -76,36 +76,36 @@ func TestVariablesInArguments(t *testing.T) {
 	// P5.3: the terms are in the order of the variables of the pattern, which is that of their first occurrences.
 	expectMatch(t, Tuple(Box(Int()), Box(Bool())), pairOf(Any(), Any(), Tuple(Box(Variable(1)), Box(Variable(0)))), Int(), Bool())
 	expectMatch(t, Tuple(Box(Int()), Box(Bool())), pairOf(Any(), Any(), Tuple(Box(Variable(0)), Box(Variable(1)))), Int(), Bool())
-	expectMatch(t, Tuple(circle(), Box(Int()), vec(shape())), pairOf(Any(), Any(), Tuple(Variable(1), Box(Variable(0)), vec(Variable(1)))), shape(), Int())
+	expectMatch(t, Tuple(Circle(), Box(Int()), Vec(Shape())), pairOf(Any(), Any(), Tuple(Variable(1), Box(Variable(0)), Vec(Variable(1)))), Shape(), Int())
 }
 
 // P5.1: closed arguments fit if they are equivalent, even if they are not equal. The first one is assigned.
 func TestEquivalentArguments(t *testing.T) {
 	swapped := Union(Int(), Bool())
 	twoBoxes := pairOf(Any(), Any(), Tuple(Box(Variable(0)), Box(Variable(1))))
-	twoBoxesAgain := Tuple(anyBox(), anyBox())
-	expectMatch(t, Box(ints()), Box(swapped))
+	twoBoxesAgain := Tuple(AnyBox(), AnyBox())
+	expectMatch(t, Box(Ints()), Box(swapped))
 	expectMatch(t, Box(twoBoxes), Box(twoBoxesAgain))
-	expectMatch(t, Box(Box(ints())), Box(Box(swapped)))
-	expectMatch(t, Box(Exists(shape(), Variable(0))), Box(shape()))
-	twice := Exists(Any(), Tuple(Box(Variable(0)), vec(Variable(0))))
-	expectMatch(t, Tuple(Box(ints()), vec(swapped)), twice, ints())
-	expectMatch(t, Tuple(Box(swapped), vec(ints())), twice, swapped)
-	expectMatch(t, Tuple(Box(twoBoxes), vec(twoBoxesAgain)), twice, twoBoxes)
-	expectMatch(t, Tuple(Box(Box(ints())), vec(Box(swapped))), twice, Box(ints()))
-	for _, x := range []api.Type{Int(), Any(), Never(), Union(Int(), circle())} {
+	expectMatch(t, Box(Box(Ints())), Box(Box(swapped)))
+	expectMatch(t, Box(Exists(Shape(), Variable(0))), Box(Shape()))
+	twice := Exists(Any(), Tuple(Box(Variable(0)), Vec(Variable(0))))
+	expectMatch(t, Tuple(Box(Ints()), Vec(swapped)), twice, Ints())
+	expectMatch(t, Tuple(Box(swapped), Vec(Ints())), twice, swapped)
+	expectMatch(t, Tuple(Box(twoBoxes), Vec(twoBoxesAgain)), twice, twoBoxes)
+	expectMatch(t, Tuple(Box(Box(Ints())), Vec(Box(swapped))), twice, Box(Ints()))
+	for _, x := range []api.Type{Int(), Any(), Never(), Union(Int(), Circle())} {
 		expectNoMatch(t, Box(x), Box(swapped))
 		expectNoMatch(t, Box(swapped), Box(x))
-		expectNoMatch(t, Tuple(Box(x), vec(swapped)), twice)
-		expectNoMatch(t, Tuple(Box(swapped), vec(x)), twice)
+		expectNoMatch(t, Tuple(Box(x), Vec(swapped)), twice)
+		expectNoMatch(t, Tuple(Box(swapped), Vec(x)), twice)
 	}
-	expectNoMatch(t, Box(circle()), Box(shape()))
-	expectNoMatch(t, Box(shape()), Box(circle()))
+	expectNoMatch(t, Box(Circle()), Box(Shape()))
+	expectNoMatch(t, Box(Shape()), Box(Circle()))
 	// An argument of b that is not closed does not fit a closed one.
-	expectNoMatch(t, anyBox(), Box(Any()))
+	expectNoMatch(t, AnyBox(), Box(Any()))
 	expectNoMatch(t, Exists(Int(), Box(Variable(0))), Box(Int()))
 	expectNoMatch(t, Exists(Any(), Box(Box(Variable(0)))), Box(Box(Any())))
-	expectNoMatch(t, Exists(Any(), Box(Box(Variable(0)))), Box(anyBox()))
+	expectNoMatch(t, Exists(Any(), Box(Box(Variable(0)))), Box(AnyBox()))
 }
 
 // P5.1: a KindNamed argument that is not closed needs the same name and arguments that fit.
@@ -114,12 +114,12 @@ func TestNamedArguments(t *testing.T) {
 	expectMatch(t, Box(Box(Int())), inBox, Int())
 	expectMatch(t, Exists(Any(), Box(Box(Variable(0)))), inBox, Variable(0))
 	expectMatch(t, Box(Box(Box(Int()))), inBox, Box(Int()))
-	for _, x := range []api.Type{Int(), Any(), vec(Int()), Named("Box", Int(), Int()), Named("Box"), Tuple(Int()), anyBox(), Union(Box(Int()), Box(Bool()))} {
+	for _, x := range []api.Type{Int(), Any(), Vec(Int()), Named("Box", Int(), Int()), Named("Box"), Tuple(Int()), AnyBox(), Union(Box(Int()), Box(Bool()))} {
 		expectNoMatch(t, Box(x), inBox)
 	}
 	// Arguments are not compared with their supertypes.
-	expectNoMatch(t, Box(vec(Int())), Exists(Any(), Box(list(Variable(0)))))
-	expectNoMatch(t, anyBox(), inBox)
+	expectNoMatch(t, Box(Vec(Int())), Exists(Any(), Box(List(Variable(0)))))
+	expectNoMatch(t, AnyBox(), inBox)
 	mixed := Exists(Any(), Box(Named("Map", Int(), Variable(0))))
 	expectMatch(t, Box(Named("Map", Int(), Bool())), mixed, Bool())
 	expectNoMatch(t, Box(Named("Map", Bool(), Int())), mixed)
@@ -140,14 +140,14 @@ func TestRigidVariables(t *testing.T) {
 	expectNoMatch(t, Exists(Int(), Tuple(Box(Variable(0)), Box(Int()))), twice)
 	expectNoMatch(t, Exists(Int(), Tuple(Box(Int()), Box(Variable(0)))), twice)
 	expectMatch(t, Exists(Any(), Tuple(Box(Box(Variable(0))), Box(Box(Variable(0))))), twice, Box(Variable(0)))
-	expectMatch(t, Exists(Any(), Tuple(Box(Named("Map", Variable(0), ints())), Box(Named("Map", Variable(0), Union(Int(), Bool()))))), twice, Named("Map", Variable(0), ints()))
+	expectMatch(t, Exists(Any(), Tuple(Box(Named("Map", Variable(0), Ints())), Box(Named("Map", Variable(0), Union(Int(), Bool()))))), twice, Named("Map", Variable(0), Ints()))
 	expectNoMatch(t, Exists(Any(), Tuple(Box(Named("Map", Variable(0), Int())), Box(Named("Map", Variable(0), Bool())))), twice)
-	expectNoMatch(t, Exists(Any(), Tuple(Box(Box(Variable(0))), Box(vec(Variable(0))))), twice)
+	expectNoMatch(t, Exists(Any(), Tuple(Box(Box(Variable(0))), Box(Vec(Variable(0))))), twice)
 	expectNoMatch(t, Exists(Any(), Tuple(Box(Box(Variable(0))), Box(Named("Box", Variable(0), Variable(0))))), twice)
 	expectNoMatch(t, Exists(Any(), Tuple(Box(Variable(0)), Box(Box(Variable(0))))), twice)
 	expectNoMatch(t, Exists(Any(), Tuple(Box(Box(Variable(0))), Box(Variable(0)))), twice)
 	// Arguments that agree are not compared with their supertypes.
-	expectNoMatch(t, Exists(Any(), Tuple(Box(list(Variable(0))), Box(vec(Variable(0))))), twice)
+	expectNoMatch(t, Exists(Any(), Tuple(Box(List(Variable(0))), Box(Vec(Variable(0))))), twice)
 }
 
 // P5.2 and P5.3: a part at a covariant occurrence has to be a subtype of the assigned closed term.
@@ -158,9 +158,9 @@ func TestCovariantOccurrences(t *testing.T) {
 		part, argument api.Type
 		ok             bool
 	}{
-		{Int(), Int(), true}, {Int(), Any(), true}, {Int(), ints(), true}, {Int(), Never(), false}, {Any(), Int(), false}, {Any(), Any(), true},
-		{circle(), shape(), true}, {shape(), circle(), false}, {vec(Int()), list(Int()), true}, {vec(Int()), anyBox(), false}, {Named("Ring", Int()), Exists(Any(), list(Box(Variable(0)))), true},
-		{Tuple(circle(), Int()), Tuple(shape(), Any()), true}, {Tuple(circle(), Int()), Tuple(Any()), false}, {Tuple(circle()), Any(), true}, {Tuple(Int()), Union(Tuple(Int()), Bool()), true}, {Tuple(), Int(), false},
+		{Int(), Int(), true}, {Int(), Any(), true}, {Int(), Ints(), true}, {Int(), Never(), false}, {Any(), Int(), false}, {Any(), Any(), true},
+		{Circle(), Shape(), true}, {Shape(), Circle(), false}, {Vec(Int()), List(Int()), true}, {Vec(Int()), AnyBox(), false}, {Named("Ring", Int()), Exists(Any(), List(Box(Variable(0)))), true},
+		{Tuple(Circle(), Int()), Tuple(Shape(), Any()), true}, {Tuple(Circle(), Int()), Tuple(Any()), false}, {Tuple(Circle()), Any(), true}, {Tuple(Int()), Union(Tuple(Int()), Bool()), true}, {Tuple(), Int(), false},
 	} {
 		if c.ok {
 			expectMatch(t, Tuple(c.part, Box(c.argument)), before, c.argument)
@@ -172,11 +172,11 @@ func TestCovariantOccurrences(t *testing.T) {
 	}
 	// All parts count, and a variable is assigned by its first invariant occurrence only.
 	all := Exists(Any(), Tuple(Variable(0), Box(Variable(0)), Variable(0), Variable(0)))
-	expectMatch(t, Tuple(Int(), Box(ints()), Bool(), Int()), all, ints())
+	expectMatch(t, Tuple(Int(), Box(Ints()), Bool(), Int()), all, Ints())
 	for i := range 4 {
-		elements := []api.Type{Int(), Box(ints()), Bool(), Int()}
+		elements := []api.Type{Int(), Box(Ints()), Bool(), Int()}
 		if i != 1 {
-			elements[i] = circle()
+			elements[i] = Circle()
 			expectNoMatch(t, Tuple(elements...), all)
 		}
 	}
@@ -191,24 +191,24 @@ func TestPartsWithVariables(t *testing.T) {
 		return Exists(bound, Tuple(Variable(0), Box(argument), Box(Variable(0))))
 	}
 	pattern := Exists(Any(), Tuple(Variable(0), Box(Variable(0)), Any()))
-	expectMatch(t, loose(Int(), ints()), pattern, ints())
-	expectMatch(t, loose(ints(), ints()), pattern, ints())
+	expectMatch(t, loose(Int(), Ints()), pattern, Ints())
+	expectMatch(t, loose(Ints(), Ints()), pattern, Ints())
 	expectMatch(t, loose(Never(), Int()), pattern, Int())
-	expectMatch(t, loose(anyBox(), anyBox()), pattern, anyBox())
-	expectNoMatch(t, loose(ints(), Int()), pattern)
+	expectMatch(t, loose(AnyBox(), AnyBox()), pattern, AnyBox())
+	expectNoMatch(t, loose(Ints(), Int()), pattern)
 	expectNoMatch(t, loose(Any(), Int()), pattern)
-	expectNoMatch(t, loose(anyBox(), Box(Int())), pattern)
-	expectMatch(t, Exists(Any(), Tuple(Box(Variable(0)), Box(anyBox()))), before, anyBox())
-	expectMatch(t, Exists(Int(), Tuple(Box(Variable(0)), Box(Exists(ints(), Box(Variable(0)))))), before, Exists(ints(), Box(Variable(0))))
-	expectNoMatch(t, Exists(Any(), Tuple(Box(Variable(0)), Box(Exists(ints(), Box(Variable(0)))))), before)
+	expectNoMatch(t, loose(AnyBox(), Box(Int())), pattern)
+	expectMatch(t, Exists(Any(), Tuple(Box(Variable(0)), Box(AnyBox()))), before, AnyBox())
+	expectMatch(t, Exists(Int(), Tuple(Box(Variable(0)), Box(Exists(Ints(), Box(Variable(0)))))), before, Exists(Ints(), Box(Variable(0))))
+	expectNoMatch(t, Exists(Any(), Tuple(Box(Variable(0)), Box(Exists(Ints(), Box(Variable(0)))))), before)
 	expectNoMatch(t, Exists(Int(), Tuple(Box(Variable(0)), Box(Box(Int())))), before)
 	// In the part, the variable has an invariant occurrence, or it has none.
-	both := Exists(ints(), Tuple(Variable(0), Box(Variable(0))))
-	expectMatch(t, Exists(ints(), Tuple(Tuple(Variable(0), Box(Variable(0))), Box(both))), before, both)
+	both := Exists(Ints(), Tuple(Variable(0), Box(Variable(0))))
+	expectMatch(t, Exists(Ints(), Tuple(Tuple(Variable(0), Box(Variable(0))), Box(both))), before, both)
 	expectMatch(t, Exists(Int(), Tuple(Tuple(Variable(0), Box(Variable(0))), Box(both))), before, both)
 	expectNoMatch(t, Exists(Any(), Tuple(Tuple(Variable(0), Box(Variable(0))), Box(both))), before)
 	pairs := Union(Tuple(Int(), Int()), Tuple(Int(), Bool()), Tuple(Bool(), Int()), Tuple(Bool(), Bool()))
-	inner := Exists(ints(), Tuple(Tuple(Variable(0), Variable(0)), Box(pairs), Box(Variable(0))))
+	inner := Exists(Ints(), Tuple(Tuple(Variable(0), Variable(0)), Box(pairs), Box(Variable(0))))
 	expectMatch(t, inner, pattern, pairs)
 	inner.Args[1].Args[1] = Box(Union(pairs.Args[:3]...))
 	expectNoMatch(t, inner, pattern)
@@ -219,7 +219,7 @@ func TestPartsWithVariables(t *testing.T) {
 func TestOpenAssignedTerms(t *testing.T) {
 	before := Exists(Any(), Tuple(Variable(0), Box(Variable(0))))
 	expectMatch(t, Exists(Int(), Tuple(Variable(0), Box(Variable(0)))), before, Variable(0))
-	expectMatch(t, Exists(ints(), Tuple(Variable(0), Box(Variable(0)))), before, Variable(0))
+	expectMatch(t, Exists(Ints(), Tuple(Variable(0), Box(Variable(0)))), before, Variable(0))
 	// Another part is not a subtype of a rigid variable, not even another variable with the same bound or Never.
 	for _, part := range []api.Type{Int(), Any(), Box(Variable(0)), Box(Int()), Tuple(), Tuple(Variable(0))} {
 		expectNoMatch(t, Exists(Int(), Tuple(part, Box(Variable(0)))), before)
@@ -231,13 +231,13 @@ func TestOpenAssignedTerms(t *testing.T) {
 		part, argument api.Type
 		ok             bool
 	}{
-		{vec(Variable(0)), list(Variable(0)), true}, {vec(Variable(0)), vec(Variable(0)), true}, {list(Variable(0)), vec(Variable(0)), false}, {vec(Variable(0)), Named("Coll", Box(Variable(0))), true},
-		{Named("Ring", Variable(0)), list(Box(Variable(0))), true}, {Named("Ring", Variable(0)), list(Variable(0)), false}, {vec(Int()), list(Variable(0)), false}, {vec(Box(Variable(0))), list(Variable(0)), false},
-		{Variable(0), list(Variable(0)), false}, {Any(), list(Variable(0)), false}, {Tuple(vec(Variable(0))), list(Variable(0)), false}, {circle(), list(Variable(0)), false},
-		{Named("Pair", Variable(0), ints()), Named("Map", Variable(0), Box(Union(Int(), Bool()))), true}, {Named("Pair", Variable(0), Int()), Named("Map", Variable(0), Box(Bool())), false}, {Named("Swap", ints(), Variable(0)), Named("Pair", Variable(0), Union(Int(), Bool())), true},
-		{Named("List", Variable(0), Variable(0)), list(Variable(0)), false},
+		{Vec(Variable(0)), List(Variable(0)), true}, {Vec(Variable(0)), Vec(Variable(0)), true}, {List(Variable(0)), Vec(Variable(0)), false}, {Vec(Variable(0)), Named("Coll", Box(Variable(0))), true},
+		{Named("Ring", Variable(0)), List(Box(Variable(0))), true}, {Named("Ring", Variable(0)), List(Variable(0)), false}, {Vec(Int()), List(Variable(0)), false}, {Vec(Box(Variable(0))), List(Variable(0)), false},
+		{Variable(0), List(Variable(0)), false}, {Any(), List(Variable(0)), false}, {Tuple(Vec(Variable(0))), List(Variable(0)), false}, {Circle(), List(Variable(0)), false},
+		{Named("Pair", Variable(0), Ints()), Named("Map", Variable(0), Box(Union(Int(), Bool()))), true}, {Named("Pair", Variable(0), Int()), Named("Map", Variable(0), Box(Bool())), false}, {Named("Swap", Ints(), Variable(0)), Named("Pair", Variable(0), Union(Int(), Bool())), true},
+		{Named("List", Variable(0), Variable(0)), List(Variable(0)), false},
 	} {
-		b := Exists(list(Int()), Tuple(c.part, Box(c.argument)))
+		b := Exists(List(Int()), Tuple(c.part, Box(c.argument)))
 		if c.ok {
 			expectMatch(t, b, before, c.argument)
 		} else {
@@ -253,9 +253,9 @@ func TestUpperBounds(t *testing.T) {
 		argument, bound api.Type
 		ok              bool
 	}{
-		{Int(), Int(), true}, {Int(), ints(), true}, {Int(), Bool(), false}, {ints(), ints(), true}, {ints(), Int(), false}, {circle(), shape(), true}, {shape(), circle(), false},
-		{Any(), shape(), false}, {Any(), Any(), true}, {Never(), circle(), true}, {Never(), Never(), true}, {Int(), Never(), false}, {Union(circle(), Named("Square")), shape(), true},
-		{Box(Int()), anyBox(), true}, {anyBox(), anyBox(), true}, {anyBox(), Box(Int()), false}, {Tuple(Int()), Tuple(Any()), true}, {Tuple(), Tuple(Any()), false}, {vec(Int()), boxOf(Any()), false},
+		{Int(), Int(), true}, {Int(), Ints(), true}, {Int(), Bool(), false}, {Ints(), Ints(), true}, {Ints(), Int(), false}, {Circle(), Shape(), true}, {Shape(), Circle(), false},
+		{Any(), Shape(), false}, {Any(), Any(), true}, {Never(), Circle(), true}, {Never(), Never(), true}, {Int(), Never(), false}, {Union(Circle(), Square()), Shape(), true},
+		{Box(Int()), AnyBox(), true}, {AnyBox(), AnyBox(), true}, {AnyBox(), Box(Int()), false}, {Tuple(Int()), Tuple(Any()), true}, {Tuple(), Tuple(Any()), false}, {Vec(Int()), boxOf(Any()), false},
 	} {
 		if c.ok {
 			expectMatch(t, Box(c.argument), boxOf(c.bound), c.argument)
@@ -265,9 +265,9 @@ func TestUpperBounds(t *testing.T) {
 			expectNoMatch(t, boxOf(c.argument), boxOf(c.bound))
 		}
 	}
-	expectMatch(t, boxOf(ints()), boxOf(Union(Int(), Bool())), Variable(0))
-	expectMatch(t, Exists(Int(), Box(Box(Variable(0)))), boxOf(boxOf(ints())), Box(Variable(0)))
-	expectNoMatch(t, Exists(Any(), Box(Box(Variable(0)))), boxOf(boxOf(ints())))
+	expectMatch(t, boxOf(Ints()), boxOf(Union(Int(), Bool())), Variable(0))
+	expectMatch(t, Exists(Int(), Box(Box(Variable(0)))), boxOf(boxOf(Ints())), Box(Variable(0)))
+	expectNoMatch(t, Exists(Any(), Box(Box(Variable(0)))), boxOf(boxOf(Ints())))
 	// The bound of each variable counts.
 	two := func(first, second api.Type) api.Type {
 		return pairOf(first, second, Tuple(Box(Variable(1)), Box(Variable(0))))
@@ -279,12 +279,12 @@ func TestUpperBounds(t *testing.T) {
 
 // P5.3: Match looks at the given branches only: it splits none.
 func TestMatchDoesNotSplit(t *testing.T) {
-	b := Exists(ints(), Tuple(Variable(0), Box(Variable(0))))
+	b := Exists(Ints(), Tuple(Variable(0), Box(Variable(0))))
 	expectNoMatch(t, b, Exists(Any(), Tuple(Int(), Box(Variable(0)))))
 	expectNoMatch(t, Exists(Int(), Tuple(Variable(0), Box(Variable(0)))), Exists(Any(), Tuple(Int(), Box(Variable(0)))))
 	expectNoMatch(t, Exists(Int(), Tuple(Variable(0), Box(Variable(0)))), Tuple(Int(), Box(Int())))
 	expectMatch(t, b, Exists(Any(), Tuple(Any(), Box(Variable(0)))), Variable(0))
-	h := newHierarchy()
+	h := SampleHierarchy()
 	if !subtype.IsSubtype(h, Exists(Int(), Tuple(Variable(0), Box(Variable(0)))), Exists(Any(), Tuple(Int(), Box(Variable(0))))) {
 		t.Error("IsSubtype does not split")
 	}
@@ -296,18 +296,18 @@ func TestMatchOfLargeBranches(t *testing.T) {
 	b, p := Branch(Tuple()), Branch(Tuple())
 	var want []api.Type
 	for i := range count {
-		b.Bounds = append(b.Bounds, ints())
-		p.Bounds = append(p.Bounds, ints())
+		b.Bounds = append(b.Bounds, Ints())
+		p.Bounds = append(p.Bounds, Ints())
 		b.Body.Args = append(b.Body.Args, Variable(count-1-i), Box(Variable(i)), Variable(i))
 		p.Body.Args = append(p.Body.Args, Any(), Box(Variable(i)), Variable(i))
 		want = append(want, Variable(i))
 	}
-	got, ok := subtype.Match(newHierarchy(), b, p)
+	got, ok := subtype.Match(SampleHierarchy(), b, p)
 	if !ok || !slices.EqualFunc(got, want, Same) {
 		t.Errorf("Match of large branches = %s, %v", brief(got), ok)
 	}
 	p.Bounds[count-1] = Int()
-	if got, ok := subtype.Match(newHierarchy(), b, p); ok || got != nil {
+	if got, ok := subtype.Match(SampleHierarchy(), b, p); ok || got != nil {
 		t.Errorf("Match of large branches = %s, %v; want nil, false", brief(got), ok)
 	}
 }

@@ -1,7 +1,6 @@
 package subtype_test
 
 import (
-	"math/rand/v2"
 	"slices"
 	"testing"
 
@@ -147,156 +146,13 @@ func (m *model) isSubtype(s, t api.Type) bool {
 
 func (m *model) equivalent(s, t api.Type) bool { return m.isSubtype(s, t) && m.isSubtype(t, s) }
 
-// generator makes types in a sequence that is always the same.
-type generator struct{ *rand.Rand }
-
-func newGenerator(seed uint64) generator { return generator{rand.New(rand.NewPCG(5, seed))} }
-
-func pick[T any](g generator, l ...T) T { return l[g.IntN(len(l))] }
-
-// term returns a valid term with so many levels, all of whose free variables are below vars.
-func (g generator) term(levels, vars int) api.Type {
-	choice := g.IntN(40)
-	switch {
-	case vars > 0 && choice < 14:
-		return Variable(g.IntN(vars))
-	case levels <= 0 || choice < 20:
-		return g.plain(2, vars)
-	case choice < 22:
-		return pick(g, Any(), Any(), Any(), Never())
-	case choice < 29:
-		return Tuple(g.terms(1+g.IntN(3), levels-1, vars)...)
-	case choice < 31:
-		return Union(g.terms(2, levels-1, vars)...)
-	}
-	return Exists(g.bound(), g.quantified(levels-1, vars+1))
-}
-
-// quantified returns a term in which variable 0 often has occurrences of both kinds.
-func (g generator) quantified(levels, vars int) api.Type {
-	if g.IntN(4) == 0 {
-		return g.term(levels, vars)
-	}
-	elements := []api.Type{Variable(0), pick(g, Box(Variable(0)), Box(Variable(0)), vec(Variable(0)), Box(Box(Variable(0))))}
-	for range g.IntN(3) {
-		elements = append(elements, pick(g, Variable(0), g.term(levels-1, vars), g.term(levels-1, vars)))
-	}
-	g.Shuffle(len(elements), func(i, j int) { elements[i], elements[j] = elements[j], elements[i] })
-	return Tuple(elements...)
-}
-
-func (g generator) terms(count, levels, vars int) []api.Type {
-	var l []api.Type
-	for range count {
-		l = append(l, g.term(levels, vars))
-	}
-	return l
-}
-
-// bound returns an upper bound, often one that is worth a split.
-func (g generator) bound() api.Type {
-	return pick(g, Any(), Any(), Int(), ints(), ints(), shape(), circle(), Union(Int(), shape()), anyBox(), Box(Int()), Box(ints()), vec(Int()), Tuple(Int()),
-		Exists(ints(), Tuple(Variable(0), Box(Variable(0)))), Union(Int(), Exists(Any(), Tuple(Variable(0), vec(Variable(0))))), Never())
-}
-
-// plain returns a plain nominal type.
-func (g generator) plain(levels, vars int) api.Type {
-	argument := func() api.Type {
-		switch choice := g.IntN(8); {
-		case vars > 0 && choice < 4:
-			return Variable(g.IntN(vars))
-		case levels == 0 || choice < 6:
-			return pick(g, Int(), Bool(), circle(), shape(), Any(), ints())
-		case choice < 7:
-			return g.term(1, 0)
-		}
-		return g.plain(levels-1, vars)
-	}
-	switch choice := g.IntN(10); {
-	case choice < 3:
-		return pick(g, Int(), Bool(), circle(), shape(), Named("Text"))
-	case choice < 8:
-		return Named(pick(g, "Box", "Box", "List", "Vec", "Ring", "Coll"), argument())
-	}
-	return Named(pick(g, "Map", "Pair", "Swap"), argument(), argument())
-}
-
-// above returns a body or a plain term that is often a supertype of t, and sometimes not.
-func (g generator) above(t api.Type, vars int) api.Type {
-	switch choice := g.IntN(24); {
-	case choice == 0:
-		return Any()
-	case choice == 1 && vars > 0:
-		return Variable(g.IntN(vars))
-	case choice == 2:
-		return g.plain(1, vars)
-	}
-	t.Args = slices.Clone(t.Args)
-	for i, arg := range t.Args {
-		switch {
-		case t.Kind == api.KindTuple:
-			t.Args[i] = g.above(arg, vars)
-		case t.Kind == api.KindNamed && vars > 0 && g.IntN(3) == 0:
-			t.Args[i] = Variable(g.IntN(vars))
-		}
-	}
-	return t
-}
-
-// aboveBranches returns the union of types above the branches of some splits of l.
-func (g generator) aboveBranches(l []api.Branch) api.Type {
-	l = slices.Clone(l)
-	for range g.IntN(4) {
-		for i, b := range l {
-			if count := len(dnf.CovariantVars(b)); count > 0 && g.IntN(2) == 0 {
-				l = slices.Concat(l[:i], split(b, g.IntN(count)), l[i+1:])
-				break
-			}
-		}
-	}
-	var members []api.Type
-	for _, b := range l {
-		if g.IntN(12) > 0 {
-			vars := len(b.Bounds) + g.IntN(3)
-			members = append(members, dnf.BranchType(Branch(g.above(b.Body, vars), g.boundsAbove(b.Bounds, vars)...)))
-		}
-	}
-	for range 2 - min(len(members), 2) {
-		members = append(members, g.term(3, 0))
-	}
-	return Union(members...)
-}
-
-func (g generator) boundsAbove(bounds []api.Type, count int) []api.Type {
-	bounds = slices.Clone(bounds)
-	for i := range bounds {
-		if g.IntN(3) == 0 {
-			bounds[i] = Any()
-		}
-	}
-	for len(bounds) < count {
-		bounds = append(bounds, g.bound())
-	}
-	return bounds
-}
-
-// pair returns two types, of which the first is often a subtype of the second.
-func (g generator) pair() (api.Type, api.Type) {
-	s := g.term(1+g.IntN(5), 0)
-	l, err := dnf.Expand(s)
-	if err != api.OK || g.IntN(4) == 0 {
-		return s, g.term(1+g.IntN(4), 0)
-	}
-	return s, g.aboveBranches(l)
-}
-
 // P5.1 to P5.4: the functions agree with the model on many types.
 func TestAgreesWithModel(t *testing.T) {
-	g := newGenerator(1)
-	h := newHierarchy()
+	g := NewGenerator(1)
+	h := SampleHierarchy()
 	var holds, fails, splits, matched, gaveUp int
 	for range 40000 {
-		x, y := g.pair()
+		x, y := g.Pair()
 		m := &model{h: h}
 		want := m.isSubtype(x, y)
 		if m.gaveUp() {

@@ -2,7 +2,6 @@ package subtype_test
 
 import (
 	"fmt"
-	"math"
 	"slices"
 	"testing"
 
@@ -12,39 +11,25 @@ import (
 	. "telpher/typetest"
 )
 
-// malformed returns terms that are not valid or not closed.
-func malformed() []api.Type {
-	return []api.Type{
-		Node(-1), Node(7), Node(9, Int()), {Name: "Int"}, {Index: 1}, Node(api.KindAny, Int()), Node(api.KindNever, Int()), Never(), ints(),
-		{Kind: api.KindNamed}, {Kind: api.KindNamed, Name: "Int", Index: 1}, Named("1"), Named("Any"), Named("Box"), Named("Vec", Int(), Int()), Named("Shape", Int()),
-		Box(Union(Variable(0), Int())), Box(Tuple(Variable(0))), Exists(Any(), Box(Tuple(Variable(0)))), Exists(Any(), Box(Exists(Any(), Variable(1)))), Box(Node(12, Variable(0))),
-		Named("Box", Repeat(7, Int())...), Tuple(Repeat(7, Int())...), {Kind: api.KindTuple, Name: "Int"}, Tuple(Never()), Tuple(Union(Variable(0), Int()), Exists(Variable(0), Variable(1))),
-		Node(api.KindUnion), Union(Int()), Node(api.KindExists), Node(api.KindExists, Int()), Node(api.KindExists, Any(), Any(), Any()),
-		Exists(Variable(0), Int()), Exists(Any(), Exists(Variable(0), Int())), Exists(Any(), Node(8)), Exists(Node(8), Any()), Exists(Variable(3), Tuple(Variable(0), Box(Variable(0)))),
-		Variable(-1), Variable(math.MinInt), Variable(math.MaxInt), Box(Variable(-1)), Box(Variable(math.MaxInt)), Tuple(Variable(-1), Box(Variable(2))), Variable(0), Variable(1), Box(Variable(0)), vec(Variable(1)),
-		{Kind: api.KindVar, Name: "Int"}, Node(api.KindVar, Int(), Variable(0)), Tuple(Variable(0), Box(Variable(0))), Tuple(Variable(1), Box(Variable(0)), Variable(0)), Named("Unknown", Variable(0)),
-	}
-}
-
 // oddBranches returns branches that are not valid, and some that are.
 func oddBranches() []api.Branch {
 	l := []api.Branch{
-		Branch(Variable(0)), Branch(Variable(0), Any()), Branch(Tuple(Variable(0)), ints()), Branch(Tuple(Variable(-1), Variable(5)), Int()), Branch(Box(Variable(3)), Int(), Bool()),
-		Branch(Int(), Repeat(9, Variable(0))...), Branch(Tuple(Variable(1), Variable(0), Box(Variable(1))), Variable(0), Node(9)), Branch(Tuple(Repeat(5, Variable(0))...), Exists(ints(), Tuple(Variable(0), Variable(0)))),
-		Branch(Tuple(Variable(0), Box(Variable(0))), Any()), Branch(Tuple(Tuple(Variable(0), Variable(1)), Box(Variable(0)), vec(Tuple())), ints(), Never()),
+		Branch(Variable(0)), Branch(Variable(0), Any()), Branch(Tuple(Variable(0)), Ints()), Branch(Tuple(Variable(-1), Variable(5)), Int()), Branch(Box(Variable(3)), Int(), Bool()),
+		Branch(Int(), Repeat(9, Variable(0))...), Branch(Tuple(Variable(1), Variable(0), Box(Variable(1))), Variable(0), Node(9)), Branch(Tuple(Repeat(5, Variable(0))...), Exists(Ints(), Tuple(Variable(0), Variable(0)))),
+		Branch(Tuple(Variable(0), Box(Variable(0))), Any()), Branch(Tuple(Tuple(Variable(0), Variable(1)), Box(Variable(0)), Vec(Tuple())), Ints(), Never()),
 	}
-	for _, x := range malformed() {
-		l = append(l, Branch(x), Branch(x, ints(), Any()), Branch(Tuple(x, Variable(0), Box(Variable(0))), x), Branch(Tuple(Variable(0), Variable(1), Box(x), vec(Variable(0)), Box(Variable(1))), Any(), x))
+	for _, x := range Malformed() {
+		l = append(l, Branch(x), Branch(x, Ints(), Any()), Branch(Tuple(x, Variable(0), Box(Variable(0))), x), Branch(Tuple(Variable(0), Variable(1), Box(x), Vec(Variable(0)), Box(Variable(1))), Any(), x))
 	}
 	return l
 }
 
 // P0.1, rules 1, 2 and 5: all functions end with some result for all arguments, and change none of them.
 func TestMalformedArguments(t *testing.T) {
-	l, branches := malformed(), oddBranches()
+	l, branches := Malformed(), oddBranches()
 	before, beforeBranches := show(l), show(branches)
 	zero := new(hierarchy.Hierarchy)
-	for i, h := range []*hierarchy.Hierarchy{newHierarchy(), hierarchy.New(), zero, nil} {
+	for i, h := range []*hierarchy.Hierarchy{SampleHierarchy(), hierarchy.New(), zero, nil} {
 		for _, x := range l {
 			for _, y := range l {
 				if subtype.Equivalent(h, x, y) != (subtype.IsSubtype(h, x, y) && subtype.IsSubtype(h, y, x)) {
@@ -66,12 +51,12 @@ func TestMalformedArguments(t *testing.T) {
 	if show(l) != before || show(branches) != beforeBranches {
 		t.Error("an argument was changed")
 	}
-	expectSubtype(t, nil, Int(), ints(), true)
-	expectSubtype(t, zero, Box(Int()), anyBox(), true)
+	expectSubtype(t, nil, Int(), Ints(), true)
+	expectSubtype(t, zero, Box(Int()), AnyBox(), true)
 	// A variable that a pattern does not let be assigned has no term.
 	for _, p := range []api.Branch{Branch(Any(), Int()), Branch(Tuple(Variable(0)), Any()), Branch(Box(Variable(1)), Any()), Branch(Variable(0), Any())} {
 		for _, b := range []api.Branch{Branch(Int()), Branch(Tuple(Int())), Branch(Box(Int()))} {
-			if terms, ok := subtype.Match(newHierarchy(), b, p); ok || terms != nil {
+			if terms, ok := subtype.Match(SampleHierarchy(), b, p); ok || terms != nil {
 				t.Errorf("Match(%v, %v) = %v, %v", b, p, terms, ok)
 			}
 		}
@@ -80,11 +65,11 @@ func TestMalformedArguments(t *testing.T) {
 
 // P0.1, rule 2: valid arguments, the hierarchy among them, are not changed either.
 func TestArgumentsUnchanged(t *testing.T) {
-	h := newHierarchy()
-	g := newGenerator(6)
+	h := SampleHierarchy()
+	g := NewGenerator(6)
 	for range 300 {
-		x, y := g.pair()
-		b := Branch(Tuple(Box(x), Variable(0), vec(Variable(0))), y)
+		x, y := g.Pair()
+		b := Branch(Tuple(Box(x), Variable(0), Vec(Variable(0))), y)
 		before := show([]any{x, y, b})
 		answers(h, []api.Type{x, y})
 		subtype.Match(h, b, b)
@@ -93,19 +78,19 @@ func TestArgumentsUnchanged(t *testing.T) {
 			t.Fatalf("the arguments %v, %v and %v were changed", x, y, b)
 		}
 	}
-	if !h.Equal(newHierarchy()) {
+	if !h.Equal(SampleHierarchy()) {
 		t.Error("the hierarchy was changed")
 	}
 }
 
 // P0.1, rule 2: the terms that Match returns share no memory with the arguments, the hierarchy, another result or one another.
 func TestResultsShareNoMemory(t *testing.T) {
-	h := newHierarchy()
-	declare(h, api.Decl{Name: "Named", Super: list(Exists(ints(), Tuple(Variable(0), Box(Variable(0))))), Concrete: true})
-	argument := Tuple(ints(), Box(anyBox()))
+	h := SampleHierarchy()
+	Declare(h, api.Decl{Name: "Named", Super: List(Exists(Ints(), Tuple(Variable(0), Box(Variable(0))))), Concrete: true})
+	argument := Tuple(Ints(), Box(AnyBox()))
 	open := Named("Map", Variable(0), argument)
-	b := Branch(Tuple(Box(open), vec(open), Box(argument), vec(argument), Named("Named"), Named("Unit", Tuple(argument.Args[:0]...))), ints())
-	p := Branch(Tuple(Box(Variable(0)), vec(Variable(1)), Box(Variable(2)), vec(Variable(3)), list(Variable(4)), Named("Unit", Variable(5))), Repeat(6, Any())...)
+	b := Branch(Tuple(Box(open), Vec(open), Box(argument), Vec(argument), Named("Named"), Named("Unit", Tuple(argument.Args[:0]...))), Ints())
+	p := Branch(Tuple(Box(Variable(0)), Vec(Variable(1)), Box(Variable(2)), Vec(Variable(3)), List(Variable(4)), Named("Unit", Variable(5))), Repeat(6, Any())...)
 	before := show([]any{b, p, h.Decls()})
 	first, ok := subtype.Match(h, b, p)
 	second, _ := subtype.Match(h, b, p)
@@ -138,47 +123,35 @@ func TestNilAndEmpty(t *testing.T) {
 	expectEquivalent(t, x, y)
 	expectEquivalent(t, Exists(Any(), Tuple(api.Type{Kind: api.KindVar, Args: empty}, Box(Variable(0)))), Exists(Any(), Tuple(Variable(0), Box(api.Type{Kind: api.KindVar, Args: empty}))))
 	for _, bounds := range [][]api.Type{nil, empty} {
-		terms, ok := subtype.Match(newHierarchy(), api.Branch{Bounds: bounds, Body: x}, api.Branch{Bounds: bounds, Body: y})
+		terms, ok := subtype.Match(SampleHierarchy(), api.Branch{Bounds: bounds, Body: x}, api.Branch{Bounds: bounds, Body: y})
 		if !ok || len(terms) > 0 {
 			t.Errorf("Match with empty slices = %v, %v", terms, ok)
 		}
 	}
 }
 
-// deepTerms returns terms of which each nests its parts as deep as they may.
-func deepTerms() []api.Type {
-	const levels = 1<<16 - 8
-	inTuple := func(t api.Type) api.Type { return Tuple(t) }
-	return []api.Type{
-		Nest(levels, Box, Variable(0)), Nest(levels, vec, Int()), Nest(levels, inTuple, Variable(0)), Nest(levels, inTuple, Box(Variable(0))),
-		Nest(levels, func(t api.Type) api.Type { return Exists(t, Tuple(Variable(0))) }, Int()), Nest(levels, func(t api.Type) api.Type { return Exists(ints(), t) }, Box(Variable(0))),
-		Nest(levels, func(t api.Type) api.Type { return Union(t, Int()) }, Bool()), Nest(levels, func(t api.Type) api.Type { return Union(Int(), t) }, Bool()),
-	}
-}
-
 // P0.1, rules 1 and 9: terms may nest deep.
 func TestDeepTerms(t *testing.T) {
-	h := newHierarchy()
-	l := deepTerms()
+	h := SampleHierarchy()
+	l := DeepTerms()
 	for i, x := range l {
-		expectUnrelated(t, x, x)
-		for _, y := range []api.Type{x, l[(i+3)%len(l)]} {
-			p := Branch(Tuple(Variable(0), y, Box(Variable(0))), x)
-			subtype.Match(h, Branch(x, y), Branch(x, x))
-			subtype.Match(h, Branch(Tuple(x, Box(Variable(0)), Box(y)), y), p)
-			subtype.BranchIsSubtype(h, Branch(Tuple(x, Variable(0), Box(Variable(0))), y), Exists(Any(), Tuple(Tuple(Int()), Variable(0), Box(Variable(0)))))
-		}
+		y := l[(i+3)%len(l)]
+		expectSubtype(t, h, x, y, false)
+		p := Branch(Tuple(Variable(0), y, Box(Variable(0))), x)
+		subtype.Match(h, Branch(x, y), Branch(x, x))
+		subtype.Match(h, Branch(Tuple(x, Box(Variable(0)), Box(y)), y), p)
+		subtype.BranchIsSubtype(h, Branch(Tuple(x, Variable(0), Box(Variable(0))), y), Exists(Any(), Tuple(Tuple(Int()), Variable(0), Box(Variable(0)))))
 	}
-	if terms, ok := subtype.Match(h, Branch(l[0], ints()), Branch(l[0], Any())); !ok || !slices.EqualFunc(terms, []api.Type{Variable(0)}, Same) {
+	if terms, ok := subtype.Match(h, Branch(l[0], Ints()), Branch(l[0], Any())); !ok || !slices.EqualFunc(terms, []api.Type{Variable(0)}, Same) {
 		t.Errorf("Match of deep arguments = %s, %v", brief(terms), ok)
 	}
-	if terms, ok := subtype.Match(h, Branch(l[3], ints()), Branch(l[3], Any())); !ok || !slices.EqualFunc(terms, []api.Type{Variable(0)}, Same) {
+	if terms, ok := subtype.Match(h, Branch(l[3], Ints()), Branch(l[3], Any())); !ok || !slices.EqualFunc(terms, []api.Type{Variable(0)}, Same) {
 		t.Errorf("Match of deep bodies = %s, %v", brief(terms), ok)
 	}
-	if terms, ok := subtype.Match(h, Branch(l[1]), Branch(list(Variable(0)), Any())); !ok || !slices.EqualFunc(terms, l[1].Args, Same) {
+	if terms, ok := subtype.Match(h, Branch(l[1]), Branch(List(Variable(0)), Any())); !ok || !slices.EqualFunc(terms, l[1].Args, Same) {
 		t.Errorf("Match with a deep argument = %s, %v", brief(terms), ok)
 	}
-	if !subtype.BranchIsSubtype(h, Branch(l[2], ints()), Tuple(Tuple(Any()))) || subtype.BranchIsSubtype(h, Branch(l[2], ints()), Tuple(Tuple(Tuple()))) {
+	if !subtype.BranchIsSubtype(h, Branch(l[2], Ints()), Tuple(Tuple(Any()))) || subtype.BranchIsSubtype(h, Branch(l[2], Ints()), Tuple(Tuple(Tuple()))) {
 		t.Error("BranchIsSubtype of a deep branch")
 	}
 }
@@ -186,12 +159,12 @@ func TestDeepTerms(t *testing.T) {
 // P0.1, rule 1: branches may be wide.
 func TestWideBranches(t *testing.T) {
 	const count = 20000
-	h := newHierarchy()
+	h := SampleHierarchy()
 	b, p := Branch(Tuple()), Branch(Tuple())
 	for i := range count {
-		b.Body.Args = append(b.Body.Args, Variable(i), Box(Variable(i)), Tuple(Variable(i), vec(Variable(i))))
-		p.Body.Args = append(p.Body.Args, Variable(i), Box(Variable(i)), Tuple(Any(), list(Variable(i))))
-		b.Bounds = append(b.Bounds, ints())
+		b.Body.Args = append(b.Body.Args, Variable(i), Box(Variable(i)), Tuple(Variable(i), Vec(Variable(i))))
+		p.Body.Args = append(p.Body.Args, Variable(i), Box(Variable(i)), Tuple(Any(), List(Variable(i))))
+		b.Bounds = append(b.Bounds, Ints())
 		p.Bounds = append(p.Bounds, Any())
 	}
 	if terms, ok := subtype.Match(h, b, p); !ok || len(terms) != count || !Same(terms[count-1], Variable(count-1)) {
@@ -215,10 +188,10 @@ func TestWideBranches(t *testing.T) {
 func TestGrowingSupertypes(t *testing.T) {
 	h := hierarchy.New()
 	thrice := func(t api.Type) api.Type { return Named("Triple", t, t, t) }
-	declare(h, api.Decl{Name: "Triple", Arity: 3}, api.Decl{Name: "Box", Arity: 1}, api.Decl{Name: "D0", Arity: 1})
+	Declare(h, api.Decl{Name: "Triple", Arity: 3}, api.Decl{Name: "Box", Arity: 1}, api.Decl{Name: "D0", Arity: 1})
 	const steps = 50
 	for i := range steps {
-		declare(h, api.Decl{Name: fmt.Sprintf("D%d", i+1), Arity: 1, Super: Named(fmt.Sprintf("D%d", i), thrice(Variable(0)))})
+		Declare(h, api.Decl{Name: fmt.Sprintf("D%d", i+1), Arity: 1, Super: Named(fmt.Sprintf("D%d", i), thrice(Variable(0)))})
 	}
 	top := func(t api.Type) api.Type { return Named(fmt.Sprintf("D%d", steps), t) }
 	bottom := func(t api.Type) api.Type { return Named("D0", t) }
@@ -227,7 +200,7 @@ func TestGrowingSupertypes(t *testing.T) {
 	expectSubtype(t, h, top(Int()), one, true)
 	expectSubtype(t, h, Exists(Any(), top(Variable(0))), one, true)
 	expectSubtype(t, h, top(Int()), Exists(Exists(Any(), thrice(Variable(0))), bottom(Variable(0))), true)
-	expectSubtype(t, h, top(Int()), Exists(anyBox(), bottom(Variable(0))), false)
+	expectSubtype(t, h, top(Int()), Exists(AnyBox(), bottom(Variable(0))), false)
 	expectSubtype(t, h, Exists(Any(), top(Variable(0))), Exists(thrice(Int()), bottom(Variable(0))), false)
 	expectSubtype(t, h, Exists(Any(), Tuple(top(Variable(0)), top(Variable(0)))), two, true)
 	expectSubtype(t, h, Tuple(top(Int()), top(Int())), two, true)
@@ -247,7 +220,7 @@ func TestGrowingSupertypes(t *testing.T) {
 // P0.1, rule 1, and P5.4: bounds inside one another, with several covariant occurrences each, allow
 // for more orders of splits than can be tried.
 func TestNestedSplits(t *testing.T) {
-	h := newHierarchy()
+	h := SampleHierarchy()
 	nested := func(innermost api.Type) api.Type {
 		return Nest(8, func(t api.Type) api.Type {
 			return Exists(t, Tuple(Variable(0), Variable(0), Variable(0), Box(Variable(0))))
@@ -275,12 +248,12 @@ func TestNestedSplits(t *testing.T) {
 
 // P0.1, rule 1: closed arguments inside one another are compared once, and not at each level in both directions again.
 func TestNestedArguments(t *testing.T) {
-	h := newHierarchy()
+	h := SampleHierarchy()
 	x, y := Int(), Int()
 	for range 3 {
 		pair := Union(Bool(), Box(x))
-		x = Tuple(pair, Union(circle(), Box(x)), ints(), ints())
-		y = Tuple(Union(Box(y), Bool()), Union(Box(y), circle()), ints(), ints())
+		x = Tuple(pair, Union(Circle(), Box(x)), Ints(), Ints())
+		y = Tuple(Union(Box(y), Bool()), Union(Box(y), Circle()), Ints(), Ints())
 	}
 	expectSubtype(t, h, Box(x), Box(y), true)
 	expectSubtype(t, h, Box(x), Box(Tuple(y)), false)
@@ -291,7 +264,7 @@ func TestNestedArguments(t *testing.T) {
 	}
 	for count := range 7 {
 		wide := Box(Tuple(Repeat(count, many)...))
-		expectSubtype(t, h, wide, anyBox(), true)
+		expectSubtype(t, h, wide, AnyBox(), true)
 		expectSubtype(t, h, wide, Box(Tuple()), count == 0)
 	}
 }

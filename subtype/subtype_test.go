@@ -12,12 +12,12 @@ import (
 
 // P5.4: the examples of the chapter.
 func TestExamples(t *testing.T) {
-	expectBelow(t, Box(Int()), anyBox())
+	expectBelow(t, Box(Int()), AnyBox())
 	expectUnrelated(t, Box(Int()), Box(Any()))
-	s := Exists(ints(), Tuple(Variable(0), Box(Variable(0))))
-	expectBelow(t, s, Union(Tuple(Int(), anyBox()), Tuple(Bool(), anyBox())))
+	s := Exists(Ints(), Tuple(Variable(0), Box(Variable(0))))
+	expectBelow(t, s, Union(Tuple(Int(), AnyBox()), Tuple(Bool(), AnyBox())))
 	b := only(t, s)
-	if !subtype.BranchIsSubtype(newHierarchy(), b, Union(Tuple(Int(), anyBox()), Tuple(Bool(), anyBox()))) {
+	if !subtype.BranchIsSubtype(SampleHierarchy(), b, Union(Tuple(Int(), AnyBox()), Tuple(Bool(), AnyBox()))) {
 		t.Error("BranchIsSubtype does not split")
 	}
 }
@@ -27,51 +27,51 @@ func TestOrdinaryTypes(t *testing.T) {
 	expectBelow(t, Int(), Any())
 	expectBelow(t, Never(), Int())
 	expectBelow(t, Never(), Any())
-	expectBelow(t, circle(), shape())
-	expectBelow(t, Named("Text"), list(Int()))
+	expectBelow(t, Circle(), Shape())
+	expectBelow(t, Named("Text"), List(Int()))
 	expectBelow(t, Tuple(), Any())
-	expectBelow(t, Named("Ring", ints()), list(Box(ints())))
+	expectBelow(t, Named("Ring", Ints()), List(Box(Ints())))
 	expectUnrelated(t, Int(), Bool())
 	expectUnrelated(t, Int(), Tuple(Int()))
 	expectUnrelated(t, Tuple(Int()), Tuple(Int(), Int()))
-	expectUnrelated(t, vec(Int()), list(Any()))
-	expectUnrelated(t, list(Int()), vec(Any()))
-	expectBelow(t, Exists(circle(), Box(Variable(0))), Exists(shape(), Box(Variable(0))))
-	expectBelow(t, Exists(shape(), Box(Variable(0))), anyBox())
-	expectBelow(t, Exists(Any(), Box(Box(Variable(0)))), anyBox())
+	expectUnrelated(t, Vec(Int()), List(Any()))
+	expectUnrelated(t, List(Int()), Vec(Any()))
+	expectBelow(t, Exists(Circle(), Box(Variable(0))), Exists(Shape(), Box(Variable(0))))
+	expectBelow(t, Exists(Shape(), Box(Variable(0))), AnyBox())
+	expectBelow(t, Exists(Any(), Box(Box(Variable(0)))), AnyBox())
 	expectBelow(t, Exists(Int(), Box(Variable(0))), Union(Exists(Int(), Box(Variable(0))), Exists(Bool(), Box(Variable(0)))))
-	expectBelow(t, Exists(Any(), Tuple(Box(Variable(0)), Box(Variable(0)))), Tuple(anyBox(), anyBox()))
-	expectEquivalent(t, Exists(shape(), Variable(0)), shape())
+	expectBelow(t, Exists(Any(), Tuple(Box(Variable(0)), Box(Variable(0)))), Tuple(AnyBox(), AnyBox()))
+	expectEquivalent(t, Exists(Shape(), Variable(0)), Shape())
 	expectEquivalent(t, Exists(Any(), Int()), Int())
 	expectEquivalent(t, Exists(Int(), Tuple(Variable(0), Variable(0))), Tuple(Int(), Int()))
 	expectEquivalent(t, Exists(Any(), Exists(Any(), Named("Map", Variable(0), Variable(1)))), Exists(Any(), Exists(Any(), Named("Map", Variable(1), Variable(0)))))
-	expectEquivalent(t, Tuple(anyBox(), anyBox()), Exists(Any(), Exists(Any(), Tuple(Box(Variable(0)), Box(Variable(1))))))
+	expectEquivalent(t, Tuple(AnyBox(), AnyBox()), Exists(Any(), Exists(Any(), Tuple(Box(Variable(0)), Box(Variable(1))))))
 	expectEquivalent(t, Never(), Tuple(Int(), Never()))
 }
 
 // P5.4: unions on both sides: each branch of the first type needs a branch of the second one.
 func TestUnions(t *testing.T) {
-	square := Named("Square")
-	expectBelow(t, Int(), ints())
-	expectBelow(t, Bool(), ints())
-	expectBelow(t, ints(), Union(circle(), Bool(), Int()))
-	expectBelow(t, ints(), Any())
-	expectBelow(t, Union(circle(), square), shape())
-	expectBelow(t, Union(circle(), Int()), Union(Int(), shape()))
-	expectUnrelated(t, Union(circle(), Int()), Union(circle(), Bool()))
-	expectUnrelated(t, Union(circle(), Int()), shape())
-	expectEquivalent(t, ints(), Union(Int(), Bool()))
+	square := Square()
+	expectBelow(t, Int(), Ints())
+	expectBelow(t, Bool(), Ints())
+	expectBelow(t, Ints(), Union(Circle(), Bool(), Int()))
+	expectBelow(t, Ints(), Any())
+	expectBelow(t, Union(Circle(), square), Shape())
+	expectBelow(t, Union(Circle(), Int()), Union(Int(), Shape()))
+	expectUnrelated(t, Union(Circle(), Int()), Union(Circle(), Bool()))
+	expectUnrelated(t, Union(Circle(), Int()), Shape())
+	expectEquivalent(t, Ints(), Union(Int(), Bool()))
 	expectEquivalent(t, Union(Int(), Int()), Int())
 	expectEquivalent(t, Union(Never(), Int()), Int())
-	expectEquivalent(t, Union(Int(), Union(circle(), Any())), Any())
-	expectEquivalent(t, Union(circle(), shape()), shape())
-	expectEquivalent(t, Union(Box(Int()), anyBox()), anyBox())
-	expectEquivalent(t, Tuple(ints(), Int()), Union(Tuple(Int(), Int()), Tuple(Bool(), Int())))
-	expectBelow(t, Tuple(ints(), ints()), Tuple(ints(), Any()))
-	expectBelow(t, Union(Tuple(Int(), Bool()), Tuple(Bool(), Int())), Tuple(ints(), ints()))
-	expectUnrelated(t, Box(ints()), Union(Box(Int()), Box(Bool())))
-	expectUnrelated(t, Box(Int()), Box(ints()))
-	expectBelow(t, Exists(ints(), Tuple(Variable(0), Variable(0))), Union(Tuple(Int(), ints()), Tuple(Bool(), ints()), Int()))
+	expectEquivalent(t, Union(Int(), Union(Circle(), Any())), Any())
+	expectEquivalent(t, Union(Circle(), Shape()), Shape())
+	expectEquivalent(t, Union(Box(Int()), AnyBox()), AnyBox())
+	expectEquivalent(t, Tuple(Ints(), Int()), Union(Tuple(Int(), Int()), Tuple(Bool(), Int())))
+	expectBelow(t, Tuple(Ints(), Ints()), Tuple(Ints(), Any()))
+	expectBelow(t, Union(Tuple(Int(), Bool()), Tuple(Bool(), Int())), Tuple(Ints(), Ints()))
+	expectUnrelated(t, Box(Ints()), Union(Box(Int()), Box(Bool())))
+	expectUnrelated(t, Box(Int()), Box(Ints()))
+	expectBelow(t, Exists(Ints(), Tuple(Variable(0), Variable(0))), Union(Tuple(Int(), Ints()), Tuple(Bool(), Ints()), Int()))
 }
 
 // splitting is a type whose covariant occurrences have to be split, together with types above it.
@@ -82,31 +82,31 @@ type splitting struct {
 }
 
 func splittings() []splitting {
-	boxed := func(elements ...api.Type) api.Type { return Tuple(append(elements, anyBox())...) }
-	one := Exists(ints(), Tuple(Variable(0), Box(Variable(0))))
-	two := Exists(ints(), Tuple(Variable(0), Variable(0), Box(Variable(0))))
-	pair := Exists(ints(), Exists(Union(shape(), Int()), Tuple(Variable(1), Variable(0), Box(Variable(0)), Box(Variable(1)))))
+	boxed := func(elements ...api.Type) api.Type { return Tuple(append(elements, AnyBox())...) }
+	one := Exists(Ints(), Tuple(Variable(0), Box(Variable(0))))
+	two := Exists(Ints(), Tuple(Variable(0), Variable(0), Box(Variable(0))))
+	pair := Exists(Ints(), Exists(Union(Shape(), Int()), Tuple(Variable(1), Variable(0), Box(Variable(0)), Box(Variable(1)))))
 	// The bound has a covariant occurrence itself.
 	deep := Exists(one, Tuple(Variable(0), Box(Variable(0))))
 	single := Exists(Exists(Int(), Tuple(Variable(0), Box(Variable(0)))), Tuple(Variable(0), Box(Variable(0))))
 	empty := Exists(Never(), Tuple(Variable(0), Box(Variable(0))))
 	deepEmpty := Exists(empty, Tuple(Variable(0), Box(Variable(0))))
 	return []splitting{
-		{one, []api.Type{boxed(ints()), Union(boxed(Int()), boxed(Bool())), Union(boxed(Int()), Tuple(ints(), Any())), Exists(Any(), Tuple(Variable(0), Box(Variable(0))))}, []api.Type{boxed(Int()), boxed(Bool()), Never(), Union(boxed(Int()), boxed(circle())), Tuple(Int(), Any())}},
-		{two, []api.Type{boxed(ints(), ints()), Union(boxed(Int(), Any()), boxed(Bool(), ints())), Union(boxed(Int(), Int()), boxed(Bool(), Bool()), boxed(Int(), Bool()), boxed(Bool(), Int()))}, []api.Type{Union(boxed(Int(), Int()), boxed(Bool(), Bool())), Union(boxed(Int(), Int()), boxed(Bool(), Bool()), boxed(Int(), Bool()))}},
-		{pair, []api.Type{boxed(Any(), Any(), anyBox()), Union(boxed(Int(), shape(), anyBox()), boxed(Any(), Int(), anyBox()), boxed(Bool(), shape(), Any()))}, []api.Type{Union(boxed(Int(), circle(), anyBox()), boxed(Any(), Int(), anyBox())), Union(boxed(Int(), shape(), anyBox()), boxed(Any(), Int(), anyBox()))}},
-		{deep, []api.Type{boxed(boxed(ints())), Union(boxed(boxed(Int())), boxed(boxed(Bool()))), boxed(one), boxed(Tuple(Any(), anyBox()))}, []api.Type{boxed(boxed(Int())), Union(boxed(boxed(Int())), boxed(Int())), Tuple(ints(), Any())}},
+		{one, []api.Type{boxed(Ints()), Union(boxed(Int()), boxed(Bool())), Union(boxed(Int()), Tuple(Ints(), Any())), Exists(Any(), Tuple(Variable(0), Box(Variable(0))))}, []api.Type{boxed(Int()), boxed(Bool()), Never(), Union(boxed(Int()), boxed(Circle())), Tuple(Int(), Any())}},
+		{two, []api.Type{boxed(Ints(), Ints()), Union(boxed(Int(), Any()), boxed(Bool(), Ints())), Union(boxed(Int(), Int()), boxed(Bool(), Bool()), boxed(Int(), Bool()), boxed(Bool(), Int()))}, []api.Type{Union(boxed(Int(), Int()), boxed(Bool(), Bool())), Union(boxed(Int(), Int()), boxed(Bool(), Bool()), boxed(Int(), Bool()))}},
+		{pair, []api.Type{boxed(Any(), Any(), AnyBox()), Union(boxed(Int(), Shape(), AnyBox()), boxed(Any(), Int(), AnyBox()), boxed(Bool(), Shape(), Any()))}, []api.Type{Union(boxed(Int(), Circle(), AnyBox()), boxed(Any(), Int(), AnyBox())), Union(boxed(Int(), Shape(), AnyBox()), boxed(Any(), Int(), AnyBox()))}},
+		{deep, []api.Type{boxed(boxed(Ints())), Union(boxed(boxed(Int())), boxed(boxed(Bool()))), boxed(one), boxed(Tuple(Any(), AnyBox()))}, []api.Type{boxed(boxed(Int())), Union(boxed(boxed(Int())), boxed(Int())), Tuple(Ints(), Any())}},
 		{single, []api.Type{boxed(boxed(Int())), boxed(Exists(Int(), Tuple(Variable(0), Box(Variable(0)))))}, []api.Type{boxed(boxed(Bool())), boxed(Int())}},
 		{empty, []api.Type{Never(), Int(), Tuple(Int()), boxed(Any())}, nil},
 		{deepEmpty, []api.Type{Never(), Int(), boxed(Any())}, nil},
 		{Exists(Union(Int(), empty), Tuple(Variable(0), Box(Variable(0)))), []api.Type{boxed(Int())}, []api.Type{Never(), boxed(Bool())}},
-		{Tuple(one, Tuple(one)), []api.Type{Tuple(boxed(ints()), Any()), Union(Tuple(boxed(Int()), Tuple(boxed(Bool()))), Tuple(boxed(Any()), Tuple(boxed(Int()))), Tuple(boxed(Bool()), Tuple(Tuple(Bool(), Any()))))}, []api.Type{Union(Tuple(boxed(Int()), Tuple(boxed(Bool()))), Tuple(boxed(Any()), Tuple(boxed(Int()))))}},
+		{Tuple(one, Tuple(one)), []api.Type{Tuple(boxed(Ints()), Any()), Union(Tuple(boxed(Int()), Tuple(boxed(Bool()))), Tuple(boxed(Any()), Tuple(boxed(Int()))), Tuple(boxed(Bool()), Tuple(Tuple(Bool(), Any()))))}, []api.Type{Union(Tuple(boxed(Int()), Tuple(boxed(Bool()))), Tuple(boxed(Any()), Tuple(boxed(Int()))))}},
 	}
 }
 
 // P5.4: a branch is a subtype if all branches of a split are.
 func TestSplits(t *testing.T) {
-	h := newHierarchy()
+	h := SampleHierarchy()
 	for _, s := range splittings() {
 		for _, above := range s.above {
 			expectSubtype(t, h, s.t, above, true)
@@ -118,34 +118,34 @@ func TestSplits(t *testing.T) {
 		}
 	}
 	// An occurrence in an argument is not split.
-	expectUnrelated(t, Exists(ints(), Box(Variable(0))), Union(Box(Int()), Box(Bool()), circle()))
+	expectUnrelated(t, Exists(Ints(), Box(Variable(0))), Union(Box(Int()), Box(Bool()), Circle()))
 	expectSubtype(t, h, Exists(Never(), Box(Variable(0))), Never(), false)
 }
 
 // P5.4: a split may spoil the match of the variable itself, so that some occurrences are to be split and others not.
 func TestSplitsThatSpoil(t *testing.T) {
-	h := newHierarchy()
+	h := SampleHierarchy()
 	kept := func(first, second, third api.Type) api.Type {
 		return Exists(Any(), Tuple(first, second, Box(Variable(0)), third))
 	}
-	s := Exists(ints(), Tuple(Variable(0), Variable(0), Box(Variable(0)), Int()))
+	s := Exists(Ints(), Tuple(Variable(0), Variable(0), Box(Variable(0)), Int()))
 	expectSubtype(t, h, s, kept(Variable(0), Variable(0), Any()), true)
 	expectSubtype(t, h, s, Union(kept(Variable(0), Int(), Any()), kept(Variable(0), Bool(), Any())), true)
 	expectSubtype(t, h, s, Union(kept(Int(), Variable(0), Any()), kept(Bool(), Variable(0), Any())), true)
 	expectSubtype(t, h, s, Union(kept(Variable(0), Int(), Any()), kept(Bool(), Variable(0), Any())), false)
 	// After the split of the second occurrence, that of the first one is needed in one of the branches and spoils the other.
 	expectSubtype(t, h, s, Union(kept(Variable(0), Int(), Any()), kept(Int(), Bool(), Any()), kept(Bool(), Bool(), Any())), true)
-	expectSubtype(t, h, s, Union(kept(Variable(0), Int(), Any()), kept(Int(), Bool(), Any()), kept(circle(), Bool(), Any())), false)
+	expectSubtype(t, h, s, Union(kept(Variable(0), Int(), Any()), kept(Int(), Bool(), Any()), kept(Circle(), Bool(), Any())), false)
 	// Only the split of the second occurrence helps, which the terms assigned to the second variable show.
-	five := Exists(ints(), Tuple(Variable(0), Variable(0), Box(Variable(0)), Box(Int()), Box(Bool())))
+	five := Exists(Ints(), Tuple(Variable(0), Variable(0), Box(Variable(0)), Box(Int()), Box(Bool())))
 	two := func(fourth, fifth api.Type) api.Type {
 		return Exists(Any(), Exists(Any(), Tuple(Variable(1), Variable(0), Box(Variable(1)), fourth, fifth)))
 	}
 	expectSubtype(t, h, five, Union(two(Box(Variable(0)), Any()), two(Any(), Box(Variable(0)))), true)
 	expectSubtype(t, h, five, Union(two(Box(Variable(0)), Any()), two(Box(Variable(0)), Any())), false)
-	expectSubtype(t, h, five, Union(two(Box(Variable(0)), Any()), two(Any(), Box(circle()))), false)
+	expectSubtype(t, h, five, Union(two(Box(Variable(0)), Any()), two(Any(), Box(Circle()))), false)
 	// Each branch of t needs a split that spoils the other one, once the first occurrence has been split.
-	three := Exists(ints(), Exists(Box(Int()), Exists(Box(Bool()), Tuple(Variable(2), Variable(1), Variable(0), Box(Variable(2)), Box(Variable(1)), Box(Variable(0))))))
+	three := Exists(Ints(), Exists(Box(Int()), Exists(Box(Bool()), Tuple(Variable(2), Variable(1), Variable(0), Box(Variable(2)), Box(Variable(1)), Box(Variable(0))))))
 	first := Exists(Any(), Exists(Any(), Tuple(Variable(1), Box(Variable(1)), Variable(0), Any(), Any(), Box(Variable(0)))))
 	second := Exists(Any(), Exists(Any(), Tuple(Variable(1), Variable(0), Box(Variable(1)), Any(), Box(Variable(0)), Any())))
 	expectSubtype(t, h, three, Union(first, second), true)
@@ -155,38 +155,38 @@ func TestSplitsThatSpoil(t *testing.T) {
 
 // P5.4: what a variable of a branch of t is assigned may be known only after a split.
 func TestSplitsThatAssign(t *testing.T) {
-	h := newHierarchy()
+	h := SampleHierarchy()
 	inFirst := func(bound, second api.Type) api.Type {
 		return Exists(bound, Tuple(second, Variable(0), Box(Variable(0))))
 	}
 	pattern := Exists(Any(), Tuple(Variable(0), Box(Variable(0)), Any()))
 	expectSubtype(t, h, inFirst(Box(Int()), Int()), pattern, true)
-	expectSubtype(t, h, inFirst(Box(ints()), Bool()), pattern, true)
-	expectSubtype(t, h, inFirst(Box(ints()), Tuple()), pattern, false)
-	expectSubtype(t, h, inFirst(Union(Box(Int()), Box(ints())), Int()), pattern, true)
-	expectSubtype(t, h, inFirst(Union(Box(Bool()), Box(ints())), Int()), pattern, false)
+	expectSubtype(t, h, inFirst(Box(Ints()), Bool()), pattern, true)
+	expectSubtype(t, h, inFirst(Box(Ints()), Tuple()), pattern, false)
+	expectSubtype(t, h, inFirst(Union(Box(Int()), Box(Ints())), Int()), pattern, true)
+	expectSubtype(t, h, inFirst(Union(Box(Bool()), Box(Ints())), Int()), pattern, false)
 	expectSubtype(t, h, inFirst(Exists(Int(), Box(Variable(0))), Int()), pattern, false)
 	// The part below the variable has to be split as well, because of another branch of t.
-	s := Exists(ints(), Exists(Union(Box(Int()), Box(Bool())), Tuple(Variable(1), Variable(0), Box(Variable(0)), Box(Variable(1)))))
+	s := Exists(Ints(), Exists(Union(Box(Int()), Box(Bool())), Tuple(Variable(1), Variable(0), Box(Variable(0)), Box(Variable(1)))))
 	two := Exists(Any(), Tuple(Variable(0), Box(Variable(0)), Any(), Any()))
 	other := func(first, second api.Type) api.Type { return Tuple(first, second, Any(), Any()) }
 	expectSubtype(t, h, s, Union(two, other(Int(), Box(Bool())), other(Bool(), Box(Int()))), true)
-	expectSubtype(t, h, s, Union(two, other(Int(), Box(Bool())), other(Bool(), Box(ints()))), false)
+	expectSubtype(t, h, s, Union(two, other(Int(), Box(Bool())), other(Bool(), Box(Ints()))), false)
 	expectSubtype(t, h, s, Union(two, other(Int(), Any())), false)
 	// An assigned term that is not closed, below which another part stands, does not keep from a split.
 	open := func(first api.Type) api.Type {
-		return Exists(ints(), Exists(Any(), Tuple(first, Box(list(Variable(0))), Variable(1), Box(Variable(1)))))
+		return Exists(Ints(), Exists(Any(), Tuple(first, Box(List(Variable(0))), Variable(1), Box(Variable(1)))))
 	}
 	third := func(third api.Type) api.Type {
 		return Exists(Any(), Tuple(Variable(0), Box(Variable(0)), third, Any()))
 	}
-	expectSubtype(t, h, open(vec(Variable(0))), Union(third(Int()), third(Bool())), true)
-	expectSubtype(t, h, open(vec(Int())), Union(third(Int()), third(Bool())), false)
+	expectSubtype(t, h, open(Vec(Variable(0))), Union(third(Int()), third(Bool())), true)
+	expectSubtype(t, h, open(Vec(Int())), Union(third(Int()), third(Bool())), false)
 }
 
 // P5.4: the result is false if Expand fails for the second type, or for the first one of IsSubtype.
 func TestExpandFails(t *testing.T) {
-	h := newHierarchy()
+	h := SampleHierarchy()
 	many := Union()
 	for range 33 {
 		many.Args = append(many.Args, Int())
@@ -194,11 +194,11 @@ func TestExpandFails(t *testing.T) {
 	tooMany := Tuple(Union(Repeat(6, Int())...), Union(Repeat(6, Int())...))
 	vars := Tuple()
 	for range 7 {
-		vars.Args = append(vars.Args, anyBox())
+		vars.Args = append(vars.Args, AnyBox())
 	}
 	vars = Tuple(Tuple(vars.Args[:4]...), Tuple(vars.Args[4:]...))
 	covariant := Exists(Any(), Tuple(Box(Variable(0)), Variable(0), Variable(0), Variable(0), Variable(0)))
-	wideBound := Exists(Union(circle(), Int(), Bool(), Named("Text"), Named("Square")), Box(Variable(0)))
+	wideBound := Exists(Union(Circle(), Int(), Bool(), Named("Text"), Square()), Box(Variable(0)))
 	failing := []api.Type{many, tooMany, vars, covariant, wideBound, Variable(0), Box(Variable(0)), Exists(Any(), Variable(1)), Union(Int()), Node(9), {Kind: api.KindAny, Name: "Any"}, Named("Box", Repeat(7, Int())...), Nest(12, Box, Int())}
 	for _, x := range failing {
 		if _, err := dnf.Expand(x); err == api.OK {
@@ -217,7 +217,7 @@ func TestExpandFails(t *testing.T) {
 	// An argument that cannot be expanded is equivalent to nothing, but an assigned term may be one.
 	for _, x := range []api.Type{tooMany, vars, covariant} {
 		expectSubtype(t, h, Box(x), Box(x), false)
-		expectSubtype(t, h, Box(x), anyBox(), true)
+		expectSubtype(t, h, Box(x), AnyBox(), true)
 		expectSubtype(t, h, Tuple(Box(x), Box(x)), Exists(Any(), Tuple(Box(Variable(0)), Box(Variable(0)))), false)
 		expectSubtype(t, h, Tuple(Int(), Box(x)), Exists(Any(), Tuple(Variable(0), Box(Variable(0)))), false)
 	}
@@ -225,41 +225,41 @@ func TestExpandFails(t *testing.T) {
 
 // P5.4: no limits apply to parts, to splits and to assigned terms.
 func TestNoLimits(t *testing.T) {
-	h := newHierarchy()
+	h := SampleHierarchy()
 	// The bound has 6 variables, so that the part has 12 of them, and so have the branches of splits.
 	bound := Nest(6, func(t api.Type) api.Type { return Exists(Any(), t) }, Named("Six", Variable(5), Variable(4), Variable(3), Variable(2), Variable(1), Variable(0)))
-	low := Exists(bound, Exists(bound, Tuple(Tuple(Variable(1), Variable(0)), Box(Any()), vec(Variable(1)), vec(Variable(0)))))
+	low := Exists(bound, Exists(bound, Tuple(Tuple(Variable(1), Variable(0)), Box(Any()), Vec(Variable(1)), Vec(Variable(0)))))
 	high := Exists(Any(), Tuple(Variable(0), Box(Variable(0)), Any(), Any()))
 	expectSubtype(t, h, low, high, true)
 	expectSubtype(t, h, low, Tuple(Tuple(bound, Any()), Any(), Any(), Any()), true)
 	expectSubtype(t, h, low, Tuple(Tuple(Any(), Box(bound)), Any(), Any(), Any()), false)
 	// The split of one of 3 occurrences leaves 5 of them.
-	three := Exists(ints(), Tuple(Variable(0), Variable(0), Variable(0), Box(Variable(0))))
+	three := Exists(Ints(), Tuple(Variable(0), Variable(0), Variable(0), Box(Variable(0))))
 	nested := Exists(three, Tuple(Variable(0), Variable(0), Variable(0), Box(Variable(0))))
-	expectSubtype(t, h, nested, Tuple(Any(), three, Any(), anyBox()), true)
-	expectSubtype(t, h, nested, Tuple(Tuple(Any(), Int(), Any(), Any()), three, Tuple(Any(), ints(), Any(), anyBox()), anyBox()), false)
-	expectSubtype(t, h, nested, Tuple(Tuple(ints(), ints(), ints(), Any()), Any(), Tuple(Any(), ints(), Any(), anyBox()), anyBox()), true)
-	expectSubtype(t, h, nested, Tuple(three, Any(), Tuple(Any(), Int(), Any(), anyBox()), anyBox()), false)
+	expectSubtype(t, h, nested, Tuple(Any(), three, Any(), AnyBox()), true)
+	expectSubtype(t, h, nested, Tuple(Tuple(Any(), Int(), Any(), Any()), three, Tuple(Any(), Ints(), Any(), AnyBox()), AnyBox()), false)
+	expectSubtype(t, h, nested, Tuple(Tuple(Ints(), Ints(), Ints(), Any()), Any(), Tuple(Any(), Ints(), Any(), AnyBox()), AnyBox()), true)
+	expectSubtype(t, h, nested, Tuple(three, Any(), Tuple(Any(), Int(), Any(), AnyBox()), AnyBox()), false)
 	// A part may have more branches than a type.
-	many := Tuple(Union(Int(), circle()), Union(Int(), circle()), Union(Int(), circle()))
-	parts := Exists(Union(Int(), circle(), Bool(), Named("Square")), Tuple(Tuple(Variable(0), Variable(0), Variable(0)), Box(Variable(0)), Box(many)))
-	wide := Tuple(Repeat(3, Union(Int(), shape(), Bool()))...)
+	many := Tuple(Union(Int(), Circle()), Union(Int(), Circle()), Union(Int(), Circle()))
+	parts := Exists(Union(Int(), Circle(), Bool(), Square()), Tuple(Tuple(Variable(0), Variable(0), Variable(0)), Box(Variable(0)), Box(many)))
+	wide := Tuple(Repeat(3, Union(Int(), Shape(), Bool()))...)
 	expectSubtype(t, h, parts, Exists(Any(), Tuple(Variable(0), Any(), Box(Variable(0)))), false)
 	parts.Args[1].Args[2] = Box(wide)
 	expectSubtype(t, h, parts, Exists(Any(), Tuple(Variable(0), Any(), Box(Variable(0)))), true)
 	// And so may an argument of a declared supertype.
-	declare(h, api.Decl{Name: "Wide", Super: list(Tuple(many, many, Any()))})
+	Declare(h, api.Decl{Name: "Wide", Super: List(Tuple(many, many, Any()))})
 	if _, err := dnf.Expand(Tuple(many, many, Any())); err != api.ErrTooLong {
 		t.Fatal("the argument has too few branches")
 	}
-	expectSubtype(t, h, Named("Wide"), Exists(Tuple(Tuple(Any(), Union(Int(), shape()), Any()), Any(), Any()), list(Variable(0))), true)
-	expectSubtype(t, h, Named("Wide"), Exists(Tuple(Tuple(Any(), Int(), Any()), Any(), Any()), list(Variable(0))), false)
-	expectSubtype(t, h, Named("Wide"), list(Tuple(many, many, Any())), false)
+	expectSubtype(t, h, Named("Wide"), Exists(Tuple(Tuple(Any(), Union(Int(), Shape()), Any()), Any(), Any()), List(Variable(0))), true)
+	expectSubtype(t, h, Named("Wide"), Exists(Tuple(Tuple(Any(), Int(), Any()), Any(), Any()), List(Variable(0))), false)
+	expectSubtype(t, h, Named("Wide"), List(Tuple(many, many, Any())), false)
 }
 
 // P5.4: BranchIsSubtype looks at one branch, and Equivalent at both directions.
 func TestBranchIsSubtype(t *testing.T) {
-	h := newHierarchy()
+	h := SampleHierarchy()
 	for _, s := range splittings() {
 		for _, y := range slices.Concat(s.above, s.not) {
 			l, _ := dnf.Expand(s.t)
@@ -270,11 +270,11 @@ func TestBranchIsSubtype(t *testing.T) {
 			}
 		}
 	}
-	x := Union(Int(), Tuple(shape()))
+	x := Union(Int(), Tuple(Shape()))
 	for _, c := range []struct {
 		b    api.Branch
 		want bool
-	}{{Branch(Int()), true}, {Branch(Bool()), false}, {Branch(Tuple(circle())), true}, {Branch(Tuple(Variable(0)), circle()), true}, {Branch(Tuple(Variable(0)), ints()), false}, {Branch(Any()), false}} {
+	}{{Branch(Int()), true}, {Branch(Bool()), false}, {Branch(Tuple(Circle())), true}, {Branch(Tuple(Variable(0)), Circle()), true}, {Branch(Tuple(Variable(0)), Ints()), false}, {Branch(Any()), false}} {
 		if subtype.BranchIsSubtype(h, c.b, x) != c.want {
 			t.Errorf("BranchIsSubtype(%v, %v) is not %v", c.b, x, c.want)
 		}

@@ -1,4 +1,4 @@
-// Package typetest makes and compares type terms in the tests of all layers. The program does not use it.
+// Package typetest makes, compares and writes type terms in the tests of all layers. The program does not use it.
 package typetest
 
 import (
@@ -77,4 +77,19 @@ func Scribble(t api.Type) {
 	for i := range room {
 		room[i] = api.Type{Kind: 1000, Name: "scribble"}
 	}
+}
+
+// ShareMemory reports whether two slices in these terms begin in the same place.
+func ShareMemory(l ...api.Type) bool { return shareWith(map[*api.Type]bool{}, l) }
+
+func shareWith(known map[*api.Type]bool, l []api.Type) bool {
+	for _, t := range l {
+		if len(t.Args) > 0 {
+			if known[&t.Args[0]] || shareWith(known, t.Args) {
+				return true
+			}
+			known[&t.Args[0]] = true
+		}
+	}
+	return false
 }
